@@ -1,0 +1,858 @@
+package value
+
+import (
+	"encoding/binary"
+	"fmt"
+	"maps"
+	"math"
+	"reflect"
+	"slices"
+	"strings"
+	"testing"
+
+	"chamberlain/api"
+)
+
+func truth(b bool) api.Value       { return api.Value{Kind: api.Bool, Bool: b} }
+func num(n int64) api.Value        { return api.Value{Kind: api.Int, Int: n} }
+func text(s string) api.Value      { return api.Value{Kind: api.Text, Text: s} }
+func set(l ...api.Value) api.Value { return api.Value{Kind: api.Set, Items: l} }
+
+func ref(typ, id string) api.Value {
+	return api.Value{Kind: api.Ref, Uid: api.Uid{Type: typ, Id: id}}
+}
+
+// record has the names that are told with blanks between them.
+func record(names string, l ...api.Value) api.Value {
+	return api.Value{Kind: api.Record, Names: strings.Fields(names), Items: l}
+}
+
+// all has all fields, whatever its kind.
+func all(kind int, n int64, s string, l ...api.Value) api.Value {
+	return api.Value{Kind: kind, Bool: n > 1, Int: n, Text: s, Uid: api.Uid{Type: s, Id: s}, Items: l, Names: make([]string, len(l))}
+}
+
+// tower is a value of that Depth: sets and records by turns, around the innermost one.
+func tower(depth int, innermost api.Value) api.Value {
+	v := innermost
+	for i := range depth - 1 {
+		if i%2 == 0 {
+			v = set(v)
+		} else {
+			v = record("a", v)
+		}
+	}
+	return v
+}
+
+// numbers are n numbers, the greatest first.
+func numbers(n int) []api.Value {
+	var l []api.Value
+	for i := range n {
+		l = append(l, num(int64(n-i)))
+	}
+	return l
+}
+
+// names are n names, the last one first.
+func names(n int) []string {
+	var l []string
+	for i := range n {
+		l = append(l, fmt.Sprintf("n%06d", n-i))
+	}
+	return l
+}
+
+// clone is the same value in other memory, to the last field.
+func clone(v api.Value) api.Value {
+	v.Names = slices.Clone(v.Names)
+	v.Items = slices.Clone(v.Items)
+	for i := range v.Items {
+		v.Items[i] = clone(v.Items[i])
+	}
+	return v
+}
+
+// plain is a value whose empty lists are nil, so that two can be held against each other field by field.
+func plain(v api.Value) api.Value {
+	items := v.Items
+	v.Items, v.Names = nil, append([]string(nil), v.Names...)
+	for _, item := range items {
+		v.Items = append(v.Items, plain(item))
+	}
+	return v
+}
+
+func equal(a, b api.Value) bool { return reflect.DeepEqual(plain(a), plain(b)) }
+
+// spoil overwrites all that a value's lists hold, and what there is room for behind them.
+func spoil(v api.Value) {
+	for _, item := range v.Items {
+		spoil(item)
+	}
+	l, n := v.Items[:cap(v.Items)], v.Names[:cap(v.Names)]
+	for i := range l {
+		l[i] = text("spoilt")
+	}
+	for i := range n {
+		n[i] = "spoilt"
+	}
+}
+
+// key is a row of bytes whose order is that of values, by the document's words: an oracle.
+func key(v api.Value) string {
+	k := numberKey(int64(v.Kind))
+	switch v.Kind {
+	case api.Bool:
+		k += map[bool]string{false: "0", true: "1"}[v.Bool]
+	case api.Int:
+		k += numberKey(v.Int)
+	case api.Text:
+		k += textKey(v.Text)
+	case api.Ref:
+		k += textKey(v.Uid.Type) + textKey(v.Uid.Id)
+	case api.Set:
+		k += rowKey(len(v.Items), func(i int) string { return key(v.Items[i]) })
+	case api.Record:
+		k += rowKey(len(v.Names), func(i int) string { return textKey(v.Names[i]) })
+		k += rowKey(min(len(v.Items), len(v.Names)), func(i int) string { return key(v.Items[i]) })
+	}
+	return k
+}
+
+func numberKey(n int64) string {
+	return string(binary.BigEndian.AppendUint64(nil, uint64(n)^1<<63))
+}
+
+func textKey(s string) string {
+	return rowKey(len(s), func(i int) string { return s[i : i+1] })
+}
+
+func rowKey(n int, piece func(i int) string) string {
+	k := ""
+	for i := range n {
+		k += "\x01" + piece(i)
+	}
+	return k + "\x00"
+}
+
+// canonical is Canon by the document's words, of a value without error: an oracle.
+func canonical(v api.Value) api.Value {
+	switch v.Kind {
+	case api.Bool:
+		return truth(v.Bool)
+	case api.Int:
+		return num(v.Int)
+	case api.Text:
+		return text(v.Text)
+	case api.Ref:
+		return ref(v.Uid.Type, v.Uid.Id)
+	}
+	items := map[string]api.Value{}
+	for i, item := range v.Items {
+		c := canonical(item)
+		if v.Kind == api.Set {
+			items[key(c)] = c
+		} else {
+			items[v.Names[i]] = c
+		}
+	}
+	c := api.Value{Kind: v.Kind}
+	for _, k := range slices.Sorted(maps.Keys(items)) {
+		c.Items = append(c.Items, items[k])
+		if v.Kind == api.Record {
+			c.Names = append(c.Names, k)
+		}
+	}
+	return c
+}
+
+// source makes values, the same ones each time.
+type source struct{ x uint64 }
+
+func (s *source) below(n int) int {
+	s.x ^= s.x << 13
+	s.x ^= s.x >> 7
+	s.x ^= s.x << 17
+	return int(s.x >> 33 % uint64(n))
+}
+
+// value is one of few, so that some are the same; a good one has no fault.
+func (s *source) value(levels int, good bool) api.Value {
+	kinds := []int{api.Bool, api.Int, api.Text, api.Ref, api.Set, api.Record, api.Set, api.Record}
+	if levels == 0 {
+		kinds = kinds[:4]
+	}
+	few := []string{"", "a", "b", "ab", "a\x00", "\xff"}
+	v := all(kinds[s.below(len(kinds))], int64(s.below(5)-2), few[s.below(len(few))])
+	v.Bool = s.below(2) == 1
+	v.Uid.Id = few[s.below(len(few))]
+	if !good && s.below(12) == 0 {
+		v.Kind = []int{-1, 0, 7, 8}[s.below(4)]
+	}
+	for range s.below(4) {
+		if levels > 0 {
+			v.Items = append(v.Items, s.value(levels-1, good))
+		}
+		v.Names = append(v.Names, few[s.below(len(few))])
+	}
+	if !good && s.below(3) > 0 && len(v.Names) > len(v.Items) { // often as many as items
+		v.Names = v.Names[:len(v.Items)]
+	}
+	if good {
+		v.Names = few[:len(v.Items)]
+		if s.below(2) == 1 {
+			v.Names = slices.Clone(v.Names)
+			slices.Reverse(v.Names)
+		}
+	}
+	return v
+}
+
+// spread are values of all kinds, some of which are the same.
+func spread(n int, good bool) []api.Value {
+	s := &source{88172645463325252}
+	var l []api.Value
+	for i := range n {
+		l = append(l, s.value(1+i%3, good))
+	}
+	return l
+}
+
+// ladders are rows of values, each one of a row ahead of those behind it.
+func ladders() map[string][]api.Value {
+	return map[string][]api.Value{
+		"kinds": {{Kind: math.MinInt}, {Kind: -1}, {}, truth(true), num(9), text("z"), ref("z", "z"), set(record("")), record("z", set()), {Kind: 7}, {Kind: 8}, {Kind: math.MaxInt}},
+		"truth": {truth(false), truth(true)},
+		"numbers": {num(math.MinInt64), num(math.MinInt64 + 1), num(math.MinInt32), num(-10), num(-9), num(-1), num(0), num(1), num(9), num(10),
+			num(math.MaxInt32 + 1), num(math.MaxUint32 + 1), num(math.MaxInt64 - 1), num(math.MaxInt64)},
+		"texts": {text(""), text("\x00"), text("\x00\x00"), text("\x00a"), text(" "), text("10"), text("9"), text("A"), text("B"), text("Z"), text("a"), text("a\x00"), text("a "), text("aA"), text("aa"),
+			text("ab"), text("b"), text("z"), text("{"), text("\x7f"), text("\x80"), text("\xc3\xa9"), text("\xef\xbf\xbd"), text("\xf0\x9f\x98\x80"), text("\xff"), text("\xff\x00")},
+		"refs": {ref("", ""), ref("", "a"), ref("", "z"), ref("A", "b"), ref("A", "ba"), ref("A", "c"), ref("A::B", "a"), ref("AB", "a"), ref("B", ""), ref("B", "A"), ref("a", ""), ref("a", "bc"), ref("ab", ""), ref("ab", "c"), ref("\x80", "")},
+		"sets": {set(), set(truth(true)), set(num(0)), set(num(1)), set(num(1), num(0)), set(num(1), num(0), num(9)), set(num(1), num(1)), set(num(1), num(2)), set(num(2)), set(num(2), num(1)),
+			set(num(3)), set(text("")), set(set()), set(set(), set()), set(set(num(1))), set(set(num(1)), num(0)), set(set(num(1), num(0))), set(record("")), set(record("a", num(0)))},
+		"records": {record(""), record("A", num(9)), record("a", truth(true)), record("a", num(1)), record("a", num(2)), record("a a", num(0), num(0)), record("a b", num(1), num(9)), record("a b", num(2), num(1)),
+			record("a b", num(2), num(2)), record("a b c", num(0), num(0), num(0)), record("a c", num(0), num(0)), record("aa", num(0)), record("b", num(0)), record("b a", num(0), num(0)), record("\xff", num(0))},
+		"odd records": {record("a"), record("a", num(0)), record("a b"), record("a b", num(0)), record("a b", num(0), truth(false)), record("a b", num(0), record("")), record("a b", num(1)), record("a b", num(1), num(0), num(0)),
+			record("a b", num(1), num(1)), record("a b c"), record("a b c", num(0)), record("a b c", num(0), num(0)), record("a b c", num(0), num(0), num(0)), record("a b c", num(0), num(1)), record("b")},
+		"sets of each kind": {set(api.Value{}), set(truth(false)), set(truth(true)), set(num(-1)), set(num(0)), set(text("")), set(ref("", "")), set(set()), set(record("")), set(api.Value{Kind: 7})},
+		"nested":            {set(record("a", set(num(1)))), set(record("a", set(num(1), num(1)))), set(record("a", set(num(2)))), set(record("b", set(num(0)))), record("a", record("a", set(num(1)))), record("a", record("a", set(num(2))))},
+	}
+}
+
+func wantOrder(t *testing.T, a, b api.Value, want int) {
+	t.Helper()
+	if o := Order(a, b); o != want {
+		t.Errorf("Order(%.200s, %.200s): %d; not %d", fmt.Sprint(a), fmt.Sprint(b), o, want)
+	}
+	if Same(a, b) != (want == 0) {
+		t.Errorf("Same(%.200s, %.200s): %t", fmt.Sprint(a), fmt.Sprint(b), want != 0)
+	}
+}
+
+func wantError(t *testing.T, name string, v api.Value, want api.Errno) {
+	t.Helper()
+	if c, e := Canon(v); e != want || !reflect.DeepEqual(c, api.Value{}) {
+		t.Errorf("Canon of %s: %.200s, %d; not %d", name, fmt.Sprint(c), e, want)
+	}
+}
+
+func wantCanon(t *testing.T, v, want api.Value) {
+	t.Helper()
+	if c, e := Canon(v); e != api.OK || !equal(c, want) {
+		t.Errorf("Canon(%.300s): %.300s, %d; not %.300s", fmt.Sprint(v), fmt.Sprint(c), e, fmt.Sprint(want))
+	}
+}
+
+func TestP3_1Ladders(t *testing.T) {
+	for name, ladder := range ladders() {
+		t.Run(name, func(t *testing.T) {
+			for i, a := range ladder {
+				for j, b := range ladder {
+					want := 0
+					if i < j {
+						want = -1
+					} else if i > j {
+						want = 1
+					}
+					wantOrder(t, a, clone(b), want)
+				}
+			}
+		})
+	}
+}
+
+// TestP3_1OtherFields has values that differ in what their kind has not.
+func TestP3_1OtherFields(t *testing.T) {
+	for kind := -3; kind <= 12; kind++ {
+		a, b := all(kind, 1, "a", num(1)), all(kind, 2, "b", num(2), num(3))
+		switch kind {
+		case api.Bool:
+			b.Bool = a.Bool
+		case api.Int:
+			b.Int = a.Int
+		case api.Text:
+			b.Text = a.Text
+		case api.Ref:
+			b.Uid = a.Uid
+		case api.Set:
+			b.Items = clone(a).Items
+		case api.Record:
+			b.Items, b.Names = append(clone(a).Items, num(3)), clone(a).Names // the last one has no name
+		}
+		wantOrder(t, a, b, 0)
+		wantOrder(t, b, a, 0)
+		wantOrder(t, set(a), set(b), 0)
+		wantOrder(t, a, all(kind+1, 0, ""), -1)
+		wantOrder(t, b, all(kind-1, 0, ""), 1)
+	}
+}
+
+func TestP3_1Records(t *testing.T) {
+	for _, c := range []struct {
+		a, b api.Value
+		want int
+	}{
+		{record("a", num(9)), record("b", num(1)), -1},                            // names are ahead of items
+		{record("a", num(9)), record("a b", num(1), num(1)), -1},                  // as is how many they are
+		{record("a c", num(1), num(1)), record("a b c", num(2), num(2)), 1},       // but behind the names themselves
+		{record("a b", num(1), num(2)), record("b a", num(2), num(1)), -1},        // as they stand
+		{record("a", num(1), num(2)), record("a", num(1), num(3)), 0},             // an item without a name
+		{record("", num(1)), record("", num(2), num(3)), 0},                       // and without any
+		{record("", num(1)), record(""), 0},                                       //
+		{record("a b", num(1)), record("a b", num(1), num(-9)), -1},               // a missing item
+		{record("a b", num(1)), record("a b", num(1), api.Value{}), -1},           // is ahead of whatever is there
+		{record("a b", num(2)), record("a b", num(1), num(1)), 1},                 // but behind the items ahead of it
+		{record("a b"), record("a b", api.Value{Kind: math.MinInt}), -1},          //
+		{record("a b"), record("a b"), 0},                                         // both miss them
+		{record("a b", num(1), num(1)), record("a b", num(1), num(1), num(1)), 0}, //
+	} {
+		wantOrder(t, c.a, c.b, c.want)
+		wantOrder(t, c.b, c.a, -c.want)
+	}
+}
+
+// TestP3_1Pairs holds the order of all pairs against that of their keys.
+func TestP3_1Pairs(t *testing.T) {
+	l := spread(1200, false)
+	for _, ladder := range ladders() {
+		l = append(l, ladder...)
+	}
+	var keys []string
+	for _, v := range l {
+		keys = append(keys, key(v))
+	}
+	same := 0
+	for i, a := range l {
+		for j, b := range l {
+			want := strings.Compare(keys[i], keys[j])
+			if o := Order(a, b); o != want {
+				t.Fatalf("Order(%v, %v): %d; not %d", a, b, o, want)
+			}
+			if Same(a, b) != (want == 0) {
+				t.Fatalf("Same(%v, %v): %t", a, b, want != 0)
+			}
+			if want == 0 && i != j {
+				same++
+			}
+		}
+	}
+	if same == 0 {
+		t.Error("no two were the same")
+	}
+}
+
+func TestP3_2Canon(t *testing.T) {
+	for _, c := range []struct{ v, want api.Value }{
+		{set(num(2), num(1), num(2)), set(num(1), num(2))}, // the document's example
+		{truth(true), truth(true)},
+		{truth(false), truth(false)},
+		{num(math.MinInt64), num(math.MinInt64)},
+		{text(""), text("")},
+		{text("a\x00\xff"), text("a\x00\xff")},
+		{ref("", ""), ref("", "")},
+		{ref("U", "a"), ref("U", "a")},
+		{set(), set()},
+		{api.Value{Kind: api.Set, Items: []api.Value{}, Names: []string{}}, set()},
+		{record(""), record("")},
+		{set(num(3), num(2), num(1)), set(num(1), num(2), num(3))},
+		{set(num(1), num(1), num(1)), set(num(1))},
+		{set(record(""), set(), ref("a", "a"), text("a"), num(1), truth(true), truth(false)), set(truth(false), truth(true), num(1), text("a"), ref("a", "a"), set(), record(""))},
+		{set(text("ab"), text("a"), text("\xff"), text(""), text("b"), text("a")), set(text(""), text("a"), text("ab"), text("b"), text("\xff"))},
+		{set(set(num(2), num(1)), set(num(1), num(2), num(1))), set(set(num(1), num(2)))}, // the same, once they are as they must be
+		{set(set(num(3), num(1)), set(num(2), num(1))), set(set(num(1), num(2)), set(num(1), num(3)))},
+		{set(set(num(2), num(1)), set(num(1), num(3))), set(set(num(1), num(2)), set(num(1), num(3)))},
+		{set(record("b a", num(1), num(2)), record("a b", num(2), num(1))), set(record("a b", num(2), num(1)))},
+		{record("b a", num(1), num(2)), record("a b", num(2), num(1))},
+		{record("b a c", set(num(2), num(1)), num(7), record("z y", num(1), num(2))), record("a b c", num(7), set(num(1), num(2)), record("y z", num(2), num(1)))},
+		{record("a b", num(1), num(1)), record("a b", num(1), num(1))},
+		{api.Value{Kind: api.Record, Names: []string{"a b", "", "\xff", "A"}, Items: numbers(4)}, api.Value{Kind: api.Record, Names: []string{"", "A", "a b", "\xff"}, Items: []api.Value{num(3), num(1), num(4), num(2)}}},
+	} {
+		wantCanon(t, c.v, c.want)
+	}
+}
+
+// TestP3_2OtherFields has what a kind has not: it is left out, and what is wrong in it is no error.
+func TestP3_2OtherFields(t *testing.T) {
+	wrong := []api.Value{{Kind: 9}, record("a"), record("a a", num(1), num(1)), tower(60, num(1)), set(numbers(5000)...)}
+	for _, c := range []struct {
+		kind int
+		want api.Value
+	}{{api.Bool, truth(true)}, {api.Int, num(5)}, {api.Text, text("t")}, {api.Ref, ref("t", "t")}} {
+		v := all(c.kind, 5, "t", wrong...)
+		wantCanon(t, v, c.want)
+		wantCanon(t, set(v, c.want), set(c.want))
+		wantCanon(t, record("a", v), record("a", c.want))
+		v.Names = []string{"a", "a"}
+		wantCanon(t, v, c.want)
+	}
+	wantCanon(t, all(api.Set, 5, "t", num(2), num(1)), set(num(1), num(2)))
+	v := all(api.Set, 5, "t", num(2), num(1))
+	v.Names = []string{"a", "a", "a"}
+	wantCanon(t, v, set(num(1), num(2)))
+	v = all(api.Record, 5, "t", all(api.Int, 2, "u"), all(api.Text, 2, "u"))
+	v.Names = []string{"b", "a"}
+	wantCanon(t, v, record("a b", text("u"), num(2)))
+}
+
+func TestP3_2Arg(t *testing.T) {
+	for _, kind := range []int{math.MinInt, -1, 0, 7, 8, 100, math.MaxInt} {
+		name := fmt.Sprint("a kind ", kind)
+		v := all(kind, 1, "a")
+		wantError(t, name, v, api.ErrArg)
+		wantError(t, name+" in a set", set(num(1), v, num(2)), api.ErrArg)
+		wantError(t, name+" in a record", record("a b", num(1), v), api.ErrArg)
+		wantError(t, name+" far inside", tower(49, v), api.ErrArg)
+	}
+	for _, v := range []api.Value{
+		record("a"), record("", num(1)), record("a b", num(1)), record("a", num(1), num(2)), record("a a", num(1)), record("a a a", num(1), num(1)),
+		{Kind: api.Record, Names: names(5000)}, {Kind: api.Record, Items: numbers(5000)}, {Kind: api.Record, Names: names(4097), Items: numbers(4096)},
+	} {
+		wantError(t, "a record with other numbers", v, api.ErrArg)
+		wantError(t, "one in a set", set(set(), v), api.ErrArg)
+		wantError(t, "one in a record", record("a b", set(), v), api.ErrArg)
+	}
+}
+
+func TestP3_2Deep(t *testing.T) {
+	for _, innermost := range []api.Value{num(1), text("a"), set(), record("")} {
+		v := tower(api.MaxDepth, innermost)
+		wantCanon(t, v, v)
+		wantError(t, "one too deep", tower(api.MaxDepth+1, innermost), api.ErrDeep)
+		wantError(t, "a set of one", set(v), api.ErrDeep)
+		wantError(t, "the last of a set", set(num(1), tower(3, num(1)), v), api.ErrDeep)
+		wantError(t, "the last of a record", record("a b", num(1), v), api.ErrDeep)
+	}
+	wantError(t, "very deep", tower(1<<16, num(1)), api.ErrDeep)
+	within := set(num(1), api.Value{})
+	within.Items[1] = within
+	wantError(t, "a set within itself", within, api.ErrDeep)
+	within = record("a b", num(1), api.Value{})
+	within.Items[0] = within
+	wantError(t, "a record within itself", within, api.ErrDeep)
+	v := tower(api.MaxDepth, all(api.Int, 1, "a", tower(5, num(1)))) // what an Int has no use for isn't nested in it
+	if Depth(v) != api.MaxDepth {
+		t.Error(Depth(v))
+	}
+	wantCanon(t, v, tower(api.MaxDepth, num(1)))
+}
+
+func TestP3_2Long(t *testing.T) {
+	items := numbers(api.MaxItems + 1)
+	most := items[1:] // from MaxItems down to 1
+	rising := slices.Clone(most)
+	slices.Reverse(rising)
+	wantCanon(t, set(most...), set(rising...))
+	wantError(t, "a long set", set(items...), api.ErrLong)
+	wantError(t, "one in a set", set(set(items...)), api.ErrLong)
+	wantError(t, "one in a record", record("a b", num(1), set(items...)), api.ErrLong)
+	n := names(api.MaxItems + 1)
+	risingNames := slices.Clone(n[1:])
+	slices.Reverse(risingNames)
+	wantCanon(t, api.Value{Kind: api.Record, Names: n[1:], Items: most}, api.Value{Kind: api.Record, Names: risingNames, Items: rising})
+	wantError(t, "a long record", api.Value{Kind: api.Record, Names: n, Items: items}, api.ErrLong)
+	// How many a set has is asked of the set that is handed in, not of the one that is told.
+	equal := slices.Repeat([]api.Value{num(1)}, api.MaxItems)
+	wantCanon(t, set(equal...), set(num(1)))
+	wantError(t, "a long set of one value", set(append(equal, num(1))...), api.ErrLong)
+	wantCanon(t, set(set(most...), set(most[1:]...)), set(set(rising[:api.MaxItems-1]...), set(rising...))) // more in all than one may have
+}
+
+func TestP3_2Twice(t *testing.T) {
+	for _, v := range []api.Value{
+		record("a a", num(1), num(1)), record("a a", num(1), num(2)), record("a b a", num(1), num(2), num(3)), record("b a c b", num(1), num(2), num(3), num(4)),
+		{Kind: api.Record, Names: []string{"", ""}, Items: numbers(2)}, {Kind: api.Record, Names: append(names(4095), "n000001"), Items: numbers(4096)},
+	} {
+		wantError(t, "a name twice", v, api.ErrTwice)
+		wantError(t, "that in a set", set(num(1), v), api.ErrTwice)
+		wantError(t, "that in a record", record("a b", num(1), v), api.ErrTwice)
+	}
+	v := record("a b", record("a b", num(1), num(2)), record("a b", num(1), num(2))) // once in each
+	wantCanon(t, v, v)
+}
+
+// TestP3_2Several has several faults each, of which one is told.
+func TestP3_2Several(t *testing.T) {
+	arg, twice := api.Value{}, record("a a", num(1), num(1))
+	long, deep := set(numbers(api.MaxItems+1)...), tower(api.MaxDepth+1, num(1))
+	numbersAnd := func(l ...api.Value) []api.Value { return append(numbers(api.MaxItems), l...) }
+	for _, c := range []struct {
+		name string
+		v    api.Value
+		want api.Errno
+	}{
+		{"a kind, deep", set(arg, deep), api.ErrDeep},
+		{"long, twice, deep", record("a a", long, deep), api.ErrDeep},
+		{"other numbers, deep", record("a", num(1), deep), api.ErrDeep},
+		{"a kind as deep as may be, one deeper", set(tower(49, arg), tower(50, arg)), api.ErrDeep},
+		{"long, with a deep one", set(numbersAnd(deep)...), api.ErrDeep},
+		{"another kind with deep items, a kind", set(all(api.Int, 1, "a", deep), arg), api.ErrArg},
+		{"a kind with deep items", all(9, 1, "a", deep), api.ErrArg},
+		{"a kind, twice", set(arg, twice), api.ErrArg},
+		{"twice, a kind", set(twice, arg), api.ErrTwice},
+		{"long, a kind", set(long, arg), api.ErrLong},
+		{"a kind, long", set(arg, long), api.ErrArg},
+		{"twice, long", set(twice, long), api.ErrTwice},
+		{"long, twice", set(long, twice), api.ErrLong},
+		{"far inside, one by one", set(set(set(twice)), arg), api.ErrTwice},
+		{"a record's items in their order, not by names", record("b a", twice, arg), api.ErrTwice},
+		{"a record's items in their order, not by names", record("b a", arg, twice), api.ErrArg},
+		{"other numbers, a twice inside", record("a", twice, num(1)), api.ErrArg},
+		{"other numbers, twice", record("a a", num(1), num(1), num(1)), api.ErrArg},
+		{"other numbers, long", api.Value{Kind: api.Record, Names: []string{"a"}, Items: numbers(5000)}, api.ErrArg},
+		{"other numbers, a long one inside", record("a", long, num(1)), api.ErrArg},
+		{"twice, a kind inside", record("a a", num(1), arg), api.ErrArg},
+		{"twice, a long one inside", record("a a", num(1), long), api.ErrLong},
+		{"long, a kind at the end", set(numbersAnd(arg)...), api.ErrArg},
+		{"long, twice at the end", set(numbersAnd(twice)...), api.ErrTwice},
+		{"long record, twice at the end", api.Value{Kind: api.Record, Names: names(4097), Items: numbersAnd(twice)}, api.ErrTwice},
+		{"long record, a name twice", api.Value{Kind: api.Record, Names: append(names(4096), "n000001"), Items: numbers(4097)}, api.ErrLong},
+		{"long record of one name", api.Value{Kind: api.Record, Names: slices.Repeat([]string{"a"}, 4097), Items: numbers(4097)}, api.ErrLong},
+	} {
+		wantError(t, c.name, c.v, c.want)
+		wantError(t, "a set of "+c.name, set(c.v), c.want)
+	}
+}
+
+// fault is the error of a value that is neither deep nor long, by the document's words: an oracle.
+func fault(v api.Value) api.Errno {
+	if v.Kind < api.Bool || v.Kind > api.Record || v.Kind == api.Record && len(v.Names) != len(v.Items) {
+		return api.ErrArg
+	}
+	if v.Kind < api.Set {
+		return api.OK
+	}
+	for _, item := range v.Items {
+		if e := fault(item); e != api.OK {
+			return e
+		}
+	}
+	for i, name := range v.Names {
+		if v.Kind == api.Record && slices.Contains(v.Names[:i], name) {
+			return api.ErrTwice
+		}
+	}
+	return api.OK
+}
+
+// TestP3_2Spread holds Canon of many values against the oracles, good ones and others.
+func TestP3_2Spread(t *testing.T) {
+	told := map[api.Errno]int{}
+	for _, v := range append(spread(3000, true), spread(3000, false)...) {
+		e := fault(v)
+		told[e]++
+		if e == api.OK {
+			wantCanon(t, v, canonical(v))
+		} else {
+			wantError(t, fmt.Sprint(v), v, e)
+		}
+	}
+	if told[api.OK] < 3000 || told[api.ErrArg] < 100 || told[api.ErrTwice] < 100 {
+		t.Error("too few of a kind:", told)
+	}
+}
+
+// TestP3_2Memory holds that what is handed in stays, and that what is told is in new memory, each list in its own.
+func TestP3_2Memory(t *testing.T) {
+	for _, v := range append(spread(500, true), set(numbers(50)...), api.Value{Kind: api.Record, Names: names(50), Items: numbers(50)}) {
+		was := clone(v)
+		c, e := Canon(v)
+		if e != api.OK || !reflect.DeepEqual(v, was) {
+			t.Fatalf("Canon of %v, %d: it is %v then", was, e, v)
+		}
+		told := clone(c)
+		spoil(c)
+		if !reflect.DeepEqual(v, was) {
+			t.Fatalf("%v: it is %v once its Canon is changed", was, v)
+		}
+		c, _ = Canon(v)
+		spoil(v)
+		if !reflect.DeepEqual(c, told) {
+			t.Fatalf("Canon of %v is %v once it is changed itself; not %v", was, c, told)
+		}
+	}
+	shared := set(num(2), num(1), record("b a", num(1), num(2)))
+	c, _ := Canon(record("a b c", shared, shared, set(shared)))
+	spoil(c.Items[0])
+	want := set(num(1), num(2), record("a b", num(2), num(1)))
+	if !equal(c.Items[1], want) || !equal(c.Items[2], set(want)) {
+		t.Error("places of one answer share memory:", c)
+	}
+	row := numbers(4)
+	Canon(set(set(row[:2]...), set(row[:1]...)))
+	if !equal(set(row...), set(numbers(4)...)) {
+		t.Error("what stands behind a list is changed:", row)
+	}
+}
+
+func TestP3_3Holds(t *testing.T) {
+	twins := set(num(1), all(api.Text, 1, "a", num(1)), set(num(2), num(1)), all(9, 1, "a"))
+	for _, c := range []struct {
+		set, v api.Value
+		want   bool
+	}{
+		{set(num(1), text("2")), num(1), true},
+		{set(num(1), text("2")), text("2"), true},
+		{set(num(1), text("1")), num(2), false},
+		{set(num(1)), text("1"), false}, // as the document's example
+		{set(text("1")), num(1), false},
+		{set(num(1), text("1")), set(num(1)), false},
+		{set(), num(1), false},
+		{set(), set(), false},
+		{set(set()), set(), true},
+		{set(num(3), num(1), num(2)), num(2), true}, // whatever its order
+		{set(num(3), num(1), num(2)), num(3), true},
+		{set(num(1)), set(num(1)), false},
+		{set(set(num(1))), num(1), false},
+		{set(truth(false)), truth(false), true},
+		{set(truth(false)), truth(true), false},
+		{set(ref("U", "a")), ref("U", "a"), true},
+		{set(ref("U", "a")), ref("U", "b"), false},
+		{set(ref("U", "a")), ref("V", "a"), false},
+		{set(record("a", num(1))), record("a", num(1)), true},
+		{set(record("a", num(1))), record("a", num(2)), false},
+		{set(record("a", num(1))), record("b", num(1)), false},
+		{twins, text("a"), true}, // what its kind has not doesn't count
+		{twins, set(num(2), num(1)), true},
+		{twins, set(num(1), num(2)), false}, // neither is as it must be
+		{twins, all(9, 2, "b", num(3)), true},
+		{twins, all(8, 1, "a"), false},
+		{set(numbers(5000)...), num(1), true},
+		{set(numbers(5000)...), num(5001), false},
+	} {
+		if Holds(c.set, c.v) != c.want {
+			t.Errorf("Holds(%.200s, %v): %t", fmt.Sprint(c.set), c.v, !c.want)
+		}
+	}
+	for kind := -2; kind <= 9; kind++ {
+		v := all(kind, 1, "a", num(1))
+		if Holds(v, num(1)) != (kind == api.Set) {
+			t.Errorf("Holds of kind %d: %t", kind, kind != api.Set)
+		}
+	}
+}
+
+func TestP3_3Get(t *testing.T) {
+	r := record("b a b c", num(1), text("x"), num(3))
+	for _, c := range []struct {
+		record api.Value
+		name   string
+		want   api.Value
+		ok     bool
+	}{
+		{r, "a", text("x"), true},
+		{r, "b", num(1), true},       // the first one
+		{r, "c", api.Value{}, false}, // a name without an item
+		{r, "d", api.Value{}, false},
+		{r, "", api.Value{}, false},
+		{r, "A", api.Value{}, false},
+		{r, "ab", api.Value{}, false},
+		{record(""), "a", api.Value{}, false},
+		{record("a"), "a", api.Value{}, false},
+		{record("a a"), "a", api.Value{}, false},
+		{record("", num(1)), "", api.Value{}, false},
+		{record("a", num(1), num(2)), "a", num(1), true},
+		{record("a b c", num(1), num(2), num(3)), "c", num(3), true},
+		{api.Value{Kind: api.Record, Names: []string{"a ", ""}, Items: numbers(2)}, "", num(1), true},
+		{api.Value{Kind: api.Record, Names: []string{"a ", ""}, Items: numbers(2)}, "a", api.Value{}, false},
+		{record("a", record("b", num(1))), "a", record("b", num(1)), true},
+		{record("a", record("b", num(1))), "b", api.Value{}, false},
+		{record("a", all(9, 1, "z", num(1))), "a", all(9, 1, "z", num(1)), true},
+	} {
+		if v, ok := Get(c.record, c.name); ok != c.ok || !equal(v, c.want) {
+			t.Errorf("Get(%v, %q): %v, %t; not %v, %t", c.record, c.name, v, ok, c.want, c.ok)
+		}
+	}
+	for kind := -2; kind <= 9; kind++ {
+		v := all(kind, 1, "a", num(1))
+		v.Names[0] = "a"
+		want := api.Value{}
+		if kind == api.Record {
+			want = num(1)
+		}
+		if v, ok := Get(v, "a"); ok != (kind == api.Record) || !equal(v, want) {
+			t.Errorf("Get of kind %d: %v, %t", kind, v, ok)
+		}
+	}
+}
+
+// TestP3_4Order holds that Order is an order: of two that aren't the same one is first, and it goes on from one to the next.
+func TestP3_4Order(t *testing.T) {
+	l := spread(150, false)
+	for _, a := range l {
+		wantOrder(t, a, a, 0)
+		wantOrder(t, a, clone(a), 0)
+		for _, b := range l {
+			o := Order(a, b)
+			if o < -1 || o > 1 || Order(b, a) != -o {
+				t.Errorf("%v, %v: %d; turned round %d", a, b, o, Order(b, a))
+			}
+			for _, c := range l {
+				if p := Order(b, c); o <= 0 && p <= 0 && Order(a, c) != min(o, p) {
+					t.Fatalf("%v, %v, %v: %d, %d, but %d", a, b, c, o, p, Order(a, c))
+				}
+			}
+		}
+	}
+}
+
+func TestP3_4CanonAgain(t *testing.T) {
+	for _, v := range spread(2000, true) {
+		c, e := Canon(v)
+		if e != api.OK {
+			t.Fatalf("Canon(%v): %d", v, e)
+		}
+		wantCanon(t, c, c)
+		wantOrder(t, c, canonical(v), 0)
+		if c.Kind < api.Set { // of these Canon tells the same one
+			wantOrder(t, c, v, 0)
+		}
+	}
+}
+
+// shuffled is a value with each Set's Items in another order, some of them twice, and each Record's Names in another order.
+func (s *source) shuffled(v api.Value) api.Value {
+	v = clone(v)
+	for i := range v.Items {
+		v.Items[i] = s.shuffled(v.Items[i])
+	}
+	for range v.Items {
+		if i := s.below(len(v.Items)); v.Kind == api.Set {
+			v.Items = append(v.Items, s.shuffled(v.Items[i]))
+		}
+	}
+	for i := range v.Items {
+		j := s.below(i + 1)
+		v.Items[i], v.Items[j] = v.Items[j], v.Items[i]
+		if v.Kind == api.Record {
+			v.Names[i], v.Names[j] = v.Names[j], v.Names[i]
+		}
+	}
+	return v
+}
+
+func TestP3_4ItemsOrder(t *testing.T) {
+	s := &source{4101842887655102017}
+	moved := 0
+	for _, v := range spread(1000, true) {
+		want, _ := Canon(v)
+		for range 3 {
+			w := s.shuffled(v)
+			if !Same(v, w) {
+				moved++
+			}
+			wantCanon(t, w, want)
+		}
+	}
+	if moved < 500 {
+		t.Error("too few are in another order:", moved)
+	}
+}
+
+// TestP3_4SameCanon holds that values are the same, once they are as they must be, just if nothing tells them apart.
+func TestP3_4SameCanon(t *testing.T) {
+	var l []api.Value
+	for _, v := range spread(400, true) {
+		c, _ := Canon(v)
+		l = append(l, c)
+	}
+	for _, a := range l {
+		for _, b := range l {
+			if Same(a, b) != equal(a, b) {
+				t.Fatalf("%v, %v: %t", a, b, Same(a, b))
+			}
+		}
+	}
+}
+
+// TestWordsDepth asks for the depth of values, Canon of which may be an error.
+func TestWordsDepth(t *testing.T) {
+	for _, c := range []struct {
+		v    api.Value
+		want int
+	}{
+		{api.Value{}, 1},
+		{truth(true), 1},
+		{num(1), 1},
+		{text("a"), 1},
+		{ref("a", "a"), 1},
+		{set(), 1},
+		{record(""), 1},
+		{record("a b"), 1},
+		{set(num(1)), 2},
+		{set(set()), 2},
+		{record("a", num(1)), 2},
+		{record("", num(1)), 2}, // Items count, whether they have Names or not
+		{record("", num(1), set(num(1))), 3},
+		{set(num(1), set(num(1), record("a", num(1))), num(2)), 4},
+		{set(tower(5, num(1)), tower(3, num(1))), 6},
+		{set(tower(3, num(1)), tower(5, num(1))), 6},
+		{record("a b", tower(3, num(1)), tower(7, num(1))), 8},
+		{all(api.Bool, 1, "a", set(num(1))), 1},
+		{all(api.Int, 1, "a", set(num(1))), 1},
+		{all(api.Text, 1, "a", set(num(1))), 1},
+		{all(api.Ref, 1, "a", set(num(1))), 1},
+		{all(0, 1, "a", set(num(1))), 1},
+		{all(7, 1, "a", set(num(1))), 1},
+		{all(-1, 1, "a", set(num(1))), 1},
+		{set(all(api.Int, 1, "a", set(num(1)))), 2},
+		{set(numbers(5000)...), 2},
+		{tower(1<<16, num(1)), 1 << 16},
+	} {
+		if d := Depth(c.v); d != c.want {
+			t.Errorf("Depth(%.200s): %d; not %d", fmt.Sprintf("%.200v", c.v), d, c.want)
+		}
+	}
+}
+
+// TestRulesDeep has values that are nested as deep as may be.
+func TestRulesDeep(t *testing.T) {
+	a, b := tower(1<<16, num(1)), tower(1<<16, num(2))
+	if Order(a, b) != -1 || Order(b, a) != 1 || Order(a, tower(1<<16, num(1))) != 0 || Same(a, b) || !Same(a, a) {
+		t.Error("Order")
+	}
+	if !Holds(set(b, a), a) || Holds(set(b), a) {
+		t.Error("Holds")
+	}
+	if v, ok := Get(record("a", b), "a"); !ok || !Same(v, b) {
+		t.Error("Get")
+	}
+}
+
+// TestRulesUnchanged holds that no call changes what is handed in.
+func TestRulesUnchanged(t *testing.T) {
+	l := spread(300, false)
+	for i, v := range l {
+		w := l[(i*7+1)%len(l)]
+		was, wasToo := clone(v), clone(w)
+		Order(v, w)
+		Same(v, w)
+		Canon(v)
+		Holds(v, w)
+		Get(v, "a")
+		Depth(v)
+		if !reflect.DeepEqual(v, was) || !reflect.DeepEqual(w, wasToo) {
+			t.Fatalf("%v, %v are %v, %v then", was, wasToo, v, w)
+		}
+	}
+}
