@@ -11,41 +11,15 @@ import (
 	"testing"
 
 	"chamberlain/api"
+	"chamberlain/some"
 	"chamberlain/value"
 )
-
-func truth(b bool) api.Value       { return api.Value{Kind: api.Bool, Bool: b} }
-func num(n int64) api.Value        { return api.Value{Kind: api.Int, Int: n} }
-func text(s string) api.Value      { return api.Value{Kind: api.Text, Text: s} }
-func set(l ...api.Value) api.Value { return api.Value{Kind: api.Set, Items: l} }
-
-func ref(typ, id string) api.Value {
-	return api.Value{Kind: api.Ref, Uid: api.Uid{Type: typ, Id: id}}
-}
-
-// record has the names that are told with blanks between them.
-func record(names string, l ...api.Value) api.Value {
-	return api.Value{Kind: api.Record, Names: strings.Fields(names), Items: l}
-}
-
-// tower is a value of that Depth: sets and records by turns, around the innermost one.
-func tower(depth int, innermost api.Value) api.Value {
-	v := innermost
-	for i := range depth - 1 {
-		if i%2 == 0 {
-			v = set(v)
-		} else {
-			v = record("a", v)
-		}
-	}
-	return v
-}
 
 // numbers are the numbers from 1 to n.
 func numbers(n int) []api.Value {
 	var l []api.Value
 	for i := range n {
-		l = append(l, num(int64(i+1)))
+		l = append(l, some.Num(int64(i+1)))
 	}
 	return l
 }
@@ -55,32 +29,10 @@ func many(n int) api.Value {
 	v := api.Value{Kind: api.Record}
 	for i := range n {
 		v.Names = append(v.Names, fmt.Sprintf("%05d", i))
-		v.Items = append(v.Items, truth(i%2 == 0))
+		v.Items = append(v.Items, some.Truth(i%2 == 0))
 	}
 	return v
 }
-
-// clone is the same value in other memory, to the last field.
-func clone(v api.Value) api.Value {
-	v.Names = slices.Clone(v.Names)
-	v.Items = slices.Clone(v.Items)
-	for i := range v.Items {
-		v.Items[i] = clone(v.Items[i])
-	}
-	return v
-}
-
-// plain is a value whose empty lists are nil, so that two can be held against each other field by field.
-func plain(v api.Value) api.Value {
-	items := v.Items
-	v.Items, v.Names = nil, append([]string(nil), v.Names...)
-	for _, item := range items {
-		v.Items = append(v.Items, plain(item))
-	}
-	return v
-}
-
-func equal(a, b api.Value) bool { return reflect.DeepEqual(plain(a), plain(b)) }
 
 // length is a length's four bytes, by the document's words: an oracle.
 func length(n int) []byte {
@@ -116,8 +68,8 @@ func laid(v api.Value) []byte {
 	return b
 }
 
-// some are values of all kinds, each as Canon tells it, and their bytes, written out.
-func some() []struct {
+// written are values of all kinds, each as Canon tells it, and their bytes, written out.
+func written() []struct {
 	v api.Value
 	b string
 } {
@@ -125,26 +77,26 @@ func some() []struct {
 		v api.Value
 		b string
 	}{
-		{truth(true), "\x01\x01"},
-		{truth(false), "\x01\x00"},
-		{num(0), "\x02\x00\x00\x00\x00\x00\x00\x00\x00"},
-		{num(1), "\x02\x00\x00\x00\x00\x00\x00\x00\x01"},
-		{num(-1), "\x02\xff\xff\xff\xff\xff\xff\xff\xff"},
-		{num(-2), "\x02\xff\xff\xff\xff\xff\xff\xff\xfe"},
-		{num(0x0102030405060708), "\x02\x01\x02\x03\x04\x05\x06\x07\x08"},
-		{num(math.MaxInt64), "\x02\x7f\xff\xff\xff\xff\xff\xff\xff"},
-		{num(math.MinInt64), "\x02\x80\x00\x00\x00\x00\x00\x00\x00"},
-		{text(""), "\x03\x00\x00\x00\x00"},
-		{text("a"), "\x03\x00\x00\x00\x01a"},
-		{text("\x00\xffü"), "\x03\x00\x00\x00\x04\x00\xff\xc3\xbc"},
-		{ref("", ""), "\x04\x00\x00\x00\x00\x00\x00\x00\x00"},
-		{ref("A::B", "id"), "\x04\x00\x00\x00\x04A::B\x00\x00\x00\x02id"},
-		{set(), "\x05\x00\x00\x00\x00"},
-		{set(num(1), text("")), "\x05\x00\x00\x00\x02\x02\x00\x00\x00\x00\x00\x00\x00\x01\x03\x00\x00\x00\x00"},
-		{set(set(), set(truth(true))), "\x05\x00\x00\x00\x02\x05\x00\x00\x00\x00\x05\x00\x00\x00\x01\x01\x01"},
-		{record(""), "\x06\x00\x00\x00\x00"},
-		{record("a bc", truth(true), truth(false)), "\x06\x00\x00\x00\x02\x00\x00\x00\x01a\x01\x01\x00\x00\x00\x02bc\x01\x00"},
-		{api.Value{Kind: api.Record, Names: []string{""}, Items: []api.Value{record("x", set())}}, "\x06\x00\x00\x00\x01\x00\x00\x00\x00\x06\x00\x00\x00\x01\x00\x00\x00\x01x\x05\x00\x00\x00\x00"},
+		{some.Truth(true), "\x01\x01"},
+		{some.Truth(false), "\x01\x00"},
+		{some.Num(0), "\x02\x00\x00\x00\x00\x00\x00\x00\x00"},
+		{some.Num(1), "\x02\x00\x00\x00\x00\x00\x00\x00\x01"},
+		{some.Num(-1), "\x02\xff\xff\xff\xff\xff\xff\xff\xff"},
+		{some.Num(-2), "\x02\xff\xff\xff\xff\xff\xff\xff\xfe"},
+		{some.Num(0x0102030405060708), "\x02\x01\x02\x03\x04\x05\x06\x07\x08"},
+		{some.Num(math.MaxInt64), "\x02\x7f\xff\xff\xff\xff\xff\xff\xff"},
+		{some.Num(math.MinInt64), "\x02\x80\x00\x00\x00\x00\x00\x00\x00"},
+		{some.Text(""), "\x03\x00\x00\x00\x00"},
+		{some.Text("a"), "\x03\x00\x00\x00\x01a"},
+		{some.Text("\x00\xffü"), "\x03\x00\x00\x00\x04\x00\xff\xc3\xbc"},
+		{some.Ref("", ""), "\x04\x00\x00\x00\x00\x00\x00\x00\x00"},
+		{some.Ref("A::B", "id"), "\x04\x00\x00\x00\x04A::B\x00\x00\x00\x02id"},
+		{some.Set(), "\x05\x00\x00\x00\x00"},
+		{some.Set(some.Num(1), some.Text("")), "\x05\x00\x00\x00\x02\x02\x00\x00\x00\x00\x00\x00\x00\x01\x03\x00\x00\x00\x00"},
+		{some.Set(some.Set(), some.Set(some.Truth(true))), "\x05\x00\x00\x00\x02\x05\x00\x00\x00\x00\x05\x00\x00\x00\x01\x01\x01"},
+		{some.Record(""), "\x06\x00\x00\x00\x00"},
+		{some.Record("a bc", some.Truth(true), some.Truth(false)), "\x06\x00\x00\x00\x02\x00\x00\x00\x01a\x01\x01\x00\x00\x00\x02bc\x01\x00"},
+		{api.Value{Kind: api.Record, Names: []string{""}, Items: []api.Value{some.Record("x", some.Set())}}, "\x06\x00\x00\x00\x01\x00\x00\x00\x00\x06\x00\x00\x00\x01\x00\x00\x00\x01x\x05\x00\x00\x00\x00"},
 	}
 }
 
@@ -174,7 +126,7 @@ func wantBytes(t *testing.T, v api.Value, want []byte) {
 
 func wantValue(t *testing.T, b []byte, want api.Value) {
 	t.Helper()
-	if v, e := Decode(b); !equal(v, want) || e != api.OK {
+	if v, e := Decode(b); !some.Equal(v, want) || e != api.OK {
 		t.Errorf("Decode(%.200v): %.200v %v, not %.200v", b, v, e, want)
 	}
 }
@@ -194,7 +146,7 @@ func wantNoValue(t *testing.T, what string, b []byte, want api.Errno) {
 }
 
 func TestWordsBytes(t *testing.T) {
-	for _, c := range some() {
+	for _, c := range written() {
 		wantBytes(t, c.v, []byte(c.b))
 		wantValue(t, []byte(c.b), c.v)
 		if !bytes.Equal(laid(c.v), []byte(c.b)) {
@@ -207,16 +159,16 @@ func TestWordsLength(t *testing.T) {
 	for _, n := range []int{0, 1, 127, 128, 255, 256, 257, 511, 512, 4095, 4096, 32767, 32768, 65280, 65531} {
 		s := strings.Repeat("x", n)
 		want := append([]byte{3, 0, 0, byte(n >> 8), byte(n)}, s...)
-		wantBytes(t, text(s), want)
-		wantValue(t, want, text(s))
+		wantBytes(t, some.Text(s), want)
+		wantValue(t, want, some.Text(s))
 	}
 	for _, n := range []int{255, 256, 258, 4096} {
 		want := []byte{5, 0, 0, byte(n >> 8), byte(n)}
 		for i := range n {
 			want = append(want, 2, 0, 0, 0, 0, 0, 0, byte((i+1)>>8), byte(i+1))
 		}
-		wantBytes(t, set(numbers(n)...), want)
-		wantValue(t, want, set(numbers(n)...))
+		wantBytes(t, some.Set(numbers(n)...), want)
+		wantValue(t, want, some.Set(numbers(n)...))
 	}
 	b, e := Encode(many(4096))
 	if e != api.OK || !bytes.Equal(b[:5], []byte{6, 0, 0, 16, 0}) || len(b) != 5+4096*11 {
@@ -231,8 +183,8 @@ func TestWordsInt(t *testing.T) {
 			for i := 56; i >= 0; i -= 8 {
 				b = append(b, byte(n>>i))
 			}
-			wantBytes(t, num(n), b)
-			wantValue(t, b, num(n))
+			wantBytes(t, some.Num(n), b)
+			wantValue(t, b, some.Num(n))
 		}
 	}
 }
@@ -242,27 +194,27 @@ func TestP4_1EncodeCanon(t *testing.T) {
 	cases := []struct {
 		v, canon api.Value
 	}{
-		{set(num(2), num(1), num(2)), set(num(1), num(2))},
-		{set(text("1"), num(1), truth(true)), set(truth(true), num(1), text("1"))},
-		{record("b a", num(1), num(2)), record("a b", num(2), num(1))},
-		{set(set(num(2), num(1)), set(num(1), num(2), num(1))), set(set(num(1), num(2)))},
-		{record("b a", set(num(2), num(1)), record("d c", num(3), num(3))), record("a b", record("c d", num(3), num(3)), set(num(1), num(2)))},
-		{api.Value{Kind: api.Bool, Bool: true, Int: 9, Text: "x", Uid: api.Uid{Type: "A"}, Items: numbers(3), Names: []string{"x"}}, truth(true)},
-		{api.Value{Kind: api.Text, Text: "x", Items: numbers(9000)}, text("x")},
-		{api.Value{Kind: api.Set, Items: numbers(1), Names: []string{"x", "x"}, Text: strings.Repeat("x", 1<<20)}, set(num(1))},
-		{api.Value{Kind: api.Record, Items: []api.Value{}, Names: []string{}}, record("")},
-		{api.Value{Kind: api.Set, Items: []api.Value{}}, set()},
+		{some.Set(some.Num(2), some.Num(1), some.Num(2)), some.Set(some.Num(1), some.Num(2))},
+		{some.Set(some.Text("1"), some.Num(1), some.Truth(true)), some.Set(some.Truth(true), some.Num(1), some.Text("1"))},
+		{some.Record("b a", some.Num(1), some.Num(2)), some.Record("a b", some.Num(2), some.Num(1))},
+		{some.Set(some.Set(some.Num(2), some.Num(1)), some.Set(some.Num(1), some.Num(2), some.Num(1))), some.Set(some.Set(some.Num(1), some.Num(2)))},
+		{some.Record("b a", some.Set(some.Num(2), some.Num(1)), some.Record("d c", some.Num(3), some.Num(3))), some.Record("a b", some.Record("c d", some.Num(3), some.Num(3)), some.Set(some.Num(1), some.Num(2)))},
+		{api.Value{Kind: api.Bool, Bool: true, Int: 9, Text: "x", Uid: api.Uid{Type: "A"}, Items: numbers(3), Names: []string{"x"}}, some.Truth(true)},
+		{api.Value{Kind: api.Text, Text: "x", Items: numbers(9000)}, some.Text("x")},
+		{api.Value{Kind: api.Set, Items: numbers(1), Names: []string{"x", "x"}, Text: strings.Repeat("x", 1<<20)}, some.Set(some.Num(1))},
+		{api.Value{Kind: api.Record, Items: []api.Value{}, Names: []string{}}, some.Record("")},
+		{api.Value{Kind: api.Set, Items: []api.Value{}}, some.Set()},
 	}
 	for _, c := range cases {
 		wantBytes(t, c.v, laid(c.canon))
 	}
-	long := text(strings.Repeat("x", 40000)) // twice in the list, once in the set
-	wantBytes(t, set(long, long), laid(set(long)))
+	long := some.Text(strings.Repeat("x", 40000)) // twice in the list, once in the set
+	wantBytes(t, some.Set(long, long), laid(some.Set(long)))
 }
 
 func TestP4_1EncodeCanonErrors(t *testing.T) {
-	long := text(strings.Repeat("x", api.MaxText))
-	round := set(num(1))
+	long := some.Text(strings.Repeat("x", api.MaxText))
+	round := some.Set(some.Num(1))
 	round.Items[0] = round
 	cases := []struct {
 		what string
@@ -273,18 +225,18 @@ func TestP4_1EncodeCanonErrors(t *testing.T) {
 		{"Kind -1", api.Value{Kind: -1}, api.ErrArg},
 		{"Kind 7", api.Value{Kind: 7}, api.ErrArg},
 		{"Kind 257, whose last byte is that of a truth", api.Value{Kind: 257}, api.ErrArg},
-		{"a set with such a thing", set(num(1), api.Value{Kind: 7}), api.ErrArg},
-		{"a record with a name too many", record("a b", num(1)), api.ErrArg},
-		{"a record with an item too many", record("a", num(1), num(2)), api.ErrArg},
-		{"a name twice", record("a b a", num(1), num(2), num(3)), api.ErrTwice},
-		{"Depth 51", tower(51, num(1)), api.ErrDeep},
-		{"Depth 65536", tower(1<<16, num(1)), api.ErrDeep},
+		{"a set with such a thing", some.Set(some.Num(1), api.Value{Kind: 7}), api.ErrArg},
+		{"a record with a name too many", some.Record("a b", some.Num(1)), api.ErrArg},
+		{"a record with an item too many", some.Record("a", some.Num(1), some.Num(2)), api.ErrArg},
+		{"a name twice", some.Record("a b a", some.Num(1), some.Num(2), some.Num(3)), api.ErrTwice},
+		{"Depth 51", some.Tower(51, some.Num(1)), api.ErrDeep},
+		{"Depth 65536", some.Tower(1<<16, some.Num(1)), api.ErrDeep},
 		{"a value within itself", round, api.ErrDeep},
-		{"4097 numbers", set(numbers(4097)...), api.ErrLong},
+		{"4097 numbers", some.Set(numbers(4097)...), api.ErrLong},
 		{"4097 names", many(4097), api.ErrLong},
-		{"too many bytes, and a wrong Kind", set(long, api.Value{}), api.ErrArg},
-		{"too many bytes, and a name twice", record("a a", long, long), api.ErrTwice},
-		{"too many bytes, and too deep", set(long, tower(50, num(1))), api.ErrDeep},
+		{"too many bytes, and a wrong Kind", some.Set(long, api.Value{}), api.ErrArg},
+		{"too many bytes, and a name twice", some.Record("a a", long, long), api.ErrTwice},
+		{"too many bytes, and too deep", some.Set(long, some.Tower(50, some.Num(1))), api.ErrDeep},
 	}
 	for _, c := range cases {
 		wantNoBytes(t, c.what, c.v, c.want)
@@ -298,16 +250,16 @@ func TestP4_1EncodeLong(t *testing.T) {
 		make func(n int) api.Value
 		most int // the greatest n at which there are just MaxText bytes
 	}{
-		{"a text", func(n int) api.Value { return text(x(n)) }, 65531},
-		{"a type", func(n int) api.Value { return ref(x(n), "") }, 65527},
-		{"an id", func(n int) api.Value { return ref("t", x(n)) }, 65526},
-		{"a type and an id", func(n int) api.Value { return ref(x(32000), x(n)) }, 33527},
-		{"a text in a set", func(n int) api.Value { return set(truth(true), text(x(n))) }, 65524},
-		{"a name", func(n int) api.Value { return record(x(n), truth(true)) }, 65525},
-		{"an item of a record", func(n int) api.Value { return record("a", text(x(n))) }, 65521},
-		{"a first item", func(n int) api.Value { return record("a b", text(x(n)), truth(true)) }, 65514},
-		{"Depth 50", func(n int) api.Value { return tower(50, text(x(n))) }, 65531 - 25*5 - 24*10},
-		{"texts", func(n int) api.Value { return set(text(x(20000)), text(x(20001)), text(x(n))) }, 65536 - 40001 - 5 - 15},
+		{"a text", func(n int) api.Value { return some.Text(x(n)) }, 65531},
+		{"a type", func(n int) api.Value { return some.Ref(x(n), "") }, 65527},
+		{"an id", func(n int) api.Value { return some.Ref("t", x(n)) }, 65526},
+		{"a type and an id", func(n int) api.Value { return some.Ref(x(32000), x(n)) }, 33527},
+		{"a text in a set", func(n int) api.Value { return some.Set(some.Truth(true), some.Text(x(n))) }, 65524},
+		{"a name", func(n int) api.Value { return some.Record(x(n), some.Truth(true)) }, 65525},
+		{"an item of a record", func(n int) api.Value { return some.Record("a", some.Text(x(n))) }, 65521},
+		{"a first item", func(n int) api.Value { return some.Record("a b", some.Text(x(n)), some.Truth(true)) }, 65514},
+		{"Depth 50", func(n int) api.Value { return some.Tower(50, some.Text(x(n))) }, 65531 - 25*5 - 24*10},
+		{"texts", func(n int) api.Value { return some.Set(some.Text(x(20000)), some.Text(x(20001)), some.Text(x(n))) }, 65536 - 40001 - 5 - 15},
 	}
 	for _, c := range cases {
 		for _, n := range []int{c.most - 1, c.most} {
@@ -321,31 +273,31 @@ func TestP4_1EncodeLong(t *testing.T) {
 			wantNoBytes(t, fmt.Sprintf("%s of %d", c.what, n), c.make(n), api.ErrLong)
 		}
 	}
-	wide := record("a b", set(numbers(4000)...), set(numbers(3281)...)) // 65551 bytes, none of them a long text's
+	wide := some.Record("a b", some.Set(numbers(4000)...), some.Set(numbers(3281)...)) // 65551 bytes, none of them a long text's
 	wantNoBytes(t, "many numbers", wide, api.ErrLong)
-	wide = record("a b", set(numbers(4000)...), set(numbers(3278)...)) // 65527
+	wide = some.Record("a b", some.Set(numbers(4000)...), some.Set(numbers(3278)...)) // 65527
 	wantBytes(t, wide, laid(wide))
 	var l []api.Value
 	for i := range 500 {
-		l = append(l, set(numbers(i)...))
+		l = append(l, some.Set(numbers(i)...))
 	}
-	wantNoBytes(t, "sets of numbers", set(l...), api.ErrLong)
+	wantNoBytes(t, "sets of numbers", some.Set(l...), api.ErrLong)
 }
 
 func TestP4_1DecodeLong(t *testing.T) {
-	fits := laid(text(strings.Repeat("x", 65531)))
-	wantValue(t, fits, text(strings.Repeat("x", 65531)))
+	fits := laid(some.Text(strings.Repeat("x", 65531)))
+	wantValue(t, fits, some.Text(strings.Repeat("x", 65531)))
 	cases := []struct {
 		what string
 		b    []byte
 	}{
-		{"65537 bytes of a text", laid(text(strings.Repeat("x", 65532)))},
+		{"65537 bytes of a text", laid(some.Text(strings.Repeat("x", 65532)))},
 		{"65536 bytes of a text and one more", append(fits, 0)},
 		{"65537 bytes of 0", make([]byte, 65537)},
 		{"65537 bytes of 1", bytes.Repeat([]byte{1}, 65537)},
 		{"a million bytes", make([]byte, 1000000)},
-		{"too many numbers", laid(set(numbers(8000)...))},
-		{"too many bytes of a set that falls", laid(set(text(strings.Repeat("b", 40000)), text(strings.Repeat("a", 40000))))},
+		{"too many numbers", laid(some.Set(numbers(8000)...))},
+		{"too many bytes of a set that falls", laid(some.Set(some.Text(strings.Repeat("b", 40000)), some.Text(strings.Repeat("a", 40000))))},
 	}
 	for _, c := range cases {
 		wantNoValue(t, c.what, c.b, api.ErrLong)
@@ -382,10 +334,10 @@ func TestP4_1DecodeForm(t *testing.T) {
 
 // The greatest and deepest values that there are, and the next ones.
 func TestP4_1DecodeLimits(t *testing.T) {
-	for _, v := range []api.Value{tower(50, num(7)), tower(50, set()), tower(49, record("")), set(numbers(4096)...), many(4096)} {
+	for _, v := range []api.Value{some.Tower(50, some.Num(7)), some.Tower(50, some.Set()), some.Tower(49, some.Record("")), some.Set(numbers(4096)...), many(4096)} {
 		wantValue(t, laid(v), v)
 	}
-	for _, v := range []api.Value{tower(51, num(7)), tower(51, set()), tower(52, record("")), tower(8000, num(7)), set(numbers(4097)...), many(4097), record("a", many(4097)), set(set(numbers(4097)...))} {
+	for _, v := range []api.Value{some.Tower(51, some.Num(7)), some.Tower(51, some.Set()), some.Tower(52, some.Record("")), some.Tower(8000, some.Num(7)), some.Set(numbers(4097)...), many(4097), some.Record("a", many(4097)), some.Set(some.Set(numbers(4097)...))} {
 		if len(laid(v)) > api.MaxText {
 			t.Fatal("that is too long to tell anything here")
 		}
@@ -399,7 +351,7 @@ func TestP4_1DecodeLimits(t *testing.T) {
 
 // Whatever there is ahead of the end, or behind it: other bytes are a value's only if they are its own.
 func TestP4_1DecodeBeside(t *testing.T) {
-	for _, c := range some() {
+	for _, c := range written() {
 		for n := range len(c.b) {
 			wantNoValue(t, fmt.Sprintf("%q", c.b[:n]), []byte(c.b[:n]), api.ErrForm)
 		}
@@ -421,7 +373,7 @@ func whole(t *testing.T, b []byte) {
 	t.Helper()
 	v, e := Decode(b)
 	if e == api.OK {
-		if c, err := value.Canon(v); err != api.OK || !equal(c, v) || !bytes.Equal(laid(v), b) {
+		if c, err := value.Canon(v); err != api.OK || !some.Equal(c, v) || !bytes.Equal(laid(v), b) {
 			t.Fatalf("Decode(%v): %v", b, v)
 		}
 		return
@@ -535,7 +487,7 @@ func TestRulesArgumentsUnchanged(t *testing.T) {
 	r := rand.New(rand.NewSource(7))
 	for range 2000 {
 		v := chance(r, 3)
-		before := clone(v)
+		before := some.Clone(v)
 		b, _ := Encode(v)
 		if !reflect.DeepEqual(v, before) {
 			t.Fatalf("Encode made %v of %v", v, before)
@@ -553,7 +505,7 @@ func TestRulesArgumentsUnchanged(t *testing.T) {
 }
 
 func TestRulesNewMemory(t *testing.T) {
-	v := record("a b", set(text("one"), ref("T", "i")), record("c", text("two")))
+	v := some.Record("a b", some.Set(some.Text("one"), some.Ref("T", "i")), some.Record("c", some.Text("two")))
 	first, _ := Encode(v)
 	second, _ := Encode(v)
 	decoded, e := Decode(first)
@@ -567,14 +519,14 @@ func TestRulesNewMemory(t *testing.T) {
 	if !bytes.Equal(second, laid(v)) {
 		t.Error("two answers of Encode share memory")
 	}
-	if !equal(decoded, v) {
+	if !some.Equal(decoded, v) {
 		t.Error("what Decode told changes with the bytes")
 	}
-	decoded.Items[0].Items[0], decoded.Names[0] = num(1), "z"
-	_ = append(decoded.Items[0].Items, num(2))
-	_ = append(decoded.Items[1].Items, num(2))
+	decoded.Items[0].Items[0], decoded.Names[0] = some.Num(1), "z"
+	_ = append(decoded.Items[0].Items, some.Num(2))
+	_ = append(decoded.Items[1].Items, some.Num(2))
 	_ = append(decoded.Items[1].Names, "z")
-	if !equal(other, v) || !equal(decoded.Items[1], v.Items[1]) {
+	if !some.Equal(other, v) || !some.Equal(decoded.Items[1], v.Items[1]) {
 		t.Error("lists of Decode's answers share memory")
 	}
 }

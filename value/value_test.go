@@ -11,45 +11,19 @@ import (
 	"testing"
 
 	"chamberlain/api"
+	"chamberlain/some"
 )
-
-func truth(b bool) api.Value       { return api.Value{Kind: api.Bool, Bool: b} }
-func num(n int64) api.Value        { return api.Value{Kind: api.Int, Int: n} }
-func text(s string) api.Value      { return api.Value{Kind: api.Text, Text: s} }
-func set(l ...api.Value) api.Value { return api.Value{Kind: api.Set, Items: l} }
-
-func ref(typ, id string) api.Value {
-	return api.Value{Kind: api.Ref, Uid: api.Uid{Type: typ, Id: id}}
-}
-
-// record has the names that are told with blanks between them.
-func record(names string, l ...api.Value) api.Value {
-	return api.Value{Kind: api.Record, Names: strings.Fields(names), Items: l}
-}
 
 // all has all fields, whatever its kind.
 func all(kind int, n int64, s string, l ...api.Value) api.Value {
 	return api.Value{Kind: kind, Bool: n > 1, Int: n, Text: s, Uid: api.Uid{Type: s, Id: s}, Items: l, Names: make([]string, len(l))}
 }
 
-// tower is a value of that Depth: sets and records by turns, around the innermost one.
-func tower(depth int, innermost api.Value) api.Value {
-	v := innermost
-	for i := range depth - 1 {
-		if i%2 == 0 {
-			v = set(v)
-		} else {
-			v = record("a", v)
-		}
-	}
-	return v
-}
-
 // numbers are n numbers, the greatest first.
 func numbers(n int) []api.Value {
 	var l []api.Value
 	for i := range n {
-		l = append(l, num(int64(n-i)))
+		l = append(l, some.Num(int64(n-i)))
 	}
 	return l
 }
@@ -63,28 +37,6 @@ func names(n int) []string {
 	return l
 }
 
-// clone is the same value in other memory, to the last field.
-func clone(v api.Value) api.Value {
-	v.Names = slices.Clone(v.Names)
-	v.Items = slices.Clone(v.Items)
-	for i := range v.Items {
-		v.Items[i] = clone(v.Items[i])
-	}
-	return v
-}
-
-// plain is a value whose empty lists are nil, so that two can be held against each other field by field.
-func plain(v api.Value) api.Value {
-	items := v.Items
-	v.Items, v.Names = nil, append([]string(nil), v.Names...)
-	for _, item := range items {
-		v.Items = append(v.Items, plain(item))
-	}
-	return v
-}
-
-func equal(a, b api.Value) bool { return reflect.DeepEqual(plain(a), plain(b)) }
-
 // spoil overwrites all that a value's lists hold, and what there is room for behind them.
 func spoil(v api.Value) {
 	for _, item := range v.Items {
@@ -92,7 +44,7 @@ func spoil(v api.Value) {
 	}
 	l, n := v.Items[:cap(v.Items)], v.Names[:cap(v.Names)]
 	for i := range l {
-		l[i] = text("spoilt")
+		l[i] = some.Text("spoilt")
 	}
 	for i := range n {
 		n[i] = "spoilt"
@@ -140,13 +92,13 @@ func rowKey(n int, piece func(i int) string) string {
 func canonical(v api.Value) api.Value {
 	switch v.Kind {
 	case api.Bool:
-		return truth(v.Bool)
+		return some.Truth(v.Bool)
 	case api.Int:
-		return num(v.Int)
+		return some.Num(v.Int)
 	case api.Text:
-		return text(v.Text)
+		return some.Text(v.Text)
 	case api.Ref:
-		return ref(v.Uid.Type, v.Uid.Id)
+		return some.Ref(v.Uid.Type, v.Uid.Id)
 	}
 	items := map[string]api.Value{}
 	for i, item := range v.Items {
@@ -222,21 +174,21 @@ func spread(n int, good bool) []api.Value {
 // ladders are rows of values, each one of a row ahead of those behind it.
 func ladders() map[string][]api.Value {
 	return map[string][]api.Value{
-		"kinds": {{Kind: math.MinInt}, {Kind: -1}, {}, truth(true), num(9), text("z"), ref("z", "z"), set(record("")), record("z", set()), {Kind: 7}, {Kind: 8}, {Kind: math.MaxInt}},
-		"truth": {truth(false), truth(true)},
-		"numbers": {num(math.MinInt64), num(math.MinInt64 + 1), num(math.MinInt32), num(-10), num(-9), num(-1), num(0), num(1), num(9), num(10),
-			num(math.MaxInt32 + 1), num(math.MaxUint32 + 1), num(math.MaxInt64 - 1), num(math.MaxInt64)},
-		"texts": {text(""), text("\x00"), text("\x00\x00"), text("\x00a"), text(" "), text("10"), text("9"), text("A"), text("B"), text("Z"), text("a"), text("a\x00"), text("a "), text("aA"), text("aa"),
-			text("ab"), text("b"), text("z"), text("{"), text("\x7f"), text("\x80"), text("\xc3\xa9"), text("\xef\xbf\xbd"), text("\xf0\x9f\x98\x80"), text("\xff"), text("\xff\x00")},
-		"refs": {ref("", ""), ref("", "a"), ref("", "z"), ref("A", "b"), ref("A", "ba"), ref("A", "c"), ref("A::B", "a"), ref("AB", "a"), ref("B", ""), ref("B", "A"), ref("a", ""), ref("a", "bc"), ref("ab", ""), ref("ab", "c"), ref("\x80", "")},
-		"sets": {set(), set(truth(true)), set(num(0)), set(num(1)), set(num(1), num(0)), set(num(1), num(0), num(9)), set(num(1), num(1)), set(num(1), num(2)), set(num(2)), set(num(2), num(1)),
-			set(num(3)), set(text("")), set(set()), set(set(), set()), set(set(num(1))), set(set(num(1)), num(0)), set(set(num(1), num(0))), set(record("")), set(record("a", num(0)))},
-		"records": {record(""), record("A", num(9)), record("a", truth(true)), record("a", num(1)), record("a", num(2)), record("a a", num(0), num(0)), record("a b", num(1), num(9)), record("a b", num(2), num(1)),
-			record("a b", num(2), num(2)), record("a b c", num(0), num(0), num(0)), record("a c", num(0), num(0)), record("aa", num(0)), record("b", num(0)), record("b a", num(0), num(0)), record("\xff", num(0))},
-		"odd records": {record("a"), record("a", num(0)), record("a b"), record("a b", num(0)), record("a b", num(0), truth(false)), record("a b", num(0), record("")), record("a b", num(1)), record("a b", num(1), num(0), num(0)),
-			record("a b", num(1), num(1)), record("a b c"), record("a b c", num(0)), record("a b c", num(0), num(0)), record("a b c", num(0), num(0), num(0)), record("a b c", num(0), num(1)), record("b")},
-		"sets of each kind": {set(api.Value{}), set(truth(false)), set(truth(true)), set(num(-1)), set(num(0)), set(text("")), set(ref("", "")), set(set()), set(record("")), set(api.Value{Kind: 7})},
-		"nested":            {set(record("a", set(num(1)))), set(record("a", set(num(1), num(1)))), set(record("a", set(num(2)))), set(record("b", set(num(0)))), record("a", record("a", set(num(1)))), record("a", record("a", set(num(2))))},
+		"kinds": {{Kind: math.MinInt}, {Kind: -1}, {}, some.Truth(true), some.Num(9), some.Text("z"), some.Ref("z", "z"), some.Set(some.Record("")), some.Record("z", some.Set()), {Kind: 7}, {Kind: 8}, {Kind: math.MaxInt}},
+		"truth": {some.Truth(false), some.Truth(true)},
+		"numbers": {some.Num(math.MinInt64), some.Num(math.MinInt64 + 1), some.Num(math.MinInt32), some.Num(-10), some.Num(-9), some.Num(-1), some.Num(0), some.Num(1), some.Num(9), some.Num(10),
+			some.Num(math.MaxInt32 + 1), some.Num(math.MaxUint32 + 1), some.Num(math.MaxInt64 - 1), some.Num(math.MaxInt64)},
+		"texts": {some.Text(""), some.Text("\x00"), some.Text("\x00\x00"), some.Text("\x00a"), some.Text(" "), some.Text("10"), some.Text("9"), some.Text("A"), some.Text("B"), some.Text("Z"), some.Text("a"), some.Text("a\x00"), some.Text("a "), some.Text("aA"), some.Text("aa"),
+			some.Text("ab"), some.Text("b"), some.Text("z"), some.Text("{"), some.Text("\x7f"), some.Text("\x80"), some.Text("\xc3\xa9"), some.Text("\xef\xbf\xbd"), some.Text("\xf0\x9f\x98\x80"), some.Text("\xff"), some.Text("\xff\x00")},
+		"refs": {some.Ref("", ""), some.Ref("", "a"), some.Ref("", "z"), some.Ref("A", "b"), some.Ref("A", "ba"), some.Ref("A", "c"), some.Ref("A::B", "a"), some.Ref("AB", "a"), some.Ref("B", ""), some.Ref("B", "A"), some.Ref("a", ""), some.Ref("a", "bc"), some.Ref("ab", ""), some.Ref("ab", "c"), some.Ref("\x80", "")},
+		"sets": {some.Set(), some.Set(some.Truth(true)), some.Set(some.Num(0)), some.Set(some.Num(1)), some.Set(some.Num(1), some.Num(0)), some.Set(some.Num(1), some.Num(0), some.Num(9)), some.Set(some.Num(1), some.Num(1)), some.Set(some.Num(1), some.Num(2)), some.Set(some.Num(2)), some.Set(some.Num(2), some.Num(1)),
+			some.Set(some.Num(3)), some.Set(some.Text("")), some.Set(some.Set()), some.Set(some.Set(), some.Set()), some.Set(some.Set(some.Num(1))), some.Set(some.Set(some.Num(1)), some.Num(0)), some.Set(some.Set(some.Num(1), some.Num(0))), some.Set(some.Record("")), some.Set(some.Record("a", some.Num(0)))},
+		"records": {some.Record(""), some.Record("A", some.Num(9)), some.Record("a", some.Truth(true)), some.Record("a", some.Num(1)), some.Record("a", some.Num(2)), some.Record("a a", some.Num(0), some.Num(0)), some.Record("a b", some.Num(1), some.Num(9)), some.Record("a b", some.Num(2), some.Num(1)),
+			some.Record("a b", some.Num(2), some.Num(2)), some.Record("a b c", some.Num(0), some.Num(0), some.Num(0)), some.Record("a c", some.Num(0), some.Num(0)), some.Record("aa", some.Num(0)), some.Record("b", some.Num(0)), some.Record("b a", some.Num(0), some.Num(0)), some.Record("\xff", some.Num(0))},
+		"odd records": {some.Record("a"), some.Record("a", some.Num(0)), some.Record("a b"), some.Record("a b", some.Num(0)), some.Record("a b", some.Num(0), some.Truth(false)), some.Record("a b", some.Num(0), some.Record("")), some.Record("a b", some.Num(1)), some.Record("a b", some.Num(1), some.Num(0), some.Num(0)),
+			some.Record("a b", some.Num(1), some.Num(1)), some.Record("a b c"), some.Record("a b c", some.Num(0)), some.Record("a b c", some.Num(0), some.Num(0)), some.Record("a b c", some.Num(0), some.Num(0), some.Num(0)), some.Record("a b c", some.Num(0), some.Num(1)), some.Record("b")},
+		"sets of each kind": {some.Set(api.Value{}), some.Set(some.Truth(false)), some.Set(some.Truth(true)), some.Set(some.Num(-1)), some.Set(some.Num(0)), some.Set(some.Text("")), some.Set(some.Ref("", "")), some.Set(some.Set()), some.Set(some.Record("")), some.Set(api.Value{Kind: 7})},
+		"nested":            {some.Set(some.Record("a", some.Set(some.Num(1)))), some.Set(some.Record("a", some.Set(some.Num(1), some.Num(1)))), some.Set(some.Record("a", some.Set(some.Num(2)))), some.Set(some.Record("b", some.Set(some.Num(0)))), some.Record("a", some.Record("a", some.Set(some.Num(1)))), some.Record("a", some.Record("a", some.Set(some.Num(2))))},
 	}
 }
 
@@ -259,7 +211,7 @@ func wantError(t *testing.T, name string, v api.Value, want api.Errno) {
 
 func wantCanon(t *testing.T, v, want api.Value) {
 	t.Helper()
-	if c, e := Canon(v); e != api.OK || !equal(c, want) {
+	if c, e := Canon(v); e != api.OK || !some.Equal(c, want) {
 		t.Errorf("Canon(%.300s): %.300s, %d; not %.300s", fmt.Sprint(v), fmt.Sprint(c), e, fmt.Sprint(want))
 	}
 }
@@ -275,7 +227,7 @@ func TestP3_1Ladders(t *testing.T) {
 					} else if i > j {
 						want = 1
 					}
-					wantOrder(t, a, clone(b), want)
+					wantOrder(t, a, some.Clone(b), want)
 				}
 			}
 		})
@@ -285,7 +237,7 @@ func TestP3_1Ladders(t *testing.T) {
 // TestP3_1OtherFields has values that differ in what their kind has not.
 func TestP3_1OtherFields(t *testing.T) {
 	for kind := -3; kind <= 12; kind++ {
-		a, b := all(kind, 1, "a", num(1)), all(kind, 2, "b", num(2), num(3))
+		a, b := all(kind, 1, "a", some.Num(1)), all(kind, 2, "b", some.Num(2), some.Num(3))
 		switch kind {
 		case api.Bool:
 			b.Bool = a.Bool
@@ -296,13 +248,13 @@ func TestP3_1OtherFields(t *testing.T) {
 		case api.Ref:
 			b.Uid = a.Uid
 		case api.Set:
-			b.Items = clone(a).Items
+			b.Items = some.Clone(a).Items
 		case api.Record:
-			b.Items, b.Names = append(clone(a).Items, num(3)), clone(a).Names // the last one has no name
+			b.Items, b.Names = append(some.Clone(a).Items, some.Num(3)), some.Clone(a).Names // the last one has no name
 		}
 		wantOrder(t, a, b, 0)
 		wantOrder(t, b, a, 0)
-		wantOrder(t, set(a), set(b), 0)
+		wantOrder(t, some.Set(a), some.Set(b), 0)
 		wantOrder(t, a, all(kind+1, 0, ""), -1)
 		wantOrder(t, b, all(kind-1, 0, ""), 1)
 	}
@@ -313,19 +265,19 @@ func TestP3_1Records(t *testing.T) {
 		a, b api.Value
 		want int
 	}{
-		{record("a", num(9)), record("b", num(1)), -1},                            // names are ahead of items
-		{record("a", num(9)), record("a b", num(1), num(1)), -1},                  // as is how many they are
-		{record("a c", num(1), num(1)), record("a b c", num(2), num(2)), 1},       // but behind the names themselves
-		{record("a b", num(1), num(2)), record("b a", num(2), num(1)), -1},        // as they stand
-		{record("a", num(1), num(2)), record("a", num(1), num(3)), 0},             // an item without a name
-		{record("", num(1)), record("", num(2), num(3)), 0},                       // and without any
-		{record("", num(1)), record(""), 0},                                       //
-		{record("a b", num(1)), record("a b", num(1), num(-9)), -1},               // a missing item
-		{record("a b", num(1)), record("a b", num(1), api.Value{}), -1},           // is ahead of whatever is there
-		{record("a b", num(2)), record("a b", num(1), num(1)), 1},                 // but behind the items ahead of it
-		{record("a b"), record("a b", api.Value{Kind: math.MinInt}), -1},          //
-		{record("a b"), record("a b"), 0},                                         // both miss them
-		{record("a b", num(1), num(1)), record("a b", num(1), num(1), num(1)), 0}, //
+		{some.Record("a", some.Num(9)), some.Record("b", some.Num(1)), -1},                                           // names are ahead of items
+		{some.Record("a", some.Num(9)), some.Record("a b", some.Num(1), some.Num(1)), -1},                            // as is how many they are
+		{some.Record("a c", some.Num(1), some.Num(1)), some.Record("a b c", some.Num(2), some.Num(2)), 1},            // but behind the names themselves
+		{some.Record("a b", some.Num(1), some.Num(2)), some.Record("b a", some.Num(2), some.Num(1)), -1},             // as they stand
+		{some.Record("a", some.Num(1), some.Num(2)), some.Record("a", some.Num(1), some.Num(3)), 0},                  // an item without a name
+		{some.Record("", some.Num(1)), some.Record("", some.Num(2), some.Num(3)), 0},                                 // and without any
+		{some.Record("", some.Num(1)), some.Record(""), 0},                                                           //
+		{some.Record("a b", some.Num(1)), some.Record("a b", some.Num(1), some.Num(-9)), -1},                         // a missing item
+		{some.Record("a b", some.Num(1)), some.Record("a b", some.Num(1), api.Value{}), -1},                          // is ahead of whatever is there
+		{some.Record("a b", some.Num(2)), some.Record("a b", some.Num(1), some.Num(1)), 1},                           // but behind the items ahead of it
+		{some.Record("a b"), some.Record("a b", api.Value{Kind: math.MinInt}), -1},                                   //
+		{some.Record("a b"), some.Record("a b"), 0},                                                                  // both miss them
+		{some.Record("a b", some.Num(1), some.Num(1)), some.Record("a b", some.Num(1), some.Num(1), some.Num(1)), 0}, //
 	} {
 		wantOrder(t, c.a, c.b, c.want)
 		wantOrder(t, c.b, c.a, -c.want)
@@ -364,29 +316,29 @@ func TestP3_1Pairs(t *testing.T) {
 
 func TestP3_2Canon(t *testing.T) {
 	for _, c := range []struct{ v, want api.Value }{
-		{set(num(2), num(1), num(2)), set(num(1), num(2))}, // the document's example
-		{truth(true), truth(true)},
-		{truth(false), truth(false)},
-		{num(math.MinInt64), num(math.MinInt64)},
-		{text(""), text("")},
-		{text("a\x00\xff"), text("a\x00\xff")},
-		{ref("", ""), ref("", "")},
-		{ref("U", "a"), ref("U", "a")},
-		{set(), set()},
-		{api.Value{Kind: api.Set, Items: []api.Value{}, Names: []string{}}, set()},
-		{record(""), record("")},
-		{set(num(3), num(2), num(1)), set(num(1), num(2), num(3))},
-		{set(num(1), num(1), num(1)), set(num(1))},
-		{set(record(""), set(), ref("a", "a"), text("a"), num(1), truth(true), truth(false)), set(truth(false), truth(true), num(1), text("a"), ref("a", "a"), set(), record(""))},
-		{set(text("ab"), text("a"), text("\xff"), text(""), text("b"), text("a")), set(text(""), text("a"), text("ab"), text("b"), text("\xff"))},
-		{set(set(num(2), num(1)), set(num(1), num(2), num(1))), set(set(num(1), num(2)))}, // the same, once they are as they must be
-		{set(set(num(3), num(1)), set(num(2), num(1))), set(set(num(1), num(2)), set(num(1), num(3)))},
-		{set(set(num(2), num(1)), set(num(1), num(3))), set(set(num(1), num(2)), set(num(1), num(3)))},
-		{set(record("b a", num(1), num(2)), record("a b", num(2), num(1))), set(record("a b", num(2), num(1)))},
-		{record("b a", num(1), num(2)), record("a b", num(2), num(1))},
-		{record("b a c", set(num(2), num(1)), num(7), record("z y", num(1), num(2))), record("a b c", num(7), set(num(1), num(2)), record("y z", num(2), num(1)))},
-		{record("a b", num(1), num(1)), record("a b", num(1), num(1))},
-		{api.Value{Kind: api.Record, Names: []string{"a b", "", "\xff", "A"}, Items: numbers(4)}, api.Value{Kind: api.Record, Names: []string{"", "A", "a b", "\xff"}, Items: []api.Value{num(3), num(1), num(4), num(2)}}},
+		{some.Set(some.Num(2), some.Num(1), some.Num(2)), some.Set(some.Num(1), some.Num(2))}, // the document's example
+		{some.Truth(true), some.Truth(true)},
+		{some.Truth(false), some.Truth(false)},
+		{some.Num(math.MinInt64), some.Num(math.MinInt64)},
+		{some.Text(""), some.Text("")},
+		{some.Text("a\x00\xff"), some.Text("a\x00\xff")},
+		{some.Ref("", ""), some.Ref("", "")},
+		{some.Ref("U", "a"), some.Ref("U", "a")},
+		{some.Set(), some.Set()},
+		{api.Value{Kind: api.Set, Items: []api.Value{}, Names: []string{}}, some.Set()},
+		{some.Record(""), some.Record("")},
+		{some.Set(some.Num(3), some.Num(2), some.Num(1)), some.Set(some.Num(1), some.Num(2), some.Num(3))},
+		{some.Set(some.Num(1), some.Num(1), some.Num(1)), some.Set(some.Num(1))},
+		{some.Set(some.Record(""), some.Set(), some.Ref("a", "a"), some.Text("a"), some.Num(1), some.Truth(true), some.Truth(false)), some.Set(some.Truth(false), some.Truth(true), some.Num(1), some.Text("a"), some.Ref("a", "a"), some.Set(), some.Record(""))},
+		{some.Set(some.Text("ab"), some.Text("a"), some.Text("\xff"), some.Text(""), some.Text("b"), some.Text("a")), some.Set(some.Text(""), some.Text("a"), some.Text("ab"), some.Text("b"), some.Text("\xff"))},
+		{some.Set(some.Set(some.Num(2), some.Num(1)), some.Set(some.Num(1), some.Num(2), some.Num(1))), some.Set(some.Set(some.Num(1), some.Num(2)))}, // the same, once they are as they must be
+		{some.Set(some.Set(some.Num(3), some.Num(1)), some.Set(some.Num(2), some.Num(1))), some.Set(some.Set(some.Num(1), some.Num(2)), some.Set(some.Num(1), some.Num(3)))},
+		{some.Set(some.Set(some.Num(2), some.Num(1)), some.Set(some.Num(1), some.Num(3))), some.Set(some.Set(some.Num(1), some.Num(2)), some.Set(some.Num(1), some.Num(3)))},
+		{some.Set(some.Record("b a", some.Num(1), some.Num(2)), some.Record("a b", some.Num(2), some.Num(1))), some.Set(some.Record("a b", some.Num(2), some.Num(1)))},
+		{some.Record("b a", some.Num(1), some.Num(2)), some.Record("a b", some.Num(2), some.Num(1))},
+		{some.Record("b a c", some.Set(some.Num(2), some.Num(1)), some.Num(7), some.Record("z y", some.Num(1), some.Num(2))), some.Record("a b c", some.Num(7), some.Set(some.Num(1), some.Num(2)), some.Record("y z", some.Num(2), some.Num(1)))},
+		{some.Record("a b", some.Num(1), some.Num(1)), some.Record("a b", some.Num(1), some.Num(1))},
+		{api.Value{Kind: api.Record, Names: []string{"a b", "", "\xff", "A"}, Items: numbers(4)}, api.Value{Kind: api.Record, Names: []string{"", "A", "a b", "\xff"}, Items: []api.Value{some.Num(3), some.Num(1), some.Num(4), some.Num(2)}}},
 	} {
 		wantCanon(t, c.v, c.want)
 	}
@@ -394,25 +346,25 @@ func TestP3_2Canon(t *testing.T) {
 
 // TestP3_2OtherFields has what a kind has not: it is left out, and what is wrong in it is no error.
 func TestP3_2OtherFields(t *testing.T) {
-	wrong := []api.Value{{Kind: 9}, record("a"), record("a a", num(1), num(1)), tower(60, num(1)), set(numbers(5000)...)}
+	wrong := []api.Value{{Kind: 9}, some.Record("a"), some.Record("a a", some.Num(1), some.Num(1)), some.Tower(60, some.Num(1)), some.Set(numbers(5000)...)}
 	for _, c := range []struct {
 		kind int
 		want api.Value
-	}{{api.Bool, truth(true)}, {api.Int, num(5)}, {api.Text, text("t")}, {api.Ref, ref("t", "t")}} {
+	}{{api.Bool, some.Truth(true)}, {api.Int, some.Num(5)}, {api.Text, some.Text("t")}, {api.Ref, some.Ref("t", "t")}} {
 		v := all(c.kind, 5, "t", wrong...)
 		wantCanon(t, v, c.want)
-		wantCanon(t, set(v, c.want), set(c.want))
-		wantCanon(t, record("a", v), record("a", c.want))
+		wantCanon(t, some.Set(v, c.want), some.Set(c.want))
+		wantCanon(t, some.Record("a", v), some.Record("a", c.want))
 		v.Names = []string{"a", "a"}
 		wantCanon(t, v, c.want)
 	}
-	wantCanon(t, all(api.Set, 5, "t", num(2), num(1)), set(num(1), num(2)))
-	v := all(api.Set, 5, "t", num(2), num(1))
+	wantCanon(t, all(api.Set, 5, "t", some.Num(2), some.Num(1)), some.Set(some.Num(1), some.Num(2)))
+	v := all(api.Set, 5, "t", some.Num(2), some.Num(1))
 	v.Names = []string{"a", "a", "a"}
-	wantCanon(t, v, set(num(1), num(2)))
+	wantCanon(t, v, some.Set(some.Num(1), some.Num(2)))
 	v = all(api.Record, 5, "t", all(api.Int, 2, "u"), all(api.Text, 2, "u"))
 	v.Names = []string{"b", "a"}
-	wantCanon(t, v, record("a b", text("u"), num(2)))
+	wantCanon(t, v, some.Record("a b", some.Text("u"), some.Num(2)))
 }
 
 func TestP3_2Arg(t *testing.T) {
@@ -420,41 +372,41 @@ func TestP3_2Arg(t *testing.T) {
 		name := fmt.Sprint("a kind ", kind)
 		v := all(kind, 1, "a")
 		wantError(t, name, v, api.ErrArg)
-		wantError(t, name+" in a set", set(num(1), v, num(2)), api.ErrArg)
-		wantError(t, name+" in a record", record("a b", num(1), v), api.ErrArg)
-		wantError(t, name+" far inside", tower(49, v), api.ErrArg)
+		wantError(t, name+" in a set", some.Set(some.Num(1), v, some.Num(2)), api.ErrArg)
+		wantError(t, name+" in a record", some.Record("a b", some.Num(1), v), api.ErrArg)
+		wantError(t, name+" far inside", some.Tower(49, v), api.ErrArg)
 	}
 	for _, v := range []api.Value{
-		record("a"), record("", num(1)), record("a b", num(1)), record("a", num(1), num(2)), record("a a", num(1)), record("a a a", num(1), num(1)),
+		some.Record("a"), some.Record("", some.Num(1)), some.Record("a b", some.Num(1)), some.Record("a", some.Num(1), some.Num(2)), some.Record("a a", some.Num(1)), some.Record("a a a", some.Num(1), some.Num(1)),
 		{Kind: api.Record, Names: names(5000)}, {Kind: api.Record, Items: numbers(5000)}, {Kind: api.Record, Names: names(4097), Items: numbers(4096)},
 	} {
 		wantError(t, "a record with other numbers", v, api.ErrArg)
-		wantError(t, "one in a set", set(set(), v), api.ErrArg)
-		wantError(t, "one in a record", record("a b", set(), v), api.ErrArg)
+		wantError(t, "one in a set", some.Set(some.Set(), v), api.ErrArg)
+		wantError(t, "one in a record", some.Record("a b", some.Set(), v), api.ErrArg)
 	}
 }
 
 func TestP3_2Deep(t *testing.T) {
-	for _, innermost := range []api.Value{num(1), text("a"), set(), record("")} {
-		v := tower(api.MaxDepth, innermost)
+	for _, innermost := range []api.Value{some.Num(1), some.Text("a"), some.Set(), some.Record("")} {
+		v := some.Tower(api.MaxDepth, innermost)
 		wantCanon(t, v, v)
-		wantError(t, "one too deep", tower(api.MaxDepth+1, innermost), api.ErrDeep)
-		wantError(t, "a set of one", set(v), api.ErrDeep)
-		wantError(t, "the last of a set", set(num(1), tower(3, num(1)), v), api.ErrDeep)
-		wantError(t, "the last of a record", record("a b", num(1), v), api.ErrDeep)
+		wantError(t, "one too deep", some.Tower(api.MaxDepth+1, innermost), api.ErrDeep)
+		wantError(t, "a set of one", some.Set(v), api.ErrDeep)
+		wantError(t, "the last of a set", some.Set(some.Num(1), some.Tower(3, some.Num(1)), v), api.ErrDeep)
+		wantError(t, "the last of a record", some.Record("a b", some.Num(1), v), api.ErrDeep)
 	}
-	wantError(t, "very deep", tower(1<<16, num(1)), api.ErrDeep)
-	within := set(num(1), api.Value{})
+	wantError(t, "very deep", some.Tower(1<<16, some.Num(1)), api.ErrDeep)
+	within := some.Set(some.Num(1), api.Value{})
 	within.Items[1] = within
 	wantError(t, "a set within itself", within, api.ErrDeep)
-	within = record("a b", num(1), api.Value{})
+	within = some.Record("a b", some.Num(1), api.Value{})
 	within.Items[0] = within
 	wantError(t, "a record within itself", within, api.ErrDeep)
-	v := tower(api.MaxDepth, all(api.Int, 1, "a", tower(5, num(1)))) // what an Int has no use for isn't nested in it
+	v := some.Tower(api.MaxDepth, all(api.Int, 1, "a", some.Tower(5, some.Num(1)))) // what an Int has no use for isn't nested in it
 	if Depth(v) != api.MaxDepth {
 		t.Error(Depth(v))
 	}
-	wantCanon(t, v, tower(api.MaxDepth, num(1)))
+	wantCanon(t, v, some.Tower(api.MaxDepth, some.Num(1)))
 }
 
 func TestP3_2Long(t *testing.T) {
@@ -462,75 +414,75 @@ func TestP3_2Long(t *testing.T) {
 	most := items[1:] // from MaxItems down to 1
 	rising := slices.Clone(most)
 	slices.Reverse(rising)
-	wantCanon(t, set(most...), set(rising...))
-	wantError(t, "a long set", set(items...), api.ErrLong)
-	wantError(t, "one in a set", set(set(items...)), api.ErrLong)
-	wantError(t, "one in a record", record("a b", num(1), set(items...)), api.ErrLong)
+	wantCanon(t, some.Set(most...), some.Set(rising...))
+	wantError(t, "a long set", some.Set(items...), api.ErrLong)
+	wantError(t, "one in a set", some.Set(some.Set(items...)), api.ErrLong)
+	wantError(t, "one in a record", some.Record("a b", some.Num(1), some.Set(items...)), api.ErrLong)
 	n := names(api.MaxItems + 1)
 	risingNames := slices.Clone(n[1:])
 	slices.Reverse(risingNames)
 	wantCanon(t, api.Value{Kind: api.Record, Names: n[1:], Items: most}, api.Value{Kind: api.Record, Names: risingNames, Items: rising})
 	wantError(t, "a long record", api.Value{Kind: api.Record, Names: n, Items: items}, api.ErrLong)
 	// How many a set has is asked of the set that is handed in, not of the one that is told.
-	equal := slices.Repeat([]api.Value{num(1)}, api.MaxItems)
-	wantCanon(t, set(equal...), set(num(1)))
-	wantError(t, "a long set of one value", set(append(equal, num(1))...), api.ErrLong)
-	wantCanon(t, set(set(most...), set(most[1:]...)), set(set(rising[:api.MaxItems-1]...), set(rising...))) // more in all than one may have
+	equal := slices.Repeat([]api.Value{some.Num(1)}, api.MaxItems)
+	wantCanon(t, some.Set(equal...), some.Set(some.Num(1)))
+	wantError(t, "a long set of one value", some.Set(append(equal, some.Num(1))...), api.ErrLong)
+	wantCanon(t, some.Set(some.Set(most...), some.Set(most[1:]...)), some.Set(some.Set(rising[:api.MaxItems-1]...), some.Set(rising...))) // more in all than one may have
 }
 
 func TestP3_2Twice(t *testing.T) {
 	for _, v := range []api.Value{
-		record("a a", num(1), num(1)), record("a a", num(1), num(2)), record("a b a", num(1), num(2), num(3)), record("b a c b", num(1), num(2), num(3), num(4)),
+		some.Record("a a", some.Num(1), some.Num(1)), some.Record("a a", some.Num(1), some.Num(2)), some.Record("a b a", some.Num(1), some.Num(2), some.Num(3)), some.Record("b a c b", some.Num(1), some.Num(2), some.Num(3), some.Num(4)),
 		{Kind: api.Record, Names: []string{"", ""}, Items: numbers(2)}, {Kind: api.Record, Names: append(names(4095), "n000001"), Items: numbers(4096)},
 	} {
 		wantError(t, "a name twice", v, api.ErrTwice)
-		wantError(t, "that in a set", set(num(1), v), api.ErrTwice)
-		wantError(t, "that in a record", record("a b", num(1), v), api.ErrTwice)
+		wantError(t, "that in a set", some.Set(some.Num(1), v), api.ErrTwice)
+		wantError(t, "that in a record", some.Record("a b", some.Num(1), v), api.ErrTwice)
 	}
-	v := record("a b", record("a b", num(1), num(2)), record("a b", num(1), num(2))) // once in each
+	v := some.Record("a b", some.Record("a b", some.Num(1), some.Num(2)), some.Record("a b", some.Num(1), some.Num(2))) // once in each
 	wantCanon(t, v, v)
 }
 
 // TestP3_2Several has several faults each, of which one is told.
 func TestP3_2Several(t *testing.T) {
-	arg, twice := api.Value{}, record("a a", num(1), num(1))
-	long, deep := set(numbers(api.MaxItems+1)...), tower(api.MaxDepth+1, num(1))
+	arg, twice := api.Value{}, some.Record("a a", some.Num(1), some.Num(1))
+	long, deep := some.Set(numbers(api.MaxItems+1)...), some.Tower(api.MaxDepth+1, some.Num(1))
 	numbersAnd := func(l ...api.Value) []api.Value { return append(numbers(api.MaxItems), l...) }
 	for _, c := range []struct {
 		name string
 		v    api.Value
 		want api.Errno
 	}{
-		{"a kind, deep", set(arg, deep), api.ErrDeep},
-		{"long, twice, deep", record("a a", long, deep), api.ErrDeep},
-		{"other numbers, deep", record("a", num(1), deep), api.ErrDeep},
-		{"a kind as deep as may be, one deeper", set(tower(49, arg), tower(50, arg)), api.ErrDeep},
-		{"long, with a deep one", set(numbersAnd(deep)...), api.ErrDeep},
-		{"another kind with deep items, a kind", set(all(api.Int, 1, "a", deep), arg), api.ErrArg},
+		{"a kind, deep", some.Set(arg, deep), api.ErrDeep},
+		{"long, twice, deep", some.Record("a a", long, deep), api.ErrDeep},
+		{"other numbers, deep", some.Record("a", some.Num(1), deep), api.ErrDeep},
+		{"a kind as deep as may be, one deeper", some.Set(some.Tower(49, arg), some.Tower(50, arg)), api.ErrDeep},
+		{"long, with a deep one", some.Set(numbersAnd(deep)...), api.ErrDeep},
+		{"another kind with deep items, a kind", some.Set(all(api.Int, 1, "a", deep), arg), api.ErrArg},
 		{"a kind with deep items", all(9, 1, "a", deep), api.ErrArg},
-		{"a kind, twice", set(arg, twice), api.ErrArg},
-		{"twice, a kind", set(twice, arg), api.ErrTwice},
-		{"long, a kind", set(long, arg), api.ErrLong},
-		{"a kind, long", set(arg, long), api.ErrArg},
-		{"twice, long", set(twice, long), api.ErrTwice},
-		{"long, twice", set(long, twice), api.ErrLong},
-		{"far inside, one by one", set(set(set(twice)), arg), api.ErrTwice},
-		{"a record's items in their order, not by names", record("b a", twice, arg), api.ErrTwice},
-		{"a record's items in their order, not by names", record("b a", arg, twice), api.ErrArg},
-		{"other numbers, a twice inside", record("a", twice, num(1)), api.ErrArg},
-		{"other numbers, twice", record("a a", num(1), num(1), num(1)), api.ErrArg},
+		{"a kind, twice", some.Set(arg, twice), api.ErrArg},
+		{"twice, a kind", some.Set(twice, arg), api.ErrTwice},
+		{"long, a kind", some.Set(long, arg), api.ErrLong},
+		{"a kind, long", some.Set(arg, long), api.ErrArg},
+		{"twice, long", some.Set(twice, long), api.ErrTwice},
+		{"long, twice", some.Set(long, twice), api.ErrLong},
+		{"far inside, one by one", some.Set(some.Set(some.Set(twice)), arg), api.ErrTwice},
+		{"a record's items in their order, not by names", some.Record("b a", twice, arg), api.ErrTwice},
+		{"a record's items in their order, not by names", some.Record("b a", arg, twice), api.ErrArg},
+		{"other numbers, a twice inside", some.Record("a", twice, some.Num(1)), api.ErrArg},
+		{"other numbers, twice", some.Record("a a", some.Num(1), some.Num(1), some.Num(1)), api.ErrArg},
 		{"other numbers, long", api.Value{Kind: api.Record, Names: []string{"a"}, Items: numbers(5000)}, api.ErrArg},
-		{"other numbers, a long one inside", record("a", long, num(1)), api.ErrArg},
-		{"twice, a kind inside", record("a a", num(1), arg), api.ErrArg},
-		{"twice, a long one inside", record("a a", num(1), long), api.ErrLong},
-		{"long, a kind at the end", set(numbersAnd(arg)...), api.ErrArg},
-		{"long, twice at the end", set(numbersAnd(twice)...), api.ErrTwice},
+		{"other numbers, a long one inside", some.Record("a", long, some.Num(1)), api.ErrArg},
+		{"twice, a kind inside", some.Record("a a", some.Num(1), arg), api.ErrArg},
+		{"twice, a long one inside", some.Record("a a", some.Num(1), long), api.ErrLong},
+		{"long, a kind at the end", some.Set(numbersAnd(arg)...), api.ErrArg},
+		{"long, twice at the end", some.Set(numbersAnd(twice)...), api.ErrTwice},
 		{"long record, twice at the end", api.Value{Kind: api.Record, Names: names(4097), Items: numbersAnd(twice)}, api.ErrTwice},
 		{"long record, a name twice", api.Value{Kind: api.Record, Names: append(names(4096), "n000001"), Items: numbers(4097)}, api.ErrLong},
 		{"long record of one name", api.Value{Kind: api.Record, Names: slices.Repeat([]string{"a"}, 4097), Items: numbers(4097)}, api.ErrLong},
 	} {
 		wantError(t, c.name, c.v, c.want)
-		wantError(t, "a set of "+c.name, set(c.v), c.want)
+		wantError(t, "a set of "+c.name, some.Set(c.v), c.want)
 	}
 }
 
@@ -574,13 +526,13 @@ func TestP3_2Spread(t *testing.T) {
 
 // TestP3_2Memory holds that what is handed in stays, and that what is told is in new memory, each list in its own.
 func TestP3_2Memory(t *testing.T) {
-	for _, v := range append(spread(500, true), set(numbers(50)...), api.Value{Kind: api.Record, Names: names(50), Items: numbers(50)}) {
-		was := clone(v)
+	for _, v := range append(spread(500, true), some.Set(numbers(50)...), api.Value{Kind: api.Record, Names: names(50), Items: numbers(50)}) {
+		was := some.Clone(v)
 		c, e := Canon(v)
 		if e != api.OK || !reflect.DeepEqual(v, was) {
 			t.Fatalf("Canon of %v, %d: it is %v then", was, e, v)
 		}
-		told := clone(c)
+		told := some.Clone(c)
 		spoil(c)
 		if !reflect.DeepEqual(v, was) {
 			t.Fatalf("%v: it is %v once its Canon is changed", was, v)
@@ -591,106 +543,106 @@ func TestP3_2Memory(t *testing.T) {
 			t.Fatalf("Canon of %v is %v once it is changed itself; not %v", was, c, told)
 		}
 	}
-	shared := set(num(2), num(1), record("b a", num(1), num(2)))
-	c, _ := Canon(record("a b c", shared, shared, set(shared)))
+	shared := some.Set(some.Num(2), some.Num(1), some.Record("b a", some.Num(1), some.Num(2)))
+	c, _ := Canon(some.Record("a b c", shared, shared, some.Set(shared)))
 	spoil(c.Items[0])
-	want := set(num(1), num(2), record("a b", num(2), num(1)))
-	if !equal(c.Items[1], want) || !equal(c.Items[2], set(want)) {
+	want := some.Set(some.Num(1), some.Num(2), some.Record("a b", some.Num(2), some.Num(1)))
+	if !some.Equal(c.Items[1], want) || !some.Equal(c.Items[2], some.Set(want)) {
 		t.Error("places of one answer share memory:", c)
 	}
 	row := numbers(4)
-	Canon(set(set(row[:2]...), set(row[:1]...)))
-	if !equal(set(row...), set(numbers(4)...)) {
+	Canon(some.Set(some.Set(row[:2]...), some.Set(row[:1]...)))
+	if !some.Equal(some.Set(row...), some.Set(numbers(4)...)) {
 		t.Error("what stands behind a list is changed:", row)
 	}
 }
 
 func TestP3_3Holds(t *testing.T) {
-	twins := set(num(1), all(api.Text, 1, "a", num(1)), set(num(2), num(1)), all(9, 1, "a"))
+	twins := some.Set(some.Num(1), all(api.Text, 1, "a", some.Num(1)), some.Set(some.Num(2), some.Num(1)), all(9, 1, "a"))
 	for _, c := range []struct {
 		set, v api.Value
 		want   bool
 	}{
-		{set(num(1), text("2")), num(1), true},
-		{set(num(1), text("2")), text("2"), true},
-		{set(num(1), text("1")), num(2), false},
-		{set(num(1)), text("1"), false}, // as the document's example
-		{set(text("1")), num(1), false},
-		{set(num(1), text("1")), set(num(1)), false},
-		{set(), num(1), false},
-		{set(), set(), false},
-		{set(set()), set(), true},
-		{set(num(3), num(1), num(2)), num(2), true}, // whatever its order
-		{set(num(3), num(1), num(2)), num(3), true},
-		{set(num(1)), set(num(1)), false},
-		{set(set(num(1))), num(1), false},
-		{set(truth(false)), truth(false), true},
-		{set(truth(false)), truth(true), false},
-		{set(ref("U", "a")), ref("U", "a"), true},
-		{set(ref("U", "a")), ref("U", "b"), false},
-		{set(ref("U", "a")), ref("V", "a"), false},
-		{set(record("a", num(1))), record("a", num(1)), true},
-		{set(record("a", num(1))), record("a", num(2)), false},
-		{set(record("a", num(1))), record("b", num(1)), false},
-		{twins, text("a"), true}, // what its kind has not doesn't count
-		{twins, set(num(2), num(1)), true},
-		{twins, set(num(1), num(2)), false}, // neither is as it must be
-		{twins, all(9, 2, "b", num(3)), true},
+		{some.Set(some.Num(1), some.Text("2")), some.Num(1), true},
+		{some.Set(some.Num(1), some.Text("2")), some.Text("2"), true},
+		{some.Set(some.Num(1), some.Text("1")), some.Num(2), false},
+		{some.Set(some.Num(1)), some.Text("1"), false}, // as the document's example
+		{some.Set(some.Text("1")), some.Num(1), false},
+		{some.Set(some.Num(1), some.Text("1")), some.Set(some.Num(1)), false},
+		{some.Set(), some.Num(1), false},
+		{some.Set(), some.Set(), false},
+		{some.Set(some.Set()), some.Set(), true},
+		{some.Set(some.Num(3), some.Num(1), some.Num(2)), some.Num(2), true}, // whatever its order
+		{some.Set(some.Num(3), some.Num(1), some.Num(2)), some.Num(3), true},
+		{some.Set(some.Num(1)), some.Set(some.Num(1)), false},
+		{some.Set(some.Set(some.Num(1))), some.Num(1), false},
+		{some.Set(some.Truth(false)), some.Truth(false), true},
+		{some.Set(some.Truth(false)), some.Truth(true), false},
+		{some.Set(some.Ref("U", "a")), some.Ref("U", "a"), true},
+		{some.Set(some.Ref("U", "a")), some.Ref("U", "b"), false},
+		{some.Set(some.Ref("U", "a")), some.Ref("V", "a"), false},
+		{some.Set(some.Record("a", some.Num(1))), some.Record("a", some.Num(1)), true},
+		{some.Set(some.Record("a", some.Num(1))), some.Record("a", some.Num(2)), false},
+		{some.Set(some.Record("a", some.Num(1))), some.Record("b", some.Num(1)), false},
+		{twins, some.Text("a"), true}, // what its kind has not doesn't count
+		{twins, some.Set(some.Num(2), some.Num(1)), true},
+		{twins, some.Set(some.Num(1), some.Num(2)), false}, // neither is as it must be
+		{twins, all(9, 2, "b", some.Num(3)), true},
 		{twins, all(8, 1, "a"), false},
-		{set(numbers(5000)...), num(1), true},
-		{set(numbers(5000)...), num(5001), false},
+		{some.Set(numbers(5000)...), some.Num(1), true},
+		{some.Set(numbers(5000)...), some.Num(5001), false},
 	} {
 		if Holds(c.set, c.v) != c.want {
 			t.Errorf("Holds(%.200s, %v): %t", fmt.Sprint(c.set), c.v, !c.want)
 		}
 	}
 	for kind := -2; kind <= 9; kind++ {
-		v := all(kind, 1, "a", num(1))
-		if Holds(v, num(1)) != (kind == api.Set) {
+		v := all(kind, 1, "a", some.Num(1))
+		if Holds(v, some.Num(1)) != (kind == api.Set) {
 			t.Errorf("Holds of kind %d: %t", kind, kind != api.Set)
 		}
 	}
 }
 
 func TestP3_3Get(t *testing.T) {
-	r := record("b a b c", num(1), text("x"), num(3))
+	r := some.Record("b a b c", some.Num(1), some.Text("x"), some.Num(3))
 	for _, c := range []struct {
 		record api.Value
 		name   string
 		want   api.Value
 		ok     bool
 	}{
-		{r, "a", text("x"), true},
-		{r, "b", num(1), true},       // the first one
+		{r, "a", some.Text("x"), true},
+		{r, "b", some.Num(1), true},  // the first one
 		{r, "c", api.Value{}, false}, // a name without an item
 		{r, "d", api.Value{}, false},
 		{r, "", api.Value{}, false},
 		{r, "A", api.Value{}, false},
 		{r, "ab", api.Value{}, false},
-		{record(""), "a", api.Value{}, false},
-		{record("a"), "a", api.Value{}, false},
-		{record("a a"), "a", api.Value{}, false},
-		{record("", num(1)), "", api.Value{}, false},
-		{record("a", num(1), num(2)), "a", num(1), true},
-		{record("a b c", num(1), num(2), num(3)), "c", num(3), true},
-		{api.Value{Kind: api.Record, Names: []string{"a ", ""}, Items: numbers(2)}, "", num(1), true},
+		{some.Record(""), "a", api.Value{}, false},
+		{some.Record("a"), "a", api.Value{}, false},
+		{some.Record("a a"), "a", api.Value{}, false},
+		{some.Record("", some.Num(1)), "", api.Value{}, false},
+		{some.Record("a", some.Num(1), some.Num(2)), "a", some.Num(1), true},
+		{some.Record("a b c", some.Num(1), some.Num(2), some.Num(3)), "c", some.Num(3), true},
+		{api.Value{Kind: api.Record, Names: []string{"a ", ""}, Items: numbers(2)}, "", some.Num(1), true},
 		{api.Value{Kind: api.Record, Names: []string{"a ", ""}, Items: numbers(2)}, "a", api.Value{}, false},
-		{record("a", record("b", num(1))), "a", record("b", num(1)), true},
-		{record("a", record("b", num(1))), "b", api.Value{}, false},
-		{record("a", all(9, 1, "z", num(1))), "a", all(9, 1, "z", num(1)), true},
+		{some.Record("a", some.Record("b", some.Num(1))), "a", some.Record("b", some.Num(1)), true},
+		{some.Record("a", some.Record("b", some.Num(1))), "b", api.Value{}, false},
+		{some.Record("a", all(9, 1, "z", some.Num(1))), "a", all(9, 1, "z", some.Num(1)), true},
 	} {
-		if v, ok := Get(c.record, c.name); ok != c.ok || !equal(v, c.want) {
+		if v, ok := Get(c.record, c.name); ok != c.ok || !some.Equal(v, c.want) {
 			t.Errorf("Get(%v, %q): %v, %t; not %v, %t", c.record, c.name, v, ok, c.want, c.ok)
 		}
 	}
 	for kind := -2; kind <= 9; kind++ {
-		v := all(kind, 1, "a", num(1))
+		v := all(kind, 1, "a", some.Num(1))
 		v.Names[0] = "a"
 		want := api.Value{}
 		if kind == api.Record {
-			want = num(1)
+			want = some.Num(1)
 		}
-		if v, ok := Get(v, "a"); ok != (kind == api.Record) || !equal(v, want) {
+		if v, ok := Get(v, "a"); ok != (kind == api.Record) || !some.Equal(v, want) {
 			t.Errorf("Get of kind %d: %v, %t", kind, v, ok)
 		}
 	}
@@ -701,7 +653,7 @@ func TestP3_4Order(t *testing.T) {
 	l := spread(150, false)
 	for _, a := range l {
 		wantOrder(t, a, a, 0)
-		wantOrder(t, a, clone(a), 0)
+		wantOrder(t, a, some.Clone(a), 0)
 		for _, b := range l {
 			o := Order(a, b)
 			if o < -1 || o > 1 || Order(b, a) != -o {
@@ -732,7 +684,7 @@ func TestP3_4CanonAgain(t *testing.T) {
 
 // shuffled is a value with each Set's Items in another order, some of them twice, and each Record's Names in another order.
 func (s *source) shuffled(v api.Value) api.Value {
-	v = clone(v)
+	v = some.Clone(v)
 	for i := range v.Items {
 		v.Items[i] = s.shuffled(v.Items[i])
 	}
@@ -778,7 +730,7 @@ func TestP3_4SameCanon(t *testing.T) {
 	}
 	for _, a := range l {
 		for _, b := range l {
-			if Same(a, b) != equal(a, b) {
+			if Same(a, b) != some.Equal(a, b) {
 				t.Fatalf("%v, %v: %t", a, b, Same(a, b))
 			}
 		}
@@ -792,32 +744,32 @@ func TestWordsDepth(t *testing.T) {
 		want int
 	}{
 		{api.Value{}, 1},
-		{truth(true), 1},
-		{num(1), 1},
-		{text("a"), 1},
-		{ref("a", "a"), 1},
-		{set(), 1},
-		{record(""), 1},
-		{record("a b"), 1},
-		{set(num(1)), 2},
-		{set(set()), 2},
-		{record("a", num(1)), 2},
-		{record("", num(1)), 2}, // Items count, whether they have Names or not
-		{record("", num(1), set(num(1))), 3},
-		{set(num(1), set(num(1), record("a", num(1))), num(2)), 4},
-		{set(tower(5, num(1)), tower(3, num(1))), 6},
-		{set(tower(3, num(1)), tower(5, num(1))), 6},
-		{record("a b", tower(3, num(1)), tower(7, num(1))), 8},
-		{all(api.Bool, 1, "a", set(num(1))), 1},
-		{all(api.Int, 1, "a", set(num(1))), 1},
-		{all(api.Text, 1, "a", set(num(1))), 1},
-		{all(api.Ref, 1, "a", set(num(1))), 1},
-		{all(0, 1, "a", set(num(1))), 1},
-		{all(7, 1, "a", set(num(1))), 1},
-		{all(-1, 1, "a", set(num(1))), 1},
-		{set(all(api.Int, 1, "a", set(num(1)))), 2},
-		{set(numbers(5000)...), 2},
-		{tower(1<<16, num(1)), 1 << 16},
+		{some.Truth(true), 1},
+		{some.Num(1), 1},
+		{some.Text("a"), 1},
+		{some.Ref("a", "a"), 1},
+		{some.Set(), 1},
+		{some.Record(""), 1},
+		{some.Record("a b"), 1},
+		{some.Set(some.Num(1)), 2},
+		{some.Set(some.Set()), 2},
+		{some.Record("a", some.Num(1)), 2},
+		{some.Record("", some.Num(1)), 2}, // Items count, whether they have Names or not
+		{some.Record("", some.Num(1), some.Set(some.Num(1))), 3},
+		{some.Set(some.Num(1), some.Set(some.Num(1), some.Record("a", some.Num(1))), some.Num(2)), 4},
+		{some.Set(some.Tower(5, some.Num(1)), some.Tower(3, some.Num(1))), 6},
+		{some.Set(some.Tower(3, some.Num(1)), some.Tower(5, some.Num(1))), 6},
+		{some.Record("a b", some.Tower(3, some.Num(1)), some.Tower(7, some.Num(1))), 8},
+		{all(api.Bool, 1, "a", some.Set(some.Num(1))), 1},
+		{all(api.Int, 1, "a", some.Set(some.Num(1))), 1},
+		{all(api.Text, 1, "a", some.Set(some.Num(1))), 1},
+		{all(api.Ref, 1, "a", some.Set(some.Num(1))), 1},
+		{all(0, 1, "a", some.Set(some.Num(1))), 1},
+		{all(7, 1, "a", some.Set(some.Num(1))), 1},
+		{all(-1, 1, "a", some.Set(some.Num(1))), 1},
+		{some.Set(all(api.Int, 1, "a", some.Set(some.Num(1)))), 2},
+		{some.Set(numbers(5000)...), 2},
+		{some.Tower(1<<16, some.Num(1)), 1 << 16},
 	} {
 		if d := Depth(c.v); d != c.want {
 			t.Errorf("Depth(%.200s): %d; not %d", fmt.Sprintf("%.200v", c.v), d, c.want)
@@ -827,14 +779,14 @@ func TestWordsDepth(t *testing.T) {
 
 // TestRulesDeep has values that are nested as deep as may be.
 func TestRulesDeep(t *testing.T) {
-	a, b := tower(1<<16, num(1)), tower(1<<16, num(2))
-	if Order(a, b) != -1 || Order(b, a) != 1 || Order(a, tower(1<<16, num(1))) != 0 || Same(a, b) || !Same(a, a) {
+	a, b := some.Tower(1<<16, some.Num(1)), some.Tower(1<<16, some.Num(2))
+	if Order(a, b) != -1 || Order(b, a) != 1 || Order(a, some.Tower(1<<16, some.Num(1))) != 0 || Same(a, b) || !Same(a, a) {
 		t.Error("Order")
 	}
-	if !Holds(set(b, a), a) || Holds(set(b), a) {
+	if !Holds(some.Set(b, a), a) || Holds(some.Set(b), a) {
 		t.Error("Holds")
 	}
-	if v, ok := Get(record("a", b), "a"); !ok || !Same(v, b) {
+	if v, ok := Get(some.Record("a", b), "a"); !ok || !Same(v, b) {
 		t.Error("Get")
 	}
 }
@@ -844,7 +796,7 @@ func TestRulesUnchanged(t *testing.T) {
 	l := spread(300, false)
 	for i, v := range l {
 		w := l[(i*7+1)%len(l)]
-		was, wasToo := clone(v), clone(w)
+		was, wasToo := some.Clone(v), some.Clone(w)
 		Order(v, w)
 		Same(v, w)
 		Canon(v)
