@@ -1,4 +1,4 @@
-// Package some makes values, and holds them against each other, for the tests of all layers. No layer calls it.
+// Package some makes values and entities, and holds them against each other, for the tests of all layers. No layer calls it.
 package some
 
 import (
@@ -43,6 +43,26 @@ func Tower(depth int, innermost api.Value) api.Value {
 	return v
 }
 
+// Uid is a name told by its Type, a slash and its Id.
+func Uid(name string) api.Uid {
+	typ, id, _ := strings.Cut(name, "/")
+	return api.Uid{Type: typ, Id: id}
+}
+
+// Uids are names told with blanks between them.
+func Uids(names string) []api.Uid {
+	var l []api.Uid
+	for _, name := range strings.Fields(names) {
+		l = append(l, Uid(name))
+	}
+	return l
+}
+
+// Entity is one without attributes, its parents told as by Uids.
+func Entity(name, parents string) api.Entity {
+	return api.Entity{Uid: Uid(name), Parents: Uids(parents), Attrs: Record("")}
+}
+
 // Clone is the same value in other memory, to the last field.
 func Clone(v api.Value) api.Value {
 	v.Names = slices.Clone(v.Names)
@@ -57,4 +77,21 @@ func Clone(v api.Value) api.Value {
 func Equal(a, b api.Value) bool {
 	return a.Kind == b.Kind && a.Bool == b.Bool && a.Int == b.Int && a.Text == b.Text && a.Uid == b.Uid &&
 		slices.Equal(a.Names, b.Names) && slices.EqualFunc(a.Items, b.Items, Equal)
+}
+
+// CloneAll are the same entities in other memory, to the last field.
+func CloneAll(l []api.Entity) []api.Entity {
+	c := slices.Clone(l)
+	for i := range c {
+		c[i].Parents = slices.Clone(c[i].Parents)
+		c[i].Attrs = Clone(c[i].Attrs)
+	}
+	return c
+}
+
+// EqualAll tells whether two lists of entities are alike, one by one, in all fields; nil and empty lists are.
+func EqualAll(a, b []api.Entity) bool {
+	return slices.EqualFunc(a, b, func(x, y api.Entity) bool {
+		return x.Uid == y.Uid && slices.Equal(x.Parents, y.Parents) && Equal(x.Attrs, y.Attrs)
+	})
 }
