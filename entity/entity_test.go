@@ -12,49 +12,6 @@ import (
 	"chamberlain/some"
 )
 
-// plain are entities without attributes, told as "name parent parent ..".
-func plain(entities ...string) []api.Entity {
-	var l []api.Entity
-	for _, told := range entities {
-		name, parents, _ := strings.Cut(told, " ")
-		l = append(l, some.Entity(name, parents))
-	}
-	return l
-}
-
-// with is an entity with attributes.
-func with(name, parents string, attrs api.Value) api.Entity {
-	e := some.Entity(name, parents)
-	e.Attrs = attrs
-	return e
-}
-
-// line are n entities, each one below the next, and the last one below those that are told.
-func line(n int, last string) []api.Entity {
-	var l []api.Entity
-	for i := range n {
-		parents := fmt.Sprintf("U/%d", i+1)
-		if i == n-1 {
-			parents = last
-		}
-		l = append(l, some.Entity(fmt.Sprintf("U/%d", i), parents))
-	}
-	return l
-}
-
-// ladder are two entities on each of n levels, each one below both of the next level: 2^n ways lead up.
-func ladder(n int) []api.Entity {
-	var l []api.Entity
-	for i := range n {
-		parents := fmt.Sprintf("U/%d V/%d", i+1, i+1)
-		if i == n-1 {
-			parents = ""
-		}
-		l = append(l, some.Entity(fmt.Sprintf("U/%d", i), parents), some.Entity(fmt.Sprintf("V/%d", i), parents))
-	}
-	return l
-}
-
 // textOrder is the order of texts by the document's words: an oracle.
 func textOrder(a, b string) int {
 	for i := range min(len(a), len(b)) {
@@ -212,32 +169,32 @@ func TestP5_1Round(t *testing.T) {
 		{[]api.Entity{}, false},
 		{[]api.Entity{{}}, false},
 		{[]api.Entity{{Parents: []api.Uid{{}}}}, true}, // empty texts are a name too
-		{plain("U/a"), false},
-		{plain("U/a U/a"), true},
-		{plain("U/a U/b", "U/b"), false},
-		{plain("U/a", "U/b U/a"), false},
-		{plain("U/a U/b", "U/b U/a"), true}, // as the document's example
-		{plain("U/a U/b", "U/b U/b"), true},
-		{plain("U/a U/b U/b", "U/b"), false},
-		{plain("U/a U/b U/b U/b", "U/b U/a U/a"), true},
-		{plain("U/a U/b", "U/b U/c", "U/c"), false},
-		{plain("U/a U/b", "U/b U/c", "U/c U/a"), true},
-		{plain("U/c U/b", "U/b U/a", "U/a U/c"), true},
-		{plain("U/a U/b", "U/b U/c", "U/c U/b"), true}, // a way into a round is none itself
-		{plain("U/a", "U/b", "U/c", "U/d U/c", "U/e U/e", "U/f"), true},
-		{plain("U/a U/b U/c", "U/b U/d", "U/c U/d", "U/d"), false},
-		{plain("U/a U/b U/c", "U/b U/d", "U/c U/d", "U/d U/e", "U/e"), false},
-		{plain("U/a U/b U/c", "U/b U/d", "U/c U/d", "U/d U/a"), true},
-		{plain("U/a U/c U/b", "U/b", "U/c U/b", "U/d U/a U/b U/c"), false},
-		{plain("U/a U/c U/b", "U/b U/d", "U/c U/b", "U/d U/c"), true},
-		{plain("U/a", "U/b U/a", "U/c U/a", "U/d U/a"), false},
-		{plain("U/a U/b", "U/b U/a", "U/c U/d", "U/d U/c"), true},
-		{plain("U/a V/a", "V/a"), false}, // a name is its Type and its Id
-		{plain("U/a V/a", "V/a U/b", "U/b"), false},
-		{plain("U/a U/b", "V/a U/a", "U/b V/b", "V/b"), false},
-		{plain("U/a V/a", "V/a U/a"), true},
-		{plain("U/ab Ua/b"), false},
-		{plain("U/ab Ua/b", "Ua/b"), false},
+		{some.Entities("U/a"), false},
+		{some.Entities("U/a U/a"), true},
+		{some.Entities("U/a U/b", "U/b"), false},
+		{some.Entities("U/a", "U/b U/a"), false},
+		{some.Entities("U/a U/b", "U/b U/a"), true}, // as the document's example
+		{some.Entities("U/a U/b", "U/b U/b"), true},
+		{some.Entities("U/a U/b U/b", "U/b"), false},
+		{some.Entities("U/a U/b U/b U/b", "U/b U/a U/a"), true},
+		{some.Entities("U/a U/b", "U/b U/c", "U/c"), false},
+		{some.Entities("U/a U/b", "U/b U/c", "U/c U/a"), true},
+		{some.Entities("U/c U/b", "U/b U/a", "U/a U/c"), true},
+		{some.Entities("U/a U/b", "U/b U/c", "U/c U/b"), true}, // a way into a round is none itself
+		{some.Entities("U/a", "U/b", "U/c", "U/d U/c", "U/e U/e", "U/f"), true},
+		{some.Entities("U/a U/b U/c", "U/b U/d", "U/c U/d", "U/d"), false},
+		{some.Entities("U/a U/b U/c", "U/b U/d", "U/c U/d", "U/d U/e", "U/e"), false},
+		{some.Entities("U/a U/b U/c", "U/b U/d", "U/c U/d", "U/d U/a"), true},
+		{some.Entities("U/a U/c U/b", "U/b", "U/c U/b", "U/d U/a U/b U/c"), false},
+		{some.Entities("U/a U/c U/b", "U/b U/d", "U/c U/b", "U/d U/c"), true},
+		{some.Entities("U/a", "U/b U/a", "U/c U/a", "U/d U/a"), false},
+		{some.Entities("U/a U/b", "U/b U/a", "U/c U/d", "U/d U/c"), true},
+		{some.Entities("U/a V/a", "V/a"), false}, // a name is its Type and its Id
+		{some.Entities("U/a V/a", "V/a U/b", "U/b"), false},
+		{some.Entities("U/a U/b", "V/a U/a", "U/b V/b", "V/b"), false},
+		{some.Entities("U/a V/a", "V/a U/a"), true},
+		{some.Entities("U/ab Ua/b"), false},
+		{some.Entities("U/ab Ua/b", "Ua/b"), false},
 	} {
 		wantRound(t, c.l, c.want)
 	}
@@ -249,16 +206,16 @@ func TestP5_1RoundNotThere(t *testing.T) {
 		l    []api.Entity
 		want bool
 	}{
-		{plain("U/a U/b"), false},
-		{plain("U/a U/b U/b U/c"), false},
-		{plain("U/a V/a"), false},
-		{plain("U/a U/A"), false},
-		{plain("U/a U/b", "U/c U/a U/b"), false},
-		{plain("U/a U/b", "U/c U/b"), false},
-		{plain("U/a U/b U/a"), true},
-		{plain("U/a U/x U/b", "U/b U/y U/a U/x"), true},
-		{plain("U/a U/x", "U/b U/x U/c", "U/c U/b"), true},
-		{plain("U/a U/x", "U/b U/x", "U/c U/y", "U/d U/d"), true},
+		{some.Entities("U/a U/b"), false},
+		{some.Entities("U/a U/b U/b U/c"), false},
+		{some.Entities("U/a V/a"), false},
+		{some.Entities("U/a U/A"), false},
+		{some.Entities("U/a U/b", "U/c U/a U/b"), false},
+		{some.Entities("U/a U/b", "U/c U/b"), false},
+		{some.Entities("U/a U/b U/a"), true},
+		{some.Entities("U/a U/x U/b", "U/b U/y U/a U/x"), true},
+		{some.Entities("U/a U/x", "U/b U/x U/c", "U/c U/b"), true},
+		{some.Entities("U/a U/x", "U/b U/x", "U/c U/y", "U/d U/d"), true},
 	} {
 		wantRound(t, c.l, c.want)
 	}
@@ -270,19 +227,19 @@ func TestP5_1RoundFirst(t *testing.T) {
 		l    []api.Entity
 		want bool
 	}{
-		{plain("U/a", "U/a U/a"), false},
-		{plain("U/a U/a", "U/a"), true},
-		{plain("U/a", "U/a"), false},
-		{plain("U/a U/b", "U/a U/a", "U/b"), false},
-		{plain("U/a U/b", "U/b", "U/b U/a"), false},
-		{plain("U/a U/b", "U/b U/a", "U/b"), true},
-		{plain("U/b", "U/a U/b", "U/b U/a"), false},
-		{plain("U/b U/a", "U/a U/b", "U/b"), true},
-		{plain("U/a", "U/a U/b", "U/b U/a"), false},
-		{plain("U/a", "U/b U/a", "U/a U/b", "U/a U/a", "U/b U/b"), false},
-		{plain("U/b", "U/b U/a", "U/a U/b", "U/a"), false},
-		{plain("U/a U/b", "U/b U/c", "U/c", "U/c U/a", "U/a U/a"), false},
-		{plain("U/a U/b", "U/b U/c", "U/c U/a", "U/c", "U/b", "U/a"), true},
+		{some.Entities("U/a", "U/a U/a"), false},
+		{some.Entities("U/a U/a", "U/a"), true},
+		{some.Entities("U/a", "U/a"), false},
+		{some.Entities("U/a U/b", "U/a U/a", "U/b"), false},
+		{some.Entities("U/a U/b", "U/b", "U/b U/a"), false},
+		{some.Entities("U/a U/b", "U/b U/a", "U/b"), true},
+		{some.Entities("U/b", "U/a U/b", "U/b U/a"), false},
+		{some.Entities("U/b U/a", "U/a U/b", "U/b"), true},
+		{some.Entities("U/a", "U/a U/b", "U/b U/a"), false},
+		{some.Entities("U/a", "U/b U/a", "U/a U/b", "U/a U/a", "U/b U/b"), false},
+		{some.Entities("U/b", "U/b U/a", "U/a U/b", "U/a"), false},
+		{some.Entities("U/a U/b", "U/b U/c", "U/c", "U/c U/a", "U/a U/a"), false},
+		{some.Entities("U/a U/b", "U/b U/c", "U/c U/a", "U/c", "U/b", "U/a"), true},
 	} {
 		wantRound(t, c.l, c.want)
 	}
@@ -291,9 +248,9 @@ func TestP5_1RoundFirst(t *testing.T) {
 // TestP5_1RoundAttrs has attributes that may not be: Round doesn't ask for them.
 func TestP5_1RoundAttrs(t *testing.T) {
 	for _, attrs := range []api.Value{{}, some.Num(1), some.Set(some.Ref("U", "a")), some.Record("a", some.Ref("U", "a")), some.Record("a")} {
-		wantRound(t, []api.Entity{with("U/a", "", attrs)}, false)
-		wantRound(t, []api.Entity{with("U/a", "U/b", attrs), with("U/b", "", attrs)}, false)
-		wantRound(t, []api.Entity{with("U/a", "U/b", attrs), with("U/b", "U/a", attrs)}, true)
+		wantRound(t, []api.Entity{some.With("U/a", "", attrs)}, false)
+		wantRound(t, []api.Entity{some.With("U/a", "U/b", attrs), some.With("U/b", "", attrs)}, false)
+		wantRound(t, []api.Entity{some.With("U/a", "U/b", attrs), some.With("U/b", "U/a", attrs)}, true)
 	}
 }
 
@@ -305,24 +262,11 @@ func TestP5_1RoundAllShort(t *testing.T) {
 			pieces = append(pieces, some.Entity(name, parents))
 		}
 	}
-	for _, l := range lists(3, pieces) {
+	for _, l := range some.Lists(3, pieces) {
 		if Round(l) != round(l) {
 			t.Fatalf("Round(%v): %t", l, !round(l))
 		}
 	}
-}
-
-// lists are all lists of up to n of the pieces.
-func lists(n int, pieces []api.Entity) [][]api.Entity {
-	all := [][]api.Entity{nil}
-	for at := 0; at < len(all); at++ {
-		for _, piece := range pieces {
-			if l := all[at]; len(l) < n {
-				all = append(all, append(slices.Clone(l), piece))
-			}
-		}
-	}
-	return all
 }
 
 // chance are up to ten entities, some of one name, with parents some of which aren't there.
@@ -359,18 +303,18 @@ func TestP5_1RoundChance(t *testing.T) {
 // TestP5_1RoundLong has long ways, and many: more entities than Canon takes.
 func TestP5_1RoundLong(t *testing.T) {
 	for _, n := range []int{api.MaxItems, api.MaxItems + 1, 1 << 15} {
-		wantRound(t, line(n, ""), false)
-		wantRound(t, line(n, "V/a"), false)
-		wantRound(t, line(n, "U/0"), true)
-		l := line(n, fmt.Sprintf("U/%d", n-2))
+		wantRound(t, some.Line(n, ""), false)
+		wantRound(t, some.Line(n, "V/a"), false)
+		wantRound(t, some.Line(n, "U/0"), true)
+		l := some.Line(n, fmt.Sprintf("U/%d", n-2))
 		wantRound(t, l, true)
 		slices.Reverse(l)
 		wantRound(t, l, true)
 	}
-	if n := 1 << 17; Round(line(n, "")) || !Round(line(n, "U/0")) {
+	if n := 1 << 17; Round(some.Line(n, "")) || !Round(some.Line(n, "U/0")) {
 		t.Error("a line of 2^17")
 	}
-	l := ladder(2000)
+	l := some.Ladder(2000)
 	wantRound(t, l, false)
 	l[len(l)-1].Parents = some.Uids("V/1000")
 	wantRound(t, l, true)
@@ -380,22 +324,22 @@ func TestP5_2Canon(t *testing.T) {
 	for _, c := range []struct{ l, want []api.Entity }{
 		{nil, nil},
 		{[]api.Entity{}, nil},
-		{plain("U/a"), plain("U/a")},
+		{some.Entities("U/a"), some.Entities("U/a")},
 		{[]api.Entity{{Attrs: some.Record("")}}, []api.Entity{{Attrs: some.Record("")}}}, // a name may be any
 		{[]api.Entity{{Uid: api.Uid{Type: "1 \n", Id: "\xff/"}, Attrs: some.Record("")}}, []api.Entity{{Uid: api.Uid{Type: "1 \n", Id: "\xff/"}, Attrs: some.Record("")}}},
-		{plain("U/a U/b", "U/b"), plain("U/a U/b", "U/b")},
-		{plain("U/b", "U/a U/b"), plain("U/a U/b", "U/b")},
-		{plain("U/b U/a", "U/a"), plain("U/a", "U/b U/a")},
-		{plain("U/b", "U/a U/b U/b"), plain("U/a U/b", "U/b")},
-		{plain("V/a", "U/b", "U/a"), plain("U/a", "U/b", "V/a")},
-		{plain("U/c", "U/b", "U/a U/c U/b U/c U/b U/c"), plain("U/a U/b U/c", "U/b", "U/c")},
-		{plain("U/a V/a V/b U/c U/b", "V/b", "V/a", "U/b", "U/c"), plain("U/a U/b U/c V/a V/b", "U/b", "U/c", "V/a", "V/b")},
-		{plain("Ua/b U/z", "U/z", "U/ab Ua/b"), plain("U/ab Ua/b", "U/z", "Ua/b U/z")},
-		{plain("U/9", "U/10 U/9", "U/1 U/9 U/10"), plain("U/1 U/10 U/9", "U/10 U/9", "U/9")},
-		{plain("U/ab", "U/a", "U/b", "U/A", "U/"), plain("U/", "U/A", "U/a", "U/ab", "U/b")},
-		{plain("U/a", "V/a", "A/a V/a U/a"), plain("A/a U/a V/a", "U/a", "V/a")},
-		{plain("A::B/a", "A/a A::B/a", "A_/a A/a"), plain("A/a A::B/a", "A::B/a", "A_/a A/a")},
-		{plain("U/d", "U/b U/d", "U/c U/d", "U/a U/c U/b"), plain("U/a U/b U/c", "U/b U/d", "U/c U/d", "U/d")},
+		{some.Entities("U/a U/b", "U/b"), some.Entities("U/a U/b", "U/b")},
+		{some.Entities("U/b", "U/a U/b"), some.Entities("U/a U/b", "U/b")},
+		{some.Entities("U/b U/a", "U/a"), some.Entities("U/a", "U/b U/a")},
+		{some.Entities("U/b", "U/a U/b U/b"), some.Entities("U/a U/b", "U/b")},
+		{some.Entities("V/a", "U/b", "U/a"), some.Entities("U/a", "U/b", "V/a")},
+		{some.Entities("U/c", "U/b", "U/a U/c U/b U/c U/b U/c"), some.Entities("U/a U/b U/c", "U/b", "U/c")},
+		{some.Entities("U/a V/a V/b U/c U/b", "V/b", "V/a", "U/b", "U/c"), some.Entities("U/a U/b U/c V/a V/b", "U/b", "U/c", "V/a", "V/b")},
+		{some.Entities("Ua/b U/z", "U/z", "U/ab Ua/b"), some.Entities("U/ab Ua/b", "U/z", "Ua/b U/z")},
+		{some.Entities("U/9", "U/10 U/9", "U/1 U/9 U/10"), some.Entities("U/1 U/10 U/9", "U/10 U/9", "U/9")},
+		{some.Entities("U/ab", "U/a", "U/b", "U/A", "U/"), some.Entities("U/", "U/A", "U/a", "U/ab", "U/b")},
+		{some.Entities("U/a", "V/a", "A/a V/a U/a"), some.Entities("A/a U/a V/a", "U/a", "V/a")},
+		{some.Entities("A::B/a", "A/a A::B/a", "A_/a A/a"), some.Entities("A/a A::B/a", "A::B/a", "A_/a A/a")},
+		{some.Entities("U/d", "U/b U/d", "U/c U/d", "U/a U/c U/b"), some.Entities("U/a U/b U/c", "U/b U/d", "U/c U/d", "U/d")},
 	} {
 		wantCanon(t, c.l, c.want)
 	}
@@ -416,25 +360,25 @@ func TestP5_2Attrs(t *testing.T) {
 		{some.Record("a", other), some.Record("a", some.Record("a", some.Num(1)))},
 		{some.Tower(49, some.Num(1)), some.Tower(49, some.Num(1))},
 	} {
-		wantCanon(t, []api.Entity{with("U/a", "", c.attrs)}, []api.Entity{with("U/a", "", c.want)})
-		wantCanon(t, []api.Entity{with("U/b", "U/a", some.Record("x", some.Truth(true))), with("U/a", "", c.attrs)},
-			[]api.Entity{with("U/a", "", c.want), with("U/b", "U/a", some.Record("x", some.Truth(true)))})
+		wantCanon(t, []api.Entity{some.With("U/a", "", c.attrs)}, []api.Entity{some.With("U/a", "", c.want)})
+		wantCanon(t, []api.Entity{some.With("U/b", "U/a", some.Record("x", some.Truth(true))), some.With("U/a", "", c.attrs)},
+			[]api.Entity{some.With("U/a", "", c.want), some.With("U/b", "U/a", some.Record("x", some.Truth(true)))})
 	}
 }
 
 // TestP5_2AttrsErrors has attributes that may not be: no records, and records of which value.Canon tells an error.
 func TestP5_2AttrsErrors(t *testing.T) {
 	for name, c := range faults() {
-		wantError(t, name, []api.Entity{with("U/a", "", c.attrs)}, c.want)
-		wantError(t, name+", behind a good one", []api.Entity{some.Entity("U/b", ""), with("U/a", "U/b", c.attrs)}, c.want)
-		wantError(t, name+", ahead of a good one", []api.Entity{with("U/a", "U/b", c.attrs), some.Entity("U/b", "")}, c.want)
+		wantError(t, name, []api.Entity{some.With("U/a", "", c.attrs)}, c.want)
+		wantError(t, name+", behind a good one", []api.Entity{some.Entity("U/b", ""), some.With("U/a", "U/b", c.attrs)}, c.want)
+		wantError(t, name+", ahead of a good one", []api.Entity{some.With("U/a", "U/b", c.attrs), some.Entity("U/b", "")}, c.want)
 	}
 	for kind := -2; kind <= 9; kind++ {
 		if kind != api.Record {
-			wantError(t, fmt.Sprint("kind ", kind), []api.Entity{with("U/a", "", api.Value{Kind: kind})}, api.ErrArg)
+			wantError(t, fmt.Sprint("kind ", kind), []api.Entity{some.With("U/a", "", api.Value{Kind: kind})}, api.ErrArg)
 		}
 	}
-	wantCanon(t, []api.Entity{with("U/a", "", deep(api.MaxDepth))}, []api.Entity{with("U/a", "", deep(api.MaxDepth))})
+	wantCanon(t, []api.Entity{some.With("U/a", "", deep(api.MaxDepth))}, []api.Entity{some.With("U/a", "", deep(api.MaxDepth))})
 }
 
 // deep is a record of that Depth.
@@ -490,7 +434,7 @@ func faults() map[string]fault {
 
 // TestP5_2Long has as many entities as may be, and one more: that is told ahead of all else.
 func TestP5_2Long(t *testing.T) {
-	l := plain("U/9999")
+	l := some.Entities("U/9999")
 	for i := range api.MaxItems - 1 {
 		l = append(l, some.Entity(fmt.Sprintf("U/%04d", i), fmt.Sprintf("U/%04d U/9999", (i+1)%(api.MaxItems-1))))
 	}
@@ -499,7 +443,7 @@ func TestP5_2Long(t *testing.T) {
 	wantError(t, "4097", append(slices.Clone(l), some.Entity("V/a", "")), api.ErrLong)
 	wantError(t, "4097, one twice", append(slices.Clone(l), l[0]), api.ErrLong)
 	wantError(t, "4097 of one name, with all faults", slices.Repeat([]api.Entity{{Parents: some.Uids("U/a U/x")}}, api.MaxItems+1), api.ErrLong)
-	wantError(t, "2^17", line(1<<17, "U/0"), api.ErrLong)
+	wantError(t, "2^17", some.Line(1<<17, "U/0"), api.ErrLong)
 	wantError(t, "4096, one twice", append(slices.Clone(l[1:]), l[1]), api.ErrTwice)
 	l[api.MaxItems-1].Parents = some.Uids("U/0000")
 	wantError(t, "4096 round", l, api.ErrCycle)
@@ -513,8 +457,8 @@ func TestP5_2Long(t *testing.T) {
 func TestP5_2ManyParents(t *testing.T) {
 	wantCanon(t, []api.Entity{
 		{Uid: some.Uid("U/c"), Parents: slices.Repeat(some.Uids("U/b U/a"), api.MaxItems), Attrs: some.Record("")}, some.Entity("U/a", ""), some.Entity("U/b", ""),
-	}, plain("U/a", "U/b", "U/c U/a U/b"))
-	l := line(api.MaxItems-1, "")
+	}, some.Entities("U/a", "U/b", "U/c U/a U/b"))
+	l := some.Line(api.MaxItems-1, "")
 	above := api.Entity{Uid: some.Uid("A/a"), Attrs: some.Record("")}
 	for _, e := range l {
 		above.Parents = append(above.Parents, e.Uid, e.Uid)
@@ -527,40 +471,40 @@ func TestP5_2ManyParents(t *testing.T) {
 
 func TestP5_2Twice(t *testing.T) {
 	for _, l := range [][]api.Entity{
-		plain("U/a", "U/a"),
-		plain("U/a", "U/b", "U/a"),
-		plain("U/b", "U/a", "U/c", "U/a", "U/d"),
-		plain("U/a", "U/a", "U/a"),
-		plain("U/a U/b", "U/b", "U/a U/b"),
+		some.Entities("U/a", "U/a"),
+		some.Entities("U/a", "U/b", "U/a"),
+		some.Entities("U/b", "U/a", "U/c", "U/a", "U/d"),
+		some.Entities("U/a", "U/a", "U/a"),
+		some.Entities("U/a U/b", "U/b", "U/a U/b"),
 		{{}, {}},
-		{with("U/a", "", some.Record("a", some.Num(1))), with("U/a", "", some.Record("b", some.Num(1)))},
-		plain("U/a U/x", "U/a"),            // ahead of a parent that isn't there
-		plain("U/x U/y", "U/a", "U/a"),     // of whatever entity
-		plain("U/a U/a", "U/a"),            // ahead of a round
-		plain("U/a", "U/a U/b", "U/b U/a"), // of whatever entity
-		{with("U/a", "", api.Value{}), with("U/b", "", some.Num(1)), with("U/b", "", some.Record("a a", some.Num(1), some.Num(1)))},
+		{some.With("U/a", "", some.Record("a", some.Num(1))), some.With("U/a", "", some.Record("b", some.Num(1)))},
+		some.Entities("U/a U/x", "U/a"),            // ahead of a parent that isn't there
+		some.Entities("U/x U/y", "U/a", "U/a"),     // of whatever entity
+		some.Entities("U/a U/a", "U/a"),            // ahead of a round
+		some.Entities("U/a", "U/a U/b", "U/b U/a"), // of whatever entity
+		{some.With("U/a", "", api.Value{}), some.With("U/b", "", some.Num(1)), some.With("U/b", "", some.Record("a a", some.Num(1), some.Num(1)))},
 	} {
 		wantError(t, fmt.Sprint(l), l, api.ErrTwice)
 	}
-	wantCanon(t, plain("V/a", "U/b", "U/a", "V/b"), plain("U/a", "U/b", "V/a", "V/b")) // a name is its Type and its Id
-	wantCanon(t, plain("U/ab", "Ua/b", "Uab/"), plain("U/ab", "Ua/b", "Uab/"))
-	wantCanon(t, plain("U/a", "U/A", "u/a"), plain("U/A", "U/a", "u/a"))
+	wantCanon(t, some.Entities("V/a", "U/b", "U/a", "V/b"), some.Entities("U/a", "U/b", "V/a", "V/b")) // a name is its Type and its Id
+	wantCanon(t, some.Entities("U/ab", "Ua/b", "Uab/"), some.Entities("U/ab", "Ua/b", "Uab/"))
+	wantCanon(t, some.Entities("U/a", "U/A", "u/a"), some.Entities("U/A", "U/a", "u/a"))
 }
 
 func TestP5_2Dangling(t *testing.T) {
 	for _, l := range [][]api.Entity{
-		plain("U/a U/b"),
-		plain("U/a U/a U/b"),
-		plain("U/a U/b U/c", "U/b"),
-		plain("U/a U/b U/c", "U/c"),
-		plain("U/a", "U/b", "U/c U/a U/b U/d"),
-		plain("U/a V/a"), // a name is its Type and its Id
-		plain("U/a V/b", "U/b", "V/a"),
-		plain("U/a U/B", "U/b"),
-		plain("U/ab Ua/b"),
-		plain("U/a U/", "U/b"),
-		plain("U/a U/a U/x"), // ahead of a round
-		plain("U/a U/b", "U/b U/a", "U/c U/x"),
+		some.Entities("U/a U/b"),
+		some.Entities("U/a U/a U/b"),
+		some.Entities("U/a U/b U/c", "U/b"),
+		some.Entities("U/a U/b U/c", "U/c"),
+		some.Entities("U/a", "U/b", "U/c U/a U/b U/d"),
+		some.Entities("U/a V/a"), // a name is its Type and its Id
+		some.Entities("U/a V/b", "U/b", "V/a"),
+		some.Entities("U/a U/B", "U/b"),
+		some.Entities("U/ab Ua/b"),
+		some.Entities("U/a U/", "U/b"),
+		some.Entities("U/a U/a U/x"), // ahead of a round
+		some.Entities("U/a U/b", "U/b U/a", "U/c U/x"),
 		{{Attrs: some.Record(""), Parents: some.Uids("U/a")}},
 		{{Attrs: some.Record("a", some.Ref("U", "b")), Parents: some.Uids("U/b")}},
 	} {
@@ -570,11 +514,11 @@ func TestP5_2Dangling(t *testing.T) {
 
 func TestP5_2Cycle(t *testing.T) {
 	for _, l := range [][]api.Entity{
-		plain("U/a U/a"),
-		plain("U/a U/b", "U/b U/a"), // as the document's example
-		plain("U/a", "U/b U/c U/a", "U/c U/d", "U/d U/a U/b"),
-		plain("U/a U/b", "U/b U/c", "U/c U/b"),
-		plain("V/a U/a", "U/a V/a"),
+		some.Entities("U/a U/a"),
+		some.Entities("U/a U/b", "U/b U/a"), // as the document's example
+		some.Entities("U/a", "U/b U/c U/a", "U/c U/d", "U/d U/a U/b"),
+		some.Entities("U/a U/b", "U/b U/c", "U/c U/b"),
+		some.Entities("V/a U/a", "U/a V/a"),
 		{{Parents: []api.Uid{{}}, Attrs: some.Record("")}},
 	} {
 		wantError(t, fmt.Sprint(l), l, api.ErrCycle)
@@ -585,13 +529,13 @@ func TestP5_2Cycle(t *testing.T) {
 func TestP5_2EntityByEntity(t *testing.T) {
 	for name, f := range faults() {
 		for other, g := range faults() {
-			wantError(t, name+" ahead of "+other, []api.Entity{with("U/a", "U/a", f.attrs), with("U/b", "U/b", g.attrs)}, f.want)
+			wantError(t, name+" ahead of "+other, []api.Entity{some.With("U/a", "U/a", f.attrs), some.With("U/b", "U/b", g.attrs)}, f.want)
 		}
-		wantError(t, name+", and a parent that isn't there", []api.Entity{with("U/a", "U/x", f.attrs)}, f.want)
-		wantError(t, name+" ahead of a parent that isn't there", []api.Entity{with("U/b", "", f.attrs), some.Entity("U/a", "U/x")}, f.want)
-		wantError(t, name+" behind a parent that isn't there", []api.Entity{some.Entity("U/b", "U/x"), with("U/a", "", f.attrs)}, api.ErrDangling)
-		wantError(t, name+", behind a round", []api.Entity{some.Entity("U/b", "U/b"), with("U/a", "U/b", f.attrs)}, f.want)
-		wantError(t, name+", round", []api.Entity{with("U/b", "U/a", f.attrs), with("U/a", "U/b", f.attrs)}, f.want)
+		wantError(t, name+", and a parent that isn't there", []api.Entity{some.With("U/a", "U/x", f.attrs)}, f.want)
+		wantError(t, name+" ahead of a parent that isn't there", []api.Entity{some.With("U/b", "", f.attrs), some.Entity("U/a", "U/x")}, f.want)
+		wantError(t, name+" behind a parent that isn't there", []api.Entity{some.Entity("U/b", "U/x"), some.With("U/a", "", f.attrs)}, api.ErrDangling)
+		wantError(t, name+", behind a round", []api.Entity{some.Entity("U/b", "U/b"), some.With("U/a", "U/b", f.attrs)}, f.want)
+		wantError(t, name+", round", []api.Entity{some.With("U/b", "U/a", f.attrs), some.With("U/a", "U/b", f.attrs)}, f.want)
 	}
 }
 
@@ -642,10 +586,10 @@ func TestP5_2AllShort(t *testing.T) {
 		for _, parents := range []string{"", "U/a", "U/b", "V/a", "U/b U/a U/b", "V/a U/a"} {
 			pieces = append(pieces, some.Entity(name, parents))
 		}
-		pieces = append(pieces, with(name, "", some.Record("a", some.Num(1))), with(name, "U/a", some.Num(1)), with(name, "", some.Record("a a", some.Num(1), some.Num(1))))
+		pieces = append(pieces, some.With(name, "", some.Record("a", some.Num(1))), some.With(name, "U/a", some.Num(1)), some.With(name, "", some.Record("a a", some.Num(1), some.Num(1))))
 	}
 	told := map[api.Errno]int{}
-	for _, l := range lists(3, pieces) {
+	for _, l := range some.Lists(3, pieces) {
 		want, wanted := canonical(l)
 		told[wanted]++
 		if c, e := Canon(l); e != wanted || !some.EqualAll(c, want) {
@@ -717,11 +661,11 @@ func TestP5_3AnyOrder(t *testing.T) {
 func TestP5_3AnyOrderOfOneFault(t *testing.T) {
 	r := rand.New(rand.NewSource(55))
 	bad := map[api.Errno][]api.Entity{
-		api.ErrDangling: plain("U/a U/b", "U/b U/c U/x", "U/c"),
-		api.ErrCycle:    plain("U/a U/b U/d", "U/b U/c", "U/c U/a", "U/d"),
-		api.ErrTwice:    plain("U/a U/b", "U/b U/c", "U/c", "U/b"),
-		api.ErrArg:      append(plain("U/a U/b", "U/b"), with("U/c", "U/a", some.Num(1))),
-		api.ErrDeep:     append(plain("U/a U/b", "U/b"), with("U/c", "U/a", deep(51))),
+		api.ErrDangling: some.Entities("U/a U/b", "U/b U/c U/x", "U/c"),
+		api.ErrCycle:    some.Entities("U/a U/b U/d", "U/b U/c", "U/c U/a", "U/d"),
+		api.ErrTwice:    some.Entities("U/a U/b", "U/b U/c", "U/c", "U/b"),
+		api.ErrArg:      append(some.Entities("U/a U/b", "U/b"), some.With("U/c", "U/a", some.Num(1))),
+		api.ErrDeep:     append(some.Entities("U/a U/b", "U/b"), some.With("U/c", "U/a", deep(51))),
 	}
 	for want, l := range bad {
 		for range 50 {
@@ -754,31 +698,6 @@ func TestRulesUnchanged(t *testing.T) {
 	}
 }
 
-// spoil overwrites all that entities' lists hold, and what there is room for behind them.
-func spoil(l []api.Entity) {
-	for _, e := range l {
-		for i := range e.Parents[:cap(e.Parents)] {
-			e.Parents[:cap(e.Parents)][i] = api.Uid{Type: "spoilt", Id: "spoilt"}
-		}
-		spoilValue(e.Attrs)
-	}
-	for i := range l[:cap(l)] {
-		l[:cap(l)][i] = api.Entity{}
-	}
-}
-
-func spoilValue(v api.Value) {
-	for _, item := range v.Items {
-		spoilValue(item)
-	}
-	for i := range v.Items[:cap(v.Items)] {
-		v.Items[:cap(v.Items)][i] = some.Text("spoilt")
-	}
-	for i := range v.Names[:cap(v.Names)] {
-		v.Names[:cap(v.Names)][i] = "spoilt"
-	}
-}
-
 // TestRulesNewMemory holds that what is told stands apart from what was handed in, and one entity of it from the others.
 func TestRulesNewMemory(t *testing.T) {
 	r := rand.New(rand.NewSource(57))
@@ -787,19 +706,19 @@ func TestRulesNewMemory(t *testing.T) {
 		was := some.CloneAll(l)
 		c, _ := Canon(l)
 		want := some.CloneAll(c)
-		spoil(l)
+		some.SpoilAll(l)
 		if !some.EqualAll(c, want) {
 			t.Fatalf("%v is %v then", want, c)
 		}
 		l = some.CloneAll(was)
 		c, _ = Canon(l)
-		spoil(c)
+		some.SpoilAll(c)
 		if !some.EqualAll(l, was) {
 			t.Fatalf("%v is %v then", was, l)
 		}
 		c, _ = Canon(l)
 		for i := range c {
-			spoil(slices.Clone(c[i : i+1]))
+			some.SpoilAll(slices.Clone(c[i : i+1]))
 			if !some.EqualAll(c[i+1:], want[i+1:]) {
 				t.Fatalf("behind entity %d of %v is %v then", i, want, c)
 			}
@@ -823,7 +742,7 @@ func TestRulesShared(t *testing.T) {
 	}
 	for i := range c {
 		c[i].Parents = append(c[i].Parents, some.Uid("U/x"))
-		spoil(slices.Clone(c[i : i+1]))
+		some.SpoilAll(slices.Clone(c[i : i+1]))
 		if !some.EqualAll(c[i+1:], want[i+1:]) || !some.EqualAll(l, was) {
 			t.Errorf("entity %d: %v, %v", i, c, l)
 		}
@@ -840,7 +759,7 @@ func TestRulesSameAnswers(t *testing.T) {
 			wantCanon(t, l, want)
 		}
 	}
-	l := append(line(40, "U/39"), plain("V/a V/b", "V/b V/a V/x")...)
+	l := append(some.Line(40, "U/39"), some.Entities("V/a V/b", "V/b V/a V/x")...)
 	for range 200 {
 		wantRound(t, l, true)
 		wantError(t, "a list with several faults", l, api.ErrDangling)

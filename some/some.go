@@ -1,8 +1,9 @@
-// Package some makes values and entities, and holds them against each other, for the tests of all layers. No layer calls it.
+// Package some makes values and entities, holds them against each other, and spoils them, for the tests of all layers. No layer calls it.
 package some
 
 import (
 	"slices"
+	"strconv"
 	"strings"
 
 	"chamberlain/api"
@@ -63,6 +64,63 @@ func Entity(name, parents string) api.Entity {
 	return api.Entity{Uid: Uid(name), Parents: Uids(parents), Attrs: Record("")}
 }
 
+// With is an entity with attributes.
+func With(name, parents string, attrs api.Value) api.Entity {
+	e := Entity(name, parents)
+	e.Attrs = attrs
+	return e
+}
+
+// Entities are some without attributes, each one told as "name parent parent ..".
+func Entities(told ...string) []api.Entity {
+	var l []api.Entity
+	for _, one := range told {
+		name, parents, _ := strings.Cut(one, " ")
+		l = append(l, Entity(name, parents))
+	}
+	return l
+}
+
+// Line are n entities, each one below the next, and the last one below those that are told.
+func Line(n int, last string) []api.Entity {
+	var l []api.Entity
+	for i := range n {
+		parents := "U/" + strconv.Itoa(i+1)
+		if i == n-1 {
+			parents = last
+		}
+		l = append(l, Entity("U/"+strconv.Itoa(i), parents))
+	}
+	return l
+}
+
+// Ladder are two entities on each of n levels, each one below both of the next level: 2^n ways lead up.
+func Ladder(n int) []api.Entity {
+	var l []api.Entity
+	for i := range n {
+		next := strconv.Itoa(i + 1)
+		parents := "U/" + next + " V/" + next
+		if i == n-1 {
+			parents = ""
+		}
+		l = append(l, Entity("U/"+strconv.Itoa(i), parents), Entity("V/"+strconv.Itoa(i), parents))
+	}
+	return l
+}
+
+// Lists are all lists of up to n of the pieces.
+func Lists[T any](n int, pieces []T) [][]T {
+	all := [][]T{nil}
+	for at := 0; at < len(all); at++ {
+		for _, piece := range pieces {
+			if l := all[at]; len(l) < n {
+				all = append(all, append(slices.Clone(l), piece))
+			}
+		}
+	}
+	return all
+}
+
 // Clone is the same value in other memory, to the last field.
 func Clone(v api.Value) api.Value {
 	v.Names = slices.Clone(v.Names)
@@ -94,4 +152,36 @@ func EqualAll(a, b []api.Entity) bool {
 	return slices.EqualFunc(a, b, func(x, y api.Entity) bool {
 		return x.Uid == y.Uid && slices.Equal(x.Parents, y.Parents) && Equal(x.Attrs, y.Attrs)
 	})
+}
+
+// Spoil overwrites all that a value's lists hold, and what there is room for behind them.
+func Spoil(v api.Value) {
+	for _, item := range v.Items {
+		Spoil(item)
+	}
+	items, names := v.Items[:cap(v.Items)], v.Names[:cap(v.Names)]
+	for i := range items {
+		items[i] = Text("spoilt")
+	}
+	for i := range names {
+		names[i] = "spoilt"
+	}
+}
+
+// SpoilAll overwrites all that entities' lists hold, and what there is room for behind them.
+func SpoilAll(l []api.Entity) {
+	for _, e := range l {
+		SpoilUids(e.Parents)
+		Spoil(e.Attrs)
+	}
+	for i := range l[:cap(l)] {
+		l[:cap(l)][i] = api.Entity{}
+	}
+}
+
+// SpoilUids overwrites all that a list of names holds, and what there is room for behind it.
+func SpoilUids(l []api.Uid) {
+	for i := range l[:cap(l)] {
+		l[:cap(l)][i] = api.Uid{Type: "spoilt", Id: "spoilt"}
+	}
 }

@@ -37,20 +37,6 @@ func names(n int) []string {
 	return l
 }
 
-// spoil overwrites all that a value's lists hold, and what there is room for behind them.
-func spoil(v api.Value) {
-	for _, item := range v.Items {
-		spoil(item)
-	}
-	l, n := v.Items[:cap(v.Items)], v.Names[:cap(v.Names)]
-	for i := range l {
-		l[i] = some.Text("spoilt")
-	}
-	for i := range n {
-		n[i] = "spoilt"
-	}
-}
-
 // key is a row of bytes whose order is that of values, by the document's words: an oracle.
 func key(v api.Value) string {
 	k := numberKey(int64(v.Kind))
@@ -533,19 +519,19 @@ func TestP3_2Memory(t *testing.T) {
 			t.Fatalf("Canon of %v, %d: it is %v then", was, e, v)
 		}
 		told := some.Clone(c)
-		spoil(c)
+		some.Spoil(c)
 		if !reflect.DeepEqual(v, was) {
 			t.Fatalf("%v: it is %v once its Canon is changed", was, v)
 		}
 		c, _ = Canon(v)
-		spoil(v)
+		some.Spoil(v)
 		if !reflect.DeepEqual(c, told) {
 			t.Fatalf("Canon of %v is %v once it is changed itself; not %v", was, c, told)
 		}
 	}
 	shared := some.Set(some.Num(2), some.Num(1), some.Record("b a", some.Num(1), some.Num(2)))
 	c, _ := Canon(some.Record("a b c", shared, shared, some.Set(shared)))
-	spoil(c.Items[0])
+	some.Spoil(c.Items[0])
 	want := some.Set(some.Num(1), some.Num(2), some.Record("a b", some.Num(2), some.Num(1)))
 	if !some.Equal(c.Items[1], want) || !some.Equal(c.Items[2], some.Set(want)) {
 		t.Error("places of one answer share memory:", c)
