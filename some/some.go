@@ -1,4 +1,4 @@
-// Package some makes values and entities, holds them against each other, and spoils them, for the tests of all layers. No layer calls it.
+// Package some makes values, entities and expressions, holds them against each other, and spoils them, for the tests of all layers. No layer calls it.
 package some
 
 import (
@@ -108,6 +108,17 @@ func Ladder(n int) []api.Entity {
 	return l
 }
 
+// Lit is what a value is by itself.
+func Lit(v api.Value) api.Expr { return api.Expr{Op: api.Lit, V: v} }
+
+// Op is an expression of others.
+func Op(op int, kids ...api.Expr) api.Expr { return api.Expr{Op: op, Kids: kids} }
+
+// Named is an expression with a name, of others.
+func Named(op int, name string, kids ...api.Expr) api.Expr {
+	return api.Expr{Op: op, Name: name, Kids: kids}
+}
+
 // Lists are all lists of up to n of the pieces.
 func Lists[T any](n int, pieces []T) [][]T {
 	all := [][]T{nil}
@@ -154,6 +165,22 @@ func EqualAll(a, b []api.Entity) bool {
 	})
 }
 
+// EqualExpr tells whether two expressions are alike in all fields; nil and empty lists are.
+func EqualExpr(a, b api.Expr) bool {
+	return a.Op == b.Op && Equal(a.V, b.V) && a.Name == b.Name && slices.Equal(a.Names, b.Names) && slices.EqualFunc(a.Kids, b.Kids, EqualExpr)
+}
+
+// CloneExpr is the same expression in other memory, to the last field.
+func CloneExpr(e api.Expr) api.Expr {
+	e.V = Clone(e.V)
+	e.Names = slices.Clone(e.Names)
+	e.Kids = slices.Clone(e.Kids)
+	for i := range e.Kids {
+		e.Kids[i] = CloneExpr(e.Kids[i])
+	}
+	return e
+}
+
 // Spoil overwrites all that a value's lists hold, and what there is room for behind them.
 func Spoil(v api.Value) {
 	for _, item := range v.Items {
@@ -183,5 +210,20 @@ func SpoilAll(l []api.Entity) {
 func SpoilUids(l []api.Uid) {
 	for i := range l[:cap(l)] {
 		l[:cap(l)][i] = api.Uid{Type: "spoilt", Id: "spoilt"}
+	}
+}
+
+// SpoilExpr overwrites all that an expression's lists hold, and what there is room for behind them.
+func SpoilExpr(e api.Expr) {
+	for _, kid := range e.Kids {
+		SpoilExpr(kid)
+	}
+	Spoil(e.V)
+	kids, names := e.Kids[:cap(e.Kids)], e.Names[:cap(e.Names)]
+	for i := range kids {
+		kids[i] = Lit(Text("spoilt"))
+	}
+	for i := range names {
+		names[i] = "spoilt"
 	}
 }
