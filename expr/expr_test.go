@@ -315,6 +315,26 @@ func TestP8_1Names(t *testing.T) {
 	}
 }
 
+// TestP8_1NoMethods has parentheses behind names of attributes: the name stands, whatever is behind it, and the parenthesis can't.
+func TestP8_1NoMethods(t *testing.T) {
+	for _, name := range strings.Fields("o if then else true false in has is principal action resource context Contains containsall containsAnyx contain _ a1") {
+		for _, of := range []string{"1", "true", "principal", "?resource", `A::"b"`, `"a"`, "(1)", "[]", "{}", "1.o", `1["o"]`, "1.contains", "1.contains(2)", "!1", "1 + 2"} {
+			text := of + "." + name
+			wantForm(t, text+"(", len(text))
+			wantForm(t, text+"()", len(text))
+			wantForm(t, text+"(1)", len(text))
+			wantForm(t, text+" // a\n (b", len(text)+7)
+			wantError(t, text+"(1).contains(2)", api.ErrForm, len(text))
+			wantError(t, text+"((", api.ErrForm, len(text))
+			wantError(t, text+".contains()", api.ErrForm, len(text)+10)
+			words := wordsOf(t, "1 then "+text+"(1)")
+			wantRead(t, words, 2, api.Expr{}, 0, api.ErrForm, 7+len(text))
+			wantRead(t, words[:len(words)-3], 2, api.Expr{}, 0, api.ErrForm, 7+len(text)) // the parenthesis is the last word
+			wantRead(t, words[:len(words)-4], 2, mustRead(t, text), len(words)-4, api.OK, 0)
+		}
+	}
+}
+
 func TestP8_1Form(t *testing.T) {
 	for _, c := range []struct {
 		text string
@@ -329,7 +349,7 @@ func TestP8_1Form(t *testing.T) {
 		{"principal.", 10}, {"principal. 1", 11}, {`principal."a"`, 10}, {"principal..a", 10}, {"principal.(a)", 10}, {"principal.?principal", 10}, {".a", 0}, {"principal::a", 12}, {"principal::", 11},
 		{"principal[", 10}, {"principal[]", 10}, {"principal[1]", 10}, {"principal[a]", 10}, {"principal[principal]", 10}, {`principal["a"`, 13}, {`principal["a")`, 13}, {`principal["a" + "b"]`, 14}, {`principal["a", "b"]`, 13}, {`1[("a")]`, 2},
 		{"principal.contains(", 19}, {"principal.contains()", 19}, {"principal.contains(1", 20}, {"principal.contains(1, 2)", 20}, {"principal.contains(1]", 20}, {"principal.contains(a)", 19}, {"principal.contains((1)", 22}, {"principal.containsAll()", 22}, {"principal.containsAny(in)", 22},
-		{"principal.a(1)", 10}, {"principal.a()", 10}, {"principal.a(", 10}, {"principal.a (b", 10}, {"principal.Contains(1)", 10}, {"principal.in(1)", 10}, {"principal.principal(1)", 10}, {"principal.a.b(1)", 12}, {"principal.contains(1).b(1)", 22}, {"[1, 2.a(3), b]", 6},
+		{"principal.a(1)", 11}, {"principal.a()", 11}, {"principal.a(", 11}, {"principal.a (b", 12}, {"principal.Contains(1)", 18}, {"principal.in(1)", 12}, {"principal.principal(1)", 19}, {"principal.a.b(1)", 13}, {"principal.contains(1).b(1)", 23}, {"[1, 2.a(3), b]", 7},
 		{"[", 1}, {"[,]", 1}, {"[1", 2}, {"[1,", 3}, {"[1,]", 3}, {"[1,,2]", 3}, {"[1 2]", 3}, {"[1;2]", 2}, {"[1)", 2}, {"[1}", 2}, {"[[1]", 4}, {"[1, a]", 4}, {"]", 0},
 		{"{", 1}, {"{,}", 1}, {"{a", 2}, {"{a}", 2}, {"{a:", 3}, {"{a:}", 3}, {"{a: 1", 5}, {"{a: 1,", 6}, {"{a: 1,}", 6}, {"{a: 1 b: 2}", 6}, {"{a 1}", 3}, {"{a == 1}", 3}, {"{1: 2}", 1}, {"{?principal: 1}", 1}, {"{(a): 1}", 1}, {"{a:: 1}", 2}, {"{a: 1]", 5},
 		{`{"a" 1}`, 5}, {`{"a", "b"}`, 4}, {"{a: b}", 4}, {"{a: 1, 2}", 7}, {"{a.b: 1}", 2}, {"{A::b: 1}", 2}, {"}", 0}, {":", 0}, {"::", 0}, {`::"a"`, 0}, {`::A::"a"`, 0}, {"@", 0}, {";", 0}, {",", 0},
@@ -432,7 +452,9 @@ func TestP8_1DeepAndForm(t *testing.T) {
 	wantError(t, strings.Repeat("(", 25), api.ErrDeep, 25) // it is begun, and too deep, ahead of its first word's being looked at
 	wantError(t, strings.Repeat("(", 25)+")", api.ErrDeep, 25)
 	wantError(t, strings.Repeat("!", 49), api.ErrDeep, 49)
-	wantError(t, "context.a("+strings.Repeat("(", 60), api.ErrForm, 8)
+	wantError(t, "context.a("+strings.Repeat("(", 60), api.ErrForm, 9)
+	wantError(t, strings.Repeat("(", 24)+"1.a(", api.ErrForm, 27) // an expression within the parentheses would be too deep, but they can't stand
+	wantError(t, strings.Repeat("(", 24)+"context.contains(1)", api.ErrDeep, 41)
 }
 
 // TestP8_1Side has much side by side, which isn't deep.

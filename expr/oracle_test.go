@@ -161,8 +161,8 @@ func (o *oracle) fits(it item, in within, at int) bool {
 		return o.word(at+1).Kind == lex.Name
 	case in.rule == "variable":
 		return !o.mark(at+1, "::")
-	case in.rule == "member" && it.text == "NAME":
-		return !o.mark(at+1, "(") || slices.Contains(methods, w.Text)
+	case in.rule == "member" && it.text == "(":
+		return slices.Contains(methods, o.word(at-1).Text)
 	case it.text == "SLOT":
 		return w.Text == "principal" || w.Text == "resource"
 	}
@@ -186,7 +186,11 @@ func (o *oracle) find(it item, in within, at int) []found {
 		}
 		return all
 	case "maybe":
-		return append(o.find(it.parts[0], in, at), found{end: at})
+		there := o.find(it.parts[0], in, at)
+		if in.rule == "member" && o.mark(at, "(") { // it tells at once that an expression in parentheses must be here
+			return there
+		}
+		return append(there, found{end: at})
 	case "often":
 		all := []found{{end: at}}
 		for i := 0; i < len(all); i++ {
