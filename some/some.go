@@ -1,4 +1,4 @@
-// Package some makes values, entities and expressions, holds them against each other, and spoils them, for the tests of all layers. No layer calls it.
+// Package some makes values, entities, expressions and policies, holds them against each other, and spoils them, for the tests of all layers. No layer calls it.
 package some
 
 import (
@@ -225,5 +225,36 @@ func SpoilExpr(e api.Expr) {
 	}
 	for i := range names {
 		names[i] = "spoilt"
+	}
+}
+
+// EqualPolicies tells whether two lists of policies are alike, one by one, in all fields; nil and empty lists are.
+func EqualPolicies(a, b []api.Policy) bool { return slices.EqualFunc(a, b, equalPolicy) }
+
+func equalPolicy(a, b api.Policy) bool {
+	return a.Id == b.Id && a.Permit == b.Permit &&
+		equalScope(a.Principal, b.Principal) && equalScope(a.Action, b.Action) && equalScope(a.Resource, b.Resource) &&
+		slices.EqualFunc(a.Conds, b.Conds, func(x, y api.Cond) bool { return x.When == y.When && EqualExpr(x.E, y.E) })
+}
+
+func equalScope(a, b api.Scope) bool {
+	return a.Kind == b.Kind && a.Type == b.Type && a.Uid == b.Uid && a.Slot == b.Slot && slices.Equal(a.List, b.List)
+}
+
+// SpoilPolicies overwrites all that policies' lists hold, and what there is room for behind them.
+func SpoilPolicies(l []api.Policy) {
+	for _, p := range l {
+		SpoilUids(p.Principal.List)
+		SpoilUids(p.Action.List)
+		SpoilUids(p.Resource.List)
+		for _, c := range p.Conds {
+			SpoilExpr(c.E)
+		}
+		for i := range p.Conds[:cap(p.Conds)] {
+			p.Conds[:cap(p.Conds)][i] = api.Cond{E: Lit(Text("spoilt"))}
+		}
+	}
+	for i := range l[:cap(l)] {
+		l[:cap(l)][i] = api.Policy{Id: "spoilt"}
 	}
 }
