@@ -196,73 +196,8 @@ func actionsOf(ids []string, in [][]string) api.Schema {
 	return s
 }
 
-// source makes schemas, the same ones each time.
-type source struct{ x uint64 }
-
-func (s *source) below(n int) int {
-	s.x ^= s.x << 13
-	s.x ^= s.x >> 7
-	s.x ^= s.x << 17
-	return int(s.x >> 33 % uint64(n))
-}
-
-// pick are some of the names, in any order, now and then one several times.
-func (s *source) pick(names []string) []string {
-	var l []string
-	for range s.below(3) {
-		if len(names) > 0 {
-			l = append(l, names[s.below(len(names))])
-		}
-	}
-	return l
-}
-
-// made is a type that may be an attribute's, nested up to so deep, of the types of these names.
-func (s *source) made(levels int, names []string) api.Type {
-	switch kind := api.TBool + s.below(6); {
-	case kind == api.TRef && len(names) > 0:
-		return some.TRef(names[s.below(len(names))])
-	case kind == api.TSet && levels > 1:
-		return some.TSet(s.made(levels-1, names))
-	case kind == api.TRecord:
-		return api.Type{Kind: kind, Attrs: s.row(levels-1, names)}
-	default:
-		return some.Type(api.TBool + kind%3)
-	}
-}
-
-// row is a row of attributes that may be, nested up to so deep.
-func (s *source) row(levels int, names []string) []api.Attr {
-	var l []api.Attr
-	for _, name := range []string{"", "a", "b"} {
-		if levels > 0 && s.below(2) == 0 {
-			l = append(l, api.Attr{Name: name, Type: s.made(levels, names), Optional: s.below(2) == 0})
-		}
-	}
-	return l
-}
-
-// schema is one that may be.
-func (s *source) schema() api.Schema {
-	names := []string{"A", "B", "A::B", "_", "a1"}[:s.below(6)]
-	ids := []string{"v", "", "w w", "Action", "A", "\xff"}[:s.below(7)]
-	var made api.Schema
-	for _, name := range names {
-		made.Types = append(made.Types, api.EntityType{Name: name, In: s.pick(names), Attrs: s.row(3, names)})
-	}
-	for i, id := range ids {
-		made.Actions = append(made.Actions, api.ActionType{Id: id, In: s.pick(ids[:i]), Principals: s.pick(names), Resources: s.pick(names), Context: s.row(3, names)})
-	}
-	s.mix(len(made.Types), func(i, j int) { made.Types[i], made.Types[j] = made.Types[j], made.Types[i] })
-	s.mix(len(made.Actions), func(i, j int) { made.Actions[i], made.Actions[j] = made.Actions[j], made.Actions[i] })
-	return made
-}
-
-func (s *source) mix(n int, swap func(i, j int)) {
-	for i := range n {
-		swap(i, s.below(i+1))
-	}
-}
+// source makes schemas, and spoils them, the same ones each time.
+type source struct{ some.Source }
 
 // names are all places of a schema where one stands: of types, actions, what they are in, and what they are for.
 func names(s api.Schema) []*string {

@@ -41,18 +41,7 @@ func wantWays(t *testing.T, s api.Schema, names []string, ofTypes, ofActions map
 	}
 }
 
-// plain is a schema with something of all that there may be, several times.
-func plain() api.Schema {
-	s := some.Schema("type User Group User", "type Group Group Org", "type Org", "type A::B::Doc_1 Org Org Group",
-		"action view all read >User >Group <A::B::Doc_1", "action read all", "action all", "action edit all view >User >User <A::B::Doc_1 <User <Org")
-	s.Types[0].Attrs = some.Attrs("a b? c", num, some.TRef("A::B::Doc_1"), some.TSet(some.TRef("User")))
-	s.Types[3].Attrs = some.Attrs("owner", some.TRecord("at by?", text, some.TRef("Org")))
-	s.Actions[0].Context = some.Attrs("a", truth)
-	s.Actions[3].Context = some.Attrs("a? b", some.TRef("Group"), some.TSet(some.TSet(text)))
-	return s
-}
-
-// types that may be, and of which there may be an attribute, in plain.
+// types that may be, and of which there may be an attribute, in some.PlainSchema.
 func attrTypes() []api.Type {
 	return []api.Type{
 		truth, num, text, some.TRef("User"), some.TRef("A::B::Doc_1"), some.TSet(truth), some.TSet(some.TRef("Org")), some.TRecord(""),
@@ -61,7 +50,7 @@ func attrTypes() []api.Type {
 	}
 }
 
-// faults are types that may not be, or of which there may be no attribute, in plain, each one with one fault.
+// faults are types that may not be, or of which there may be no attribute, in some.PlainSchema, each one with one fault.
 func faults() []api.Type {
 	return []api.Type{
 		some.Type(api.TNever), some.Type(api.TTrue), some.Type(api.TFalse), {Kind: api.TTrue, Name: "User"},
@@ -81,23 +70,23 @@ func around(one api.Type) []api.Type {
 	}
 }
 
-// withRow is the schema plain with a row of attributes at the one of its places.
+// withRow is some.PlainSchema with a row of attributes at the one of its places.
 func withRow(place int, row []api.Attr) api.Schema {
-	s := plain()
+	s := some.PlainSchema()
 	*rows(s)[place] = row
 	return s
 }
 
 func wantRow(t *testing.T, row []api.Attr, want api.Errno) {
 	t.Helper()
-	for place := range rows(plain()) {
+	for place := range rows(some.PlainSchema()) {
 		wantCheck(t, withRow(place, row), want)
 	}
 }
 
 func TestP12_1Check(t *testing.T) {
 	for _, s := range []api.Schema{
-		{}, {Types: []api.EntityType{}, Actions: []api.ActionType{}}, plain(),
+		{}, {Types: []api.EntityType{}, Actions: []api.ActionType{}}, some.PlainSchema(),
 		some.Schema("type A"), some.Schema("type A A"), some.Schema("type A B", "type B A"), some.Schema("type A A A A"), // types may go round
 		some.Schema("type a_1::B::_"), some.Schema("type Action::A"), some.Schema("type A::Action"), some.Schema("type action"), some.Schema("type Actions"), some.Schema("type if"),
 		some.Schema("action v"), some.Schema("action v w w", "action w"), some.Schema("action w", "action v w w"), some.Schema("action Action"),
@@ -134,9 +123,9 @@ func TestP12_1CheckNames(t *testing.T) {
 
 // TestP12_1CheckLists has names that aren't there, and some that are there elsewhere, at each place where a name stands.
 func TestP12_1CheckLists(t *testing.T) {
-	for place := range names(plain()) {
+	for place := range names(some.PlainSchema()) {
 		for _, other := range []string{"", "Nobody", "user", "USER", "User ", "A::B", "Action", "Action::view", "\xff", "view", "all", "Org", "User"} {
-			s := plain()
+			s := some.PlainSchema()
 			*names(s)[place] = other
 			wantCheck(t, s, checked(s))
 		}
@@ -226,9 +215,9 @@ func TestP12_1CheckCycleLast(t *testing.T) {
 	for _, round := range []api.Schema{some.Schema("action v v"), some.Schema("action v w", "action w v"), some.Schema("action u v", "action v w", "action w x v", "action x")} {
 		wantCheck(t, round, api.ErrCycle)
 		s := some.CloneSchema(round)
-		s.Types = plain().Types
+		s.Types = some.PlainSchema().Types
 		wantCheck(t, s, api.ErrCycle)
-		s.Actions = append(s.Actions, plain().Actions[1:3]...)
+		s.Actions = append(s.Actions, some.PlainSchema().Actions[1:3]...)
 		wantCheck(t, s, api.ErrCycle)
 		for _, fault := range []string{"type a b", "type Action", "action y z", "action y >z", "action y <z"} {
 			with, also := some.CloneSchema(s), some.Schema(fault)
@@ -252,10 +241,10 @@ func TestP12_1CheckChance(t *testing.T) {
 	s := &source{88172645463325252}
 	count := map[api.Errno]int{}
 	for range 30000 {
-		made := s.schema()
+		made := s.Schema()
 		wantCheck(t, made, api.OK)
 		made = some.CloneSchema(made) // one name's In may be another one's, in the same memory
-		for range s.below(3) {
+		for range s.Below(3) {
 			s.spoil(made)
 		}
 		want := checked(made)
@@ -275,29 +264,29 @@ func (s *source) spoil(made api.Schema) {
 	if len(all) == 0 {
 		return
 	}
-	switch s.below(4) {
+	switch s.Below(4) {
 	case 0:
-		*all[s.below(len(all))] = *all[s.below(len(all))]
+		*all[s.Below(len(all))] = *all[s.Below(len(all))]
 	case 1:
-		*all[s.below(len(all))] = []string{"", "Nobody", "Action", "A", "1"}[s.below(5)]
+		*all[s.Below(len(all))] = []string{"", "Nobody", "Action", "A", "1"}[s.Below(5)]
 	case 2:
 		if n := len(made.Actions); n > 0 {
-			a := &made.Actions[s.below(n)]
-			a.In = append(a.In, made.Actions[s.below(n)].Id)
+			a := &made.Actions[s.Below(n)]
+			a.In = append(a.In, made.Actions[s.Below(n)].Id)
 		}
 	case 3:
 		l := rows(made)
-		row := l[s.below(len(l))]
+		row := l[s.Below(len(l))]
 		if inner := nested(*row); len(inner) > 0 {
-			*inner[s.below(len(inner))] = faults()[s.below(len(faults()))]
+			*inner[s.Below(len(inner))] = faults()[s.Below(len(faults()))]
 			return
 		}
-		*row = some.Attrs("a b", num, some.TypeTower(46+s.below(6), some.Type(s.below(9))))
+		*row = some.Attrs("a b", num, some.TypeTower(46+s.Below(6), some.Type(s.Below(9))))
 	}
 }
 
 func TestP12_2Type(t *testing.T) {
-	s := plain()
+	s := some.PlainSchema()
 	s.Types = append(s.Types, api.EntityType{}, api.EntityType{Name: "Org", In: []string{"User"}}, api.EntityType{Name: "", In: []string{"Org"}}, api.EntityType{Name: "no path"})
 	s.Actions = append(s.Actions, api.ActionType{Id: "Role"})
 	for i, one := range s.Types {
@@ -316,7 +305,7 @@ func TestP12_2Type(t *testing.T) {
 	for _, name := range []string{"user", "Users", "A::B", "Action", "view", "all", "Role", "\xff", "no  path"} {
 		wantNoType(t, s, name)
 	}
-	wantNoType(t, plain(), "")
+	wantNoType(t, some.PlainSchema(), "")
 	wantNoType(t, api.Schema{}, "")
 }
 
@@ -328,7 +317,7 @@ func wantNoType(t *testing.T, s api.Schema, name string) {
 }
 
 func TestP12_2Action(t *testing.T) {
-	s := plain()
+	s := some.PlainSchema()
 	s.Actions = append(s.Actions, api.ActionType{}, api.ActionType{Id: "all", In: []string{"view"}}, api.ActionType{Id: "", Resources: []string{"Org"}}, api.ActionType{Id: "no path"})
 	s.Types = append(s.Types, api.EntityType{Name: "walk"})
 	for i, one := range s.Actions {
@@ -347,7 +336,7 @@ func TestP12_2Action(t *testing.T) {
 	for _, id := range []string{"View", "views", "User", "Action", "walk", "\xff", "no  path"} {
 		wantNoAction(t, s, id)
 	}
-	wantNoAction(t, plain(), "")
+	wantNoAction(t, some.PlainSchema(), "")
 	wantNoAction(t, api.Schema{}, "")
 }
 
@@ -372,7 +361,7 @@ func TestP12_2Envs(t *testing.T) {
 		{some.Schema("action w >A <B", "action w >B <A", "action w >A <B"), []Env{{"A", "w", "B"}, {"B", "w", "A"}, {"A", "w", "B"}}}, // also of what may not be
 		{some.Schema("action z >Z <Z", "action a all >A <A", "action all >Z"), []Env{{"Z", "z", "Z"}, {"A", "a", "A"}}},
 		{api.Schema{Actions: []api.ActionType{{Principals: []string{""}, Resources: []string{"", "\xff"}}}}, []Env{{}, {"", "", "\xff"}}},
-		{plain(), []Env{{"User", "view", "A::B::Doc_1"}, {"Group", "view", "A::B::Doc_1"}, {"User", "edit", "A::B::Doc_1"}, {"User", "edit", "User"}, {"User", "edit", "Org"}, {"User", "edit", "A::B::Doc_1"}, {"User", "edit", "User"}, {"User", "edit", "Org"}}},
+		{some.PlainSchema(), []Env{{"User", "view", "A::B::Doc_1"}, {"Group", "view", "A::B::Doc_1"}, {"User", "edit", "A::B::Doc_1"}, {"User", "edit", "User"}, {"User", "edit", "Org"}, {"User", "edit", "A::B::Doc_1"}, {"User", "edit", "User"}, {"User", "edit", "Org"}}},
 	} {
 		if l := Envs(c.s); !slices.Equal(l, c.want) {
 			t.Errorf("Envs(%v): %v, not %v", c.s, l, c.want)
@@ -380,7 +369,7 @@ func TestP12_2Envs(t *testing.T) {
 	}
 	s := &source{2463534242}
 	for range 2000 {
-		made := s.schema()
+		made := s.Schema()
 		l := Envs(made)
 		for _, a := range made.Actions {
 			for i, principal := range a.Principals {
@@ -403,7 +392,7 @@ func TestP12_3Examples(t *testing.T) {
 	if !Above(s, "User", "Group") || !Above(s, "Group", "Group") || Above(s, "Group", "User") || Above(s, "User", "User") {
 		t.Error(s)
 	}
-	s = plain()
+	s = some.PlainSchema()
 	if !ActionIn(s, "edit", "read") || !ActionIn(s, "edit", "all") || !ActionIn(s, "all", "all") || ActionIn(s, "all", "edit") || ActionIn(s, "read", "view") {
 		t.Error(s)
 	}
@@ -449,8 +438,8 @@ func TestP12_3First(t *testing.T) {
 func TestP12_4Transitive(t *testing.T) {
 	s := &source{1181783497276652981}
 	for range 3000 {
-		made := s.schema()
-		if s.below(2) == 0 {
+		made := s.Schema()
+		if s.Below(2) == 0 {
 			made = some.CloneSchema(made)
 			s.spoil(made)
 		}
@@ -477,7 +466,7 @@ func TestP12_4Transitive(t *testing.T) {
 func TestRulesUnchanged(t *testing.T) {
 	s := &source{88172645463325252}
 	for range 2000 {
-		made := some.CloneSchema(s.schema())
+		made := some.CloneSchema(s.Schema())
 		s.spoil(made)
 		made.Types, made.Actions = append(made.Types, api.EntityType{Name: "last"}), append(made.Actions, api.ActionType{Id: "last"})
 		before := some.CloneSchema(made)
@@ -508,19 +497,19 @@ func told(s api.Schema) string {
 }
 
 func TestRulesNewMemory(t *testing.T) {
-	s := plain()
+	s := some.PlainSchema()
 	l, before := Envs(s), Envs(s)
 	for i := range l[:cap(l)] {
 		l[:cap(l)][i] = Env{"spoilt", "spoilt", "spoilt"}
 	}
-	if again := Envs(s); !slices.Equal(again, before) || !some.EqualSchema(s, plain()) {
+	if again := Envs(s); !slices.Equal(again, before) || !some.EqualSchema(s, some.PlainSchema()) {
 		t.Error(again, s)
 	}
 }
 
 // TestRulesNil has empty lists where others are nil.
 func TestRulesNil(t *testing.T) {
-	s := plain()
+	s := some.PlainSchema()
 	for i := range s.Types {
 		s.Types[i].In = append([]string{}, s.Types[i].In...)
 		s.Types[i].Attrs = append([]api.Attr{}, s.Types[i].Attrs...)
@@ -530,7 +519,7 @@ func TestRulesNil(t *testing.T) {
 		a.In, a.Principals, a.Resources = append([]string{}, a.In...), append([]string{}, a.Principals...), append([]string{}, a.Resources...)
 		a.Context = append([]api.Attr{}, a.Context...)
 	}
-	if told(s) != told(plain()) {
+	if told(s) != told(some.PlainSchema()) {
 		t.Error(told(s))
 	}
 }
@@ -608,7 +597,7 @@ func TestRulesMany(t *testing.T) {
 func TestWordsRow(t *testing.T) {
 	s := &source{2463534242}
 	for range 5000 {
-		made := s.schema()
+		made := s.Schema()
 		for _, row := range rows(made) {
 			if e := types.Check(api.Type{Kind: api.TRecord, Attrs: *row}); e != api.OK {
 				t.Fatal(*row, e)

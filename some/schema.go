@@ -36,6 +36,17 @@ func action(words []string) api.ActionType {
 	return a
 }
 
+// PlainSchema is one with something of all that there may be, several times.
+func PlainSchema() api.Schema {
+	s := Schema("type User Group User", "type Group Group Org", "type Org", "type A::B::Doc_1 Org Org Group",
+		"action view all read >User >Group <A::B::Doc_1", "action read all", "action all", "action edit all view >User >User <A::B::Doc_1 <User <Org")
+	s.Types[0].Attrs = Attrs("a b? c", Type(api.TInt), TRef("A::B::Doc_1"), TSet(TRef("User")))
+	s.Types[3].Attrs = Attrs("owner", TRecord("at by?", Type(api.TText), TRef("Org")))
+	s.Actions[0].Context = Attrs("a", Type(api.TBool))
+	s.Actions[3].Context = Attrs("a? b", TRef("Group"), TSet(TSet(Type(api.TText))))
+	return s
+}
+
 // EqualSchema tells whether two schemas are alike, one by one, in all fields; nil and empty lists are.
 func EqualSchema(a, b api.Schema) bool {
 	return slices.EqualFunc(a.Types, b.Types, EqualEntityType) && slices.EqualFunc(a.Actions, b.Actions, EqualActionType)

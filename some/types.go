@@ -44,6 +44,32 @@ func TypeTower(depth int, innermost api.Type) api.Type {
 	return t
 }
 
+// AllTypes are all types nested up to so deep: the leaves, and sets and records (of attributes of these names) of what is less deep.
+func AllTypes(levels int, leaves []api.Type, names ...string) []api.Type {
+	if levels == 0 {
+		return nil
+	}
+	less := AllTypes(levels-1, leaves, names...)
+	all := slices.Clone(leaves)
+	for _, t := range less {
+		all = append(all, TSet(t))
+	}
+	rows := [][]api.Attr{nil}
+	for _, name := range names {
+		for _, row := range slices.Clone(rows) {
+			for _, t := range less {
+				for _, optional := range []bool{false, true} {
+					rows = append(rows, append(slices.Clone(row), api.Attr{Name: name, Type: t, Optional: optional}))
+				}
+			}
+		}
+	}
+	for _, row := range rows {
+		all = append(all, api.Type{Kind: api.TRecord, Attrs: row})
+	}
+	return all
+}
+
 // EqualType tells whether two types are alike in all fields; nil and empty lists are.
 func EqualType(a, b api.Type) bool {
 	return a.Kind == b.Kind && a.Name == b.Name && slices.EqualFunc(a.Elem, b.Elem, EqualType) && slices.EqualFunc(a.Attrs, b.Attrs, EqualAttr)

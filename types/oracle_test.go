@@ -24,38 +24,12 @@ func told(t api.Type) string {
 	return s
 }
 
-// universe are all types nested up to so deep: the leaves, and sets and records (of attributes of these names) of what is less deep.
-func universe(levels int, leaves []api.Type, names ...string) []api.Type {
-	if levels == 0 {
-		return nil
-	}
-	less := universe(levels-1, leaves, names...)
-	all := slices.Clone(leaves)
-	for _, t := range less {
-		all = append(all, some.TSet(t))
-	}
-	rows := [][]api.Attr{nil}
-	for _, name := range names {
-		for _, row := range slices.Clone(rows) {
-			for _, t := range less {
-				for _, optional := range []bool{false, true} {
-					rows = append(rows, append(slices.Clone(row), api.Attr{Name: name, Type: t, Optional: optional}))
-				}
-			}
-		}
-	}
-	for _, row := range rows {
-		all = append(all, api.Type{Kind: api.TRecord, Attrs: row})
-	}
-	return all
-}
-
 // universes are types that may be, none of which are the same: with two attributes, and nested deeper.
 func universes() map[string][]api.Type {
 	truths := []api.Type{{}, some.Type(api.TTrue), some.Type(api.TFalse), some.Type(api.TBool)}
 	return map[string][]api.Type{
-		"wide": universe(2, append(slices.Clone(truths), some.Type(api.TInt), some.Type(api.TText), some.TRef(""), some.TRef("A"), some.TRef("A::B")), "a", "b"),
-		"deep": universe(4, append(slices.Clone(truths), some.TRef("A")), "a"),
+		"wide": some.AllTypes(2, append(slices.Clone(truths), some.Type(api.TInt), some.Type(api.TText), some.TRef(""), some.TRef("A"), some.TRef("A::B")), "a", "b"),
+		"deep": some.AllTypes(4, append(slices.Clone(truths), some.TRef("A")), "a"),
 	}
 }
 
@@ -162,35 +136,28 @@ func checked(t api.Type) api.Errno {
 }
 
 // source makes types, the same ones each time.
-type source struct{ x uint64 }
-
-func (s *source) below(n int) int {
-	s.x ^= s.x << 13
-	s.x ^= s.x >> 7
-	s.x ^= s.x << 17
-	return int(s.x >> 33 % uint64(n))
-}
+type source struct{ some.Source }
 
 // kind is one of few Kinds, from the lowest one that is wanted on; sets and records are many, if there are levels for them.
 func (s *source) kind(levels, lowest int) int {
-	if levels > 1 && s.below(2) == 0 {
-		return api.TSet + s.below(2)
+	if levels > 1 && s.Below(2) == 0 {
+		return api.TSet + s.Below(2)
 	}
-	return lowest + s.below(api.TSet-lowest)
+	return lowest + s.Below(api.TSet-lowest)
 }
 
 // made is a type that may be, nested up to so deep; of lowest and higher Kinds alone.
 func (s *source) made(levels, lowest int) api.Type {
 	switch kind := s.kind(levels, lowest); kind {
 	case api.TRef:
-		return some.TRef([]string{"A", "A::B", ""}[s.below(3)])
+		return some.TRef([]string{"A", "A::B", ""}[s.Below(3)])
 	case api.TSet:
 		return some.TSet(s.made(levels-1, lowest))
 	case api.TRecord:
 		t := some.Type(kind)
 		for _, name := range []string{"", "a", "ab", "b", "\xff"} {
-			if s.below(2) == 0 {
-				t.Attrs = append(t.Attrs, api.Attr{Name: name, Type: s.made(levels-1, lowest), Optional: s.below(2) == 0})
+			if s.Below(2) == 0 {
+				t.Attrs = append(t.Attrs, api.Attr{Name: name, Type: s.made(levels-1, lowest), Optional: s.Below(2) == 0})
 			}
 		}
 		return t
@@ -215,14 +182,14 @@ func places(t *api.Type) []*api.Type {
 func (s *source) widened(t api.Type) api.Type {
 	t = some.CloneType(t)
 	l := places(&t)
-	switch p := l[s.below(len(l))]; p.Kind {
+	switch p := l[s.Below(len(l))]; p.Kind {
 	case api.TNever:
 		*p = s.made(2, api.TNever)
 	case api.TTrue, api.TFalse:
 		*p = some.Type(api.TBool)
 	case api.TRecord:
 		if n := len(p.Attrs); n > 0 {
-			p.Attrs[s.below(n)].Optional = true
+			p.Attrs[s.Below(n)].Optional = true
 		}
 	}
 	return t
@@ -232,7 +199,7 @@ func (s *source) widened(t api.Type) api.Type {
 func (s *source) unlike(t api.Type) api.Type {
 	t = some.CloneType(t)
 	l := places(&t)
-	switch p := l[s.below(len(l))]; p.Kind {
+	switch p := l[s.Below(len(l))]; p.Kind {
 	case api.TInt:
 		*p = some.Type(api.TText)
 	case api.TRef:
@@ -250,7 +217,7 @@ func (s *source) unlike(t api.Type) api.Type {
 // unlikeAttrs have a name more, or less, or another one.
 func (s *source) unlikeAttrs(l []api.Attr) []api.Attr {
 	n := len(l)
-	more := s.below(3)
+	more := s.Below(3)
 	switch {
 	case n == 0 || more == 0:
 		return append(l, api.Attr{Name: "\xff\xff", Type: some.Type(api.TInt), Optional: true})
@@ -267,14 +234,14 @@ func (s *source) filled(t api.Type) api.Type {
 	t = some.CloneType(t)
 	for _, p := range places(&t) {
 		if p.Kind != api.TRef {
-			p.Name = string(rune('a' + s.below(26)))
+			p.Name = string(rune('a' + s.Below(26)))
 		}
 		if p.Kind != api.TSet {
-			for range s.below(3) {
+			for range s.Below(3) {
 				p.Elem = append(p.Elem, s.made(2, api.TNever))
 			}
 		}
-		if p.Kind != api.TRecord && s.below(2) == 0 {
+		if p.Kind != api.TRecord && s.Below(2) == 0 {
 			p.Attrs = some.Attrs("x y?", s.made(2, api.TNever), s.made(2, api.TNever))
 		}
 	}

@@ -189,20 +189,20 @@ func TestP11_1CheckChance(t *testing.T) {
 	for i := range 20000 {
 		one := s.filled(s.made(1+i%5, api.TNever))
 		wantCheck(t, one, api.OK)
-		for range s.below(3) {
+		for range s.Below(3) {
 			l := places(&one)
-			p := l[s.below(len(l))]
-			switch s.below(5) {
+			p := l[s.Below(len(l))]
+			switch s.Below(5) {
 			case 0:
-				p.Kind = s.below(11) - 1
+				p.Kind = s.Below(11) - 1
 			case 1:
 				p.Elem = append(p.Elem, s.made(2, api.TNever))
 			case 2:
 				p.Attrs = append(p.Attrs, some.Attrs("b", s.made(2, api.TNever))...)
 			case 3:
-				*p = faults[s.below(len(faults))]
+				*p = faults[s.Below(len(faults))]
 			case 4:
-				*p = some.TypeTower(45+s.below(8), *p)
+				*p = some.TypeTower(45+s.Below(8), *p)
 			}
 			one = some.CloneType(one) // faults' lists aren't to be changed
 		}
@@ -480,16 +480,16 @@ func TestP11_4Least(t *testing.T) {
 // narrowed is a type that is narrower at some places.
 func (s *source) narrowed(t api.Type) api.Type {
 	t = some.CloneType(t)
-	for range s.below(5) {
+	for range s.Below(5) {
 		l := places(&t)
-		p := l[s.below(len(l))]
+		p := l[s.Below(len(l))]
 		switch n := len(p.Attrs); {
-		case s.below(4) == 0:
+		case s.Below(4) == 0:
 			*p = never
 		case p.Kind == api.TBool:
-			*p = some.Type(api.TTrue + s.below(2))
+			*p = some.Type(api.TTrue + s.Below(2))
 		case n > 0:
-			p.Attrs[s.below(n)].Optional = false
+			p.Attrs[s.Below(n)].Optional = false
 		}
 	}
 	return t

@@ -106,14 +106,7 @@ func canonical(v api.Value) api.Value {
 }
 
 // source makes values, the same ones each time.
-type source struct{ x uint64 }
-
-func (s *source) below(n int) int {
-	s.x ^= s.x << 13
-	s.x ^= s.x >> 7
-	s.x ^= s.x << 17
-	return int(s.x >> 33 % uint64(n))
-}
+type source struct{ some.Source }
 
 // value is one of few, so that some are the same; a good one has no fault.
 func (s *source) value(levels int, good bool) api.Value {
@@ -122,24 +115,24 @@ func (s *source) value(levels int, good bool) api.Value {
 		kinds = kinds[:4]
 	}
 	few := []string{"", "a", "b", "ab", "a\x00", "\xff"}
-	v := all(kinds[s.below(len(kinds))], int64(s.below(5)-2), few[s.below(len(few))])
-	v.Bool = s.below(2) == 1
-	v.Uid.Id = few[s.below(len(few))]
-	if !good && s.below(12) == 0 {
-		v.Kind = []int{-1, 0, 7, 8}[s.below(4)]
+	v := all(kinds[s.Below(len(kinds))], int64(s.Below(5)-2), few[s.Below(len(few))])
+	v.Bool = s.Below(2) == 1
+	v.Uid.Id = few[s.Below(len(few))]
+	if !good && s.Below(12) == 0 {
+		v.Kind = []int{-1, 0, 7, 8}[s.Below(4)]
 	}
-	for range s.below(4) {
+	for range s.Below(4) {
 		if levels > 0 {
 			v.Items = append(v.Items, s.value(levels-1, good))
 		}
-		v.Names = append(v.Names, few[s.below(len(few))])
+		v.Names = append(v.Names, few[s.Below(len(few))])
 	}
-	if !good && s.below(3) > 0 && len(v.Names) > len(v.Items) { // often as many as items
+	if !good && s.Below(3) > 0 && len(v.Names) > len(v.Items) { // often as many as items
 		v.Names = v.Names[:len(v.Items)]
 	}
 	if good {
 		v.Names = few[:len(v.Items)]
-		if s.below(2) == 1 {
+		if s.Below(2) == 1 {
 			v.Names = slices.Clone(v.Names)
 			slices.Reverse(v.Names)
 		}
@@ -675,12 +668,12 @@ func (s *source) shuffled(v api.Value) api.Value {
 		v.Items[i] = s.shuffled(v.Items[i])
 	}
 	for range v.Items {
-		if i := s.below(len(v.Items)); v.Kind == api.Set {
+		if i := s.Below(len(v.Items)); v.Kind == api.Set {
 			v.Items = append(v.Items, s.shuffled(v.Items[i]))
 		}
 	}
 	for i := range v.Items {
-		j := s.below(i + 1)
+		j := s.Below(i + 1)
 		v.Items[i], v.Items[j] = v.Items[j], v.Items[i]
 		if v.Kind == api.Record {
 			v.Names[i], v.Names[j] = v.Names[j], v.Names[i]
