@@ -1,4 +1,4 @@
-// Package some makes values, entities, expressions, policies, types and schemas, holds them against each other, and spoils them, for the tests of all layers. No layer calls it.
+// Package some makes values, entities, expressions, policies, types, schemas and requests, holds them against each other, and spoils them, for the tests of all layers. No layer calls it.
 package some
 
 import (
