@@ -241,6 +241,19 @@ func equalScope(a, b api.Scope) bool {
 	return a.Kind == b.Kind && a.Type == b.Type && a.Uid == b.Uid && a.Slot == b.Slot && slices.Equal(a.List, b.List)
 }
 
+// ClonePolicies are the same policies in other memory, to the last field.
+func ClonePolicies(l []api.Policy) []api.Policy {
+	c := slices.Clone(l)
+	for i, p := range c {
+		c[i].Principal.List, c[i].Action.List, c[i].Resource.List = slices.Clone(p.Principal.List), slices.Clone(p.Action.List), slices.Clone(p.Resource.List)
+		c[i].Conds = slices.Clone(p.Conds)
+		for at, cond := range p.Conds {
+			c[i].Conds[at].E = CloneExpr(cond.E)
+		}
+	}
+	return c
+}
+
 // SpoilPolicies overwrites all that policies' lists hold, and what there is room for behind them.
 func SpoilPolicies(l []api.Policy) {
 	for _, p := range l {
